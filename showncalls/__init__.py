@@ -1,0 +1,1 @@
+"""What the log of a program gives away."""

@@ -1,0 +1,1 @@
+"""Words and lines, facts, programs."""

@@ -1,0 +1,59 @@
+"""Cells, as dicts from their names to their sizes, and their standings."""
+
+from showncalls.base.checks import ascends, is_integer, is_number, product_of
+from showncalls.base.words import LARGEST_SIZE, is_name, rows
+
+SMALLEST_SIZE = 2
+MOST_SHARED = 4
+MOST_STANDINGS = 16
+
+
+def is_size(value):
+    """Whether a value can be the size of a cell."""
+    return is_integer(value) and SMALLEST_SIZE <= value <= LARGEST_SIZE
+
+
+def is_cells(value):
+    """Whether a value can be the shared cells of a program."""
+    if not isinstance(value, dict) or len(value) > MOST_SHARED:
+        return False
+    if not all([is_name(name) and is_size(value[name]) for name in value]):
+        return False
+    return product_of(list(value.values())) <= MOST_STANDINGS
+
+
+def in_order(cells):
+    """A copy of a dict of cells, ascending by their names."""
+    return {name: cells[name] for name in sorted(cells)}
+
+
+def with_own(shared, own):
+    """A dict of shared cells and of own ones, given as pairs, ascending by their names."""
+    own_cells = dict(own)
+    return in_order({**shared, **own_cells})
+
+
+def sizes_of(cells):
+    """The tuple of the sizes of some cells, ascending by their names."""
+    return tuple([cells[name] for name in sorted(cells)])
+
+
+def standings_of(cells):
+    """The ascending tuple of all standings of some cells."""
+    sizes = sizes_of(cells)
+    return tuple(rows(sizes))
+
+
+def is_row(sizes, value):
+    """Whether a value is a tuple of numbers, each less than the size in its place."""
+    if not isinstance(value, tuple) or len(value) != len(sizes):
+        return False
+    return all([is_number(value[at], size) for at, size in enumerate(sizes)])
+
+
+def is_standings(cells, value):
+    """Whether a value is an ascending tuple of standings of some cells."""
+    sizes = sizes_of(cells)
+    if not isinstance(value, tuple) or not all([is_row(sizes, row) for row in value]):
+        return False
+    return ascends(value)

@@ -1,0 +1,24 @@
+"""Small checks of values that all other modules share."""
+
+
+def is_integer(value):
+    """Whether a value is an integer; True and False are none."""
+    return isinstance(value, int) and not isinstance(value, bool)
+
+
+def is_number(value, size):
+    """Whether a value is an integer from 0 on that is less than `size`."""
+    return is_integer(value) and 0 <= value < size
+
+
+def ascends(values):
+    """Whether each of some values, of one kind, is less than the next one."""
+    return all([values[at] < values[at + 1] for at in range(len(values) - 1)])
+
+
+def product_of(numbers):
+    """The product of some numbers, 1 if there are none."""
+    total = 1
+    for number in numbers:
+        total = total * number
+    return total
