@@ -198,6 +198,20 @@ class Operators(Case):
             self.same((~one).cells, {"a": 2, "b": 2})
             self.assertTrue(~~one == one)
 
+    def test_all_others_of_none_of_one_and_of_sixteen(self):
+        for cells in ({"a": 4, "b": 4}, {"a": 2, "b": 2, "c": 2, "d": 2}, {"a": 2, "b": 4, "c": 2}):
+            every = Fact.every(cells).standings
+            self.assertEqual(len(every), 16)
+            for standings in ((), every[:1], every[5:6], every[-1:], every, every[1:], every[::2]):
+                one = Fact(cells, standings)
+                self.same((~one).standings, tuple(row for row in every if row not in standings))
+                self.same([(~one).cells, one.cells, one.standings], [cells, cells, standings])
+
+    def test_all_others_without_cells(self):
+        for standings, others in (((), ((),)), (((),), ())):
+            one = Fact({}, standings)
+            self.same([(~one).standings, (~one).cells, one.standings, one.cells], [others, {}, standings, {}])
+
     def test_the_order_of_the_cells_does_not_matter(self):
         one, other = Fact(CELLS, ALL[:3]), Fact(BACKWARDS, ALL[2:])
         self.same([(one & other).standings, (one | other).standings, (one - other).standings], [ALL[2:3], ALL, ALL[:2]])

@@ -135,7 +135,8 @@ class Imports(Case):
 class Names(Case):
     def test_builtins(self):
         for path, node in nodes(ast.Name):
-            if hasattr(builtins, node.id):
+            # A test that runs examples may have given builtins a "_".
+            if hasattr(builtins, node.id) and node.id != "_":
                 self.assertIn(node.id, BUILTINS, (path, node.lineno))
                 self.assertIsInstance(node.ctx, ast.Load, (path, node.lineno))
         for path, node in nodes(ast.arg):
@@ -209,3 +210,114 @@ class Expressions(Case):
                     outer = around[id(node)]
                     asked = isinstance(outer, ast.Call) and getattr(outer.func, "id", None) in ("sorted", "len")
                     self.assertTrue(asked or isinstance(outer, (ast.Compare, ast.Assign, ast.BinOp)), (path, node.lineno))
+
+
+CHANGING = set("append clear extend insert pop remove reverse setdefault update add discard sort appendleft popleft".split())
+MAY_CHANGE = set("__init__ __enter__ __exit__ __call__ __iter__".split())
+
+
+class Operators(Case):
+    """L5 and L28: what operators, properties, __eq__, __str__ and __len__ run changes nothing and yields nothing."""
+
+    def setUp(self):
+        self.functions, self.methods, self.inits = {}, {}, {}
+        self.roots = []
+        for path, tree in trees():
+            for node in tree.body:
+                if isinstance(node, ast.FunctionDef):
+                    self.functions.setdefault(node.name, []).append(node)
+                elif isinstance(node, ast.ClassDef):
+                    self.inits[node.name] = [part for part in node.body if getattr(part, "name", "") == "__init__"]
+                    for part in node.body:
+                        if isinstance(part, ast.FunctionDef):
+                            self.methods.setdefault(part.name, []).append(part)
+                            special = part.name.startswith("__") and part.name not in MAY_CHANGE
+                            if special or "property" in [ast.unparse(one) for one in part.decorator_list]:
+                                self.roots.append(part)
+
+    def called_by(self, node):
+        """All functions and methods of the package that this one may call, by their names alone."""
+        for part in ast.walk(node):
+            if isinstance(part, ast.Call) and isinstance(part.func, ast.Name):
+                yield from self.functions.get(part.func.id, [])
+                yield from self.inits.get(part.func.id, [])
+            elif isinstance(part, ast.Call) and isinstance(part.func, ast.Attribute):
+                yield from self.methods.get(part.func.attr, [])
+
+    def reached(self):
+        found = list(self.roots)
+        for node in found:
+            found.extend(called for called in self.called_by(node) if called not in found)
+        return found
+
+    def test_what_is_reached(self):
+        names = {node.name for node in self.reached()}
+        self.assertLessEqual({"__invert__", "standings_of", "all_rows"}, names)
+
+    def test_nothing_yields(self):
+        for node in self.reached():
+            for part in ast.walk(node):
+                self.assertNotIsInstance(part, (ast.Yield, ast.YieldFrom, ast.Global, ast.Nonlocal), node.name)
+
+    def test_nothing_that_is_passed_is_called(self):
+        for node in self.reached():
+            passed = {part.arg for part in ast.walk(node.args) if isinstance(part, ast.arg)}
+            for part in ast.walk(node):
+                if isinstance(part, ast.Call) and isinstance(part.func, ast.Name):
+                    self.assertNotIn(part.func.id, passed - {"cls"}, node.name)
+
+    def test_nothing_is_changed_but_what_is_new(self):
+        for node in self.reached():
+            worth = assigned_in(node)
+            new_lists = {name for name, values in worth.items() if all(is_new_list(value) for value in values)}
+            new_objects = {name for name, values in worth.items()
+                           if all(isinstance(value, ast.Call) and ast.unparse(value.func) in self.inits for value in values)}
+            if node.name == "__init__":
+                new_objects.add("self")
+            for part in ast.walk(node):
+                where = (node.name, part.lineno) if hasattr(part, "lineno") else None
+                self.assertNotIsInstance(part, ast.Delete, where)
+                if isinstance(part, ast.AugAssign):
+                    self.assertTrue(isinstance(part.target, ast.Name) and isinstance(part.value, ast.Constant), where)
+                elif isinstance(part, ast.Attribute) and isinstance(part.ctx, ast.Store):
+                    self.assertIn(ast.unparse(part.value), new_objects, where)
+                elif isinstance(part, ast.Subscript) and isinstance(part.ctx, ast.Store):
+                    self.assertIn(ast.unparse(part.value), new_lists, where)
+                elif isinstance(part, ast.Call) and getattr(part.func, "attr", "") in CHANGING:
+                    self.assertIn(ast.unparse(part.func.value), new_lists, where)
+
+    def test_no_name_means_two_things(self):
+        attributes = {node.attr for path, node in nodes(ast.Attribute) if isinstance(node.ctx, ast.Store)}
+        self.assertEqual(attributes & set(self.methods), set())
+        self.assertEqual(set(self.functions) & set(self.methods), set())
+        for name, found in self.methods.items():
+            kinds = {tuple(ast.unparse(one) for one in node.decorator_list) for node in found}
+            self.assertEqual(len(kinds), 1, name)
+
+
+def assigned_in(node):
+    """A dict from the local names of a function to the list of what they are assigned, None where that is not told."""
+    found = {}
+    for part in ast.walk(node):
+        if isinstance(part, ast.Assign):
+            for target in part.targets:
+                if isinstance(target, ast.Name):
+                    found.setdefault(target.id, []).append(part.value)
+        if isinstance(part, (ast.For, ast.Assign)):
+            for target in [part.target] if isinstance(part, ast.For) else part.targets:
+                if isinstance(part, ast.For) or isinstance(target, ast.Tuple):
+                    for name in ast.walk(target):
+                        if isinstance(name, ast.Name):
+                            found.setdefault(name.id, []).append(None)
+        if isinstance(part, ast.arg):
+            found.setdefault(part.arg, []).append(None)
+    return found
+
+
+def is_new_list(value):
+    """Whether an expression makes a list, a dict or a set."""
+    if isinstance(value, (ast.List, ast.Dict, ast.Set, ast.ListComp, ast.DictComp, ast.SetComp)):
+        return True
+    if isinstance(value, ast.Call) and isinstance(value.func, ast.Name):
+        return value.func.id in ("list", "dict", "set", "sorted")
+    return isinstance(value, ast.Subscript) and isinstance(value.slice, ast.Slice)

@@ -1,7 +1,7 @@
 """Cells, as dicts from their names to their sizes, and their standings."""
 
-from showncalls.base.checks import ascends, is_integer, is_number, product_of
-from showncalls.base.words import LARGEST_SIZE, is_name, rows
+from showncalls.base.checks import all_rows, ascends, is_integer, is_number, product_of
+from showncalls.base.words import LARGEST_SIZE, is_name
 
 SMALLEST_SIZE = 2
 MOST_SHARED = 4
@@ -40,8 +40,8 @@ def sizes_of(cells):
 
 def standings_of(cells):
     """The ascending tuple of all standings of some cells."""
-    sizes = sizes_of(cells)
-    return tuple(rows(sizes))
+    # Not by the generator `rows`: operators need the standings, too, and nothing that they run may yield.
+    return tuple(all_rows(sizes_of(cells)))
 
 
 def is_row(sizes, value):

@@ -1,4 +1,4 @@
-"""Small checks of values that all other modules share."""
+"""Small checks and sums that all other modules share."""
 
 
 def is_integer(value):
@@ -22,3 +22,11 @@ def product_of(numbers):
     for number in numbers:
         total = total * number
     return total
+
+
+def all_rows(sizes):
+    """The list of all tuples of numbers less than these sizes, in ascending order."""
+    found = [()]
+    for size in sizes:
+        found = [row + (number,) for row in found for number in range(size)]
+    return found

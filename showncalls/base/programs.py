@@ -1,11 +1,11 @@
 """Procedures and programs."""
 
 from showncalls.base.cells import in_order, is_cells, is_size, standings_of, with_own
-from showncalls.base.checks import is_number
+from showncalls.base.checks import all_rows, is_number
 from showncalls.base.fitting import fit_together
 from showncalls.base.places import places_of
 from showncalls.base.statements import is_body, statements_of, with_new_names
-from showncalls.base.words import is_name, rows
+from showncalls.base.words import is_name
 from showncalls.errors import InvalidOperation, InvalidProgram, UnknownName
 
 MOST_OWN = 2
@@ -110,8 +110,7 @@ class Program:
         own_sizes = [1 for pair in self[name].own]
         if own_sizes and name != self.main:
             own_sizes[0] = self[name].own[0][1]
-        sizes = tuple(own_sizes)
-        owns = list(rows(sizes))
+        owns = all_rows(own_sizes)
         return tuple([(standing, own) for standing in standings_of(self._shared) for own in owns])
 
     def statement(self, name, place):

@@ -1,6 +1,6 @@
 """Names, the lines of a log, logs by their form, and rows of numbers."""
 
-from showncalls.base.checks import is_integer, is_number
+from showncalls.base.checks import all_rows, is_integer, is_number
 from showncalls.errors import InvalidLog, InvalidNumber
 
 MOST_LETTERS = 8
@@ -58,9 +58,7 @@ def rows(sizes):
     """A generator of all tuples of numbers less than these sizes, in ascending order."""
     if not _are_sizes(sizes):
         raise InvalidNumber(sizes)
-    found = [()]
-    for size in sizes:
-        found = [row + (number,) for row in found for number in range(size)]
+    found = all_rows(sizes)
     yield from found
 
 
