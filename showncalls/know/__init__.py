@@ -1,0 +1,1 @@
+"""What a log lets one know: silent moves, knowings, watchers, tables."""

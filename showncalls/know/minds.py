@@ -1,0 +1,128 @@
+"""How knowings follow from one another, on the codes of nows."""
+
+from showncalls.know.codes import bits_of, mask_of
+from showncalls.know.walks import Walks
+
+
+class Mind:
+    """What lines make of the knowings of a program.
+
+    A coded knowing is a pair (procedure, pairs), with a pair (code of a begin, mask of the codes of nows) for each of
+    its begins, ascending. A coded context is a pair (procedure, ascending tuple of the codes of begins).
+    """
+
+    def __init__(self, program):
+        self._program = program
+        self._walks = Walks(program)
+        # What has been worked out: logs and tables come to the same knowings again and again.
+        self._lines_at = {}
+        self._after = {}
+        self._contexts = {}
+        self._joined = {}
+
+    def coded(self, knowing):
+        """A knowing, coded."""
+        name, pairs = knowing
+        codes = self._walks.codes_of(name)
+        masks = {}
+        for begin, now in pairs:
+            code = codes.code_of((0,) + begin)
+            masks[code] = masks.get(code, 0) | 1 << codes.code_of(now)
+        return (name, tuple([(code, masks[code]) for code in sorted(masks)]))
+
+    def decoded(self, knowing):
+        """A coded knowing, as it is told."""
+        name, pairs = knowing
+        codes = self._walks.codes_of(name)
+        return (name, tuple([(codes.now_of(begin)[1:], codes.now_of(code)) for begin, mask in pairs
+                             for code in bits_of(mask)]))
+
+    def coded_begins(self, name, begins):
+        """The codes of some begins."""
+        codes = self._walks.codes_of(name)
+        return tuple([codes.code_of((0,) + begin) for begin in begins])
+
+    def decoded_begins(self, name, begins):
+        """Some begins by their codes."""
+        codes = self._walks.codes_of(name)
+        return tuple([codes.now_of(begin)[1:] for begin in begins])
+
+    def main_context(self):
+        """The coded context of main."""
+        name = self._program.main
+        return (name, self.coded_begins(name, self._program.begins(name)))
+
+    def first(self, context):
+        """The knowing in which each begin of a context is its own now."""
+        return (context[0], tuple([(begin, 1 << begin) for begin in context[1]]))
+
+    def after(self, knowing):
+        """A dict from all lines that can come next, ascending, to pairs as those of a knowing: of the knowing behind
+        a line that is said or asked, of those that are kept behind an enter, of the begins and the ends at a leave."""
+        if knowing not in self._after:
+            self._after[knowing] = self._found_after(knowing)
+        return self._after[knowing]
+
+    def context_given(self, kept):
+        """The coded context of the new call, if a knowing is kept."""
+        if kept not in self._contexts:
+            name, pairs = kept
+            calls = [self._walks.stop(name, code)[1] for begin, mask in pairs for code in bits_of(mask)]
+            self._contexts[kept] = (calls[0][0], tuple(sorted({begin for called, begin in calls})))
+        return self._contexts[kept]
+
+    def joined_back(self, kept, ends):
+        """The knowing joined of one that is kept and of the ends of the call that it has entered, by their codes."""
+        if (kept, ends) not in self._joined:
+            self._joined[kept, ends] = self._found_joined(kept, ends)
+        return self._joined[kept, ends]
+
+    def standings_in(self, name, pairs):
+        """The ascending tuple of the standings of all nows in the pairs of a knowing, or of ends."""
+        codes = self._walks.codes_of(name)
+        return tuple(sorted({codes.now_of(code)[1] for begin, mask in pairs for code in bits_of(mask)}))
+
+    def _found_joined(self, kept, ends):
+        name, pairs = kept
+        given = {begin: bits_of(mask) for begin, mask in ends}
+        found = []
+        for begin, mask in pairs:
+            behind = []
+            for call in bits_of(mask):
+                called, inner = self._walks.stop(name, call)[1]
+                behind.extend([self._walks.given_back(name, call, called, end) for end in given.get(inner, [])])
+            if behind:
+                found.append((begin, mask_of(behind)))
+        return (name, tuple(found))
+
+    def _found_after(self, knowing):
+        name, pairs = knowing
+        found = {}
+        for begin, mask in pairs:
+            lines = {}
+            for code in bits_of(mask):
+                at = self._lines_from(name, code)
+                for line in at:
+                    lines[line] = lines.get(line, 0) | at[line]
+            for line in lines:
+                found.setdefault(line, []).append((begin, lines[line]))
+        return {line: tuple(found[line]) for line in sorted(found)}
+
+    def _lines_from(self, name, code):
+        """A dict from all lines that can come next at a now to masks of codes, as of the pairs of `after`."""
+        if (name, code) not in self._lines_at:
+            found = {}
+            for reached in self._walks.costs_from((name, code, True)):
+                for line, behind in self._lines_written(name, reached):
+                    found[line] = found.get(line, 0) | 1 << behind
+            self._lines_at[name, code] = found
+        return self._lines_at[name, code]
+
+    def _lines_written(self, name, code):
+        """The list of pairs of a line and a code for all moves at a now that write a line."""
+        kind, found = self._walks.stop(name, code)
+        if kind == "leave":
+            return [(("leave", name), code)]
+        if kind == "move":
+            return [(line, behind) for line, behind in found if line is not None]
+        return [] if self._program[found[0]].quiet else [(("enter", found[0]), code)]

@@ -1,0 +1,132 @@
+"""Silent walks within a frame, on the codes of nows."""
+
+from heapq import heappop, heappush
+
+from showncalls.know.codes import Codes
+from showncalls.run.steps import Steps
+
+
+class Walks:
+    """The shortest silent walks of a program, as far as they are asked for.
+
+    A walk has a source, a triple (procedure, code of a now, whether the call is seen): if it is not, all its moves are
+    silent. A call that can be passed silently is walked through in one step, which has a walk of the call inside it.
+    """
+
+    def __init__(self, program):
+        self._program = program
+        self._steps = Steps(program)
+        self._codes = {name: Codes(program, name) for name in program.names}
+        # By pairs of a procedure and a code, and for `_behind` with what the call that is there ends with, too.
+        self._stops = {}
+        self._behind = {}
+        # By source: the least number of moves to each code that is reached, and the codes of the ends among these.
+        self._costs = {}
+        self._found_ends = {}
+        # By source: the least number of moves to each code that has been found so far.
+        self._bounds = {}
+        # By source: the walks, pairs of a source and a code, that go on behind a call which they have come to.
+        self._callers = {}
+        # By pairs of a source and a code: the parts of the walk, which are other walks and the indices of moves.
+        self._parts = {}
+        self._queue = []
+        self._pushed = 0
+
+    def codes_of(self, name):
+        """The codes of a procedure."""
+        return self._codes[name]
+
+    def parts(self):
+        """A dict from all walks that have been found to their parts."""
+        return self._parts
+
+    def stop(self, name, code):
+        """What comes next at a now: "leave" and None, "call" and a pair (procedure, code of the begin), or "move" and
+        a tuple of pairs (line or None, code) for all moves, in their order."""
+        if (name, code) not in self._stops:
+            self._stops[name, code] = self._stop_at(name, self._codes[name].now_of(code))
+        return self._stops[name, code]
+
+    def costs_from(self, source):
+        """A dict from the codes of all nows to which silent moves lead to the least number of these moves."""
+        self._set_out(source)
+        # Costs count from the source of their own walk. A new walk starts in the middle with low costs, which come
+        # first, before any walk that goes on behind it; so what comes out of the queue first costs least.
+        while self._queue:
+            self._settle(heappop(self._queue))
+        return self._costs[source]
+
+    def ends_from(self, source):
+        """The list of the codes of all ends of the body to which silent moves lead."""
+        self.costs_from(source)
+        return self._found_ends[source]
+
+    def given_back(self, name, call, called, end):
+        """The code of the now behind a call, if the procedure that is called ends with this code."""
+        if (name, call, end) not in self._behind:
+            now, last = self._codes[name].now_of(call), self._codes[called].now_of(end)
+            self._behind[name, call, end] = self._codes[name].code_of(self._steps.now_given_back(name, now, last[1:]))
+        return self._behind[name, call, end]
+
+    def _stop_at(self, name, now):
+        statement = self._program.statement(name, now[0])
+        if statement is None:
+            return ("leave", None)
+        if statement[0] == "call":
+            called = statement[1]
+            return ("call", (called, self._codes[called].code_of((0,) + self._steps.begin_given(name, now))))
+        found = self._steps.inner_moves(name, now)
+        return ("move", tuple([(line, self._codes[name].code_of(behind)) for line, behind in found]))
+
+    def _set_out(self, source):
+        if source not in self._costs:
+            self._costs[source] = {}
+            self._bounds[source] = {}
+            self._found_ends[source] = []
+            self._callers[source] = []
+            self._reach(source, source[1], 0, ())
+
+    def _reach(self, source, code, cost, parts):
+        bounds = self._bounds[source]
+        if code not in bounds or cost < bounds[code]:
+            bounds[code] = cost
+            # The second number decides between equal costs, so that nothing else is compared.
+            heappush(self._queue, (cost, self._pushed, source, code, parts))
+            self._pushed += 1
+
+    def _settle(self, entry):
+        cost, _, source, code, parts = entry
+        if code in self._costs[source]:
+            return
+        self._costs[source][code] = cost
+        self._parts[source, code] = parts
+        name, _, seen = source
+        kind, found = self.stop(name, code)
+        if kind == "leave":
+            self._end(source, code)
+        elif kind == "call":
+            called, begin = found
+            # A quiet procedure may be asked for as if it were not quiet; then its calls of itself are seen, too.
+            if not seen or self._program[called].quiet and called != name:
+                self._call(source, code, (called, begin, False))
+        else:
+            for index, (line, behind) in enumerate(found):
+                if line is None or not seen:
+                    self._reach(source, behind, cost + 1, ((source, code), index))
+
+    def _call(self, source, code, inner):
+        self._set_out(inner)
+        self._callers[inner].append((source, code))
+        for end in list(self._found_ends[inner]):
+            self._pass(source, code, inner, end)
+
+    def _end(self, source, code):
+        self._found_ends[source].append(code)
+        for outer, call in list(self._callers[source]):
+            self._pass(outer, call, source, code)
+
+    def _pass(self, source, call, inner, end):
+        """Go on behind a call that is passed silently: enter, walk to this end, leave."""
+        behind = self.given_back(source[0], call, inner[0], end)
+        cost = self._costs[source][call] + self._costs[inner][end] + 2
+        self._reach(source, behind, cost, ((source, call), 0, (inner, end), 0))

@@ -1,0 +1,1 @@
+"""What moves do, and runs."""

@@ -1,0 +1,1 @@
+"""Texts of programs and logs."""
