@@ -3,6 +3,10 @@
 import doctest
 
 from showncalls.base import facts, programs, words
+from showncalls.give import left, papers
+from showncalls.know import knowings, silent, tables, watchers
+from showncalls.run import runs
+from showncalls.text import texts
 from tests.helper import Case
 
 EXAMPLES = '''
@@ -34,18 +38,98 @@ STAGE_3 = '''
 [{'c': 2, 'n': 2}, 1, 2, 'program of 2 procedures, 2 shared cells', 4]
 '''
 
-STAGES = (("stage 1", STAGE_1, 2), ("stage 2", STAGE_2, 4), ("stage 3", STAGE_3, 2))
+STAGE_4 = r'''
+>>> write_program(OUTER).split("\n")[:6]
+['shared n 2', 'procedure main', 'own a 2', '  hide a', '  call p with a', '  set n by a to 0 1']
+>>> [read_program(write_program(MIRROR)) == MIRROR, write_log(LOG).split("\n"), read_log("enter main")]
+[True, ['enter main', 'enter p', 'say at 1', 'leave p'], (('enter', 'main'),)]
+'''
+
+STAGE_5 = '''
+>>> run = Run(OUTER, (0,), 1, 0, 0, 0)
+>>> [run.log, run.situation, run.is_shown, [line for line, behind in run.next_moves()], (run + 0).log[-1], str(run)]
+[(('enter', 'main'), ('enter', 'p'), ('say', 'one')), ((0,), (('main', 1, (1,)), ('p', 2, (1,)))), True, [('leave', 'p')], ('leave', 'p'), 'run of 4 moves, 3 lines']
+>>> moves(MIRROR, ((1,), (("main", 0, ()), ("p", 0, ()))))
+((None, ((1,), (('main', 0, ()), ('p', 1, ())))), (None, ((1,), (('main', 0, ()), ('p', 3, ())))))
+'''
+
+STAGE_6 = '''
+>>> LOST = Program({"x": 2}, Procedure("main", (("if", "x", 1, (("call", "q", None, None),), ()), ("say", "w", None))), Procedure("q", (("call", "q", None, None),), quiet=True))
+>>> [nows(LOST, "main", (0, (0,), ())), nows(LOST, "main", (0, (1,), ())), is_stuck(LOST, "main", (0, (1,), ())), passages(LOST, "q")]
+[((0, (0,), ()), (2, (0,), ())), ((0, (1,), ()), (1, (1,), ())), True, {((0,), ()): (), ((1,), ()): ()}]
+>>> TURNS = Program({"x": 2}, Procedure("main", (("call", "p", None, None), ("say", "at", "x"))), Procedure("p", (("either", (("call", "p", None, None), ("set", "x", ("x",), (1, 0))), ()),), quiet=True))
+>>> [passages(TURNS, "p"), nows(TURNS, "main", (0, (0,), ()))]
+[{((0,), ()): (((0,), ()), ((1,), ())), ((1,), ()): (((0,), ()), ((1,), ()))}, ((0, (0,), ()), (1, (0,), ()), (1, (1,), ()))]
+'''
+
+STAGE_7 = '''
+>>> start = first_knowing(OUTER, "main", OUTER.begins("main"))
+>>> [spoken(OUTER, start), entered(OUTER, start)["p"][1], possible(OUTER, start).standings]
+[{}, (((0,), (0,)), ((0,), (1,)), ((1,), (0,)), ((1,), (1,))), ((0,), (1,))]
+>>> inner = first_knowing(OUTER, "p", entered(OUTER, start)["p"][1])
+>>> one = spoken(OUTER, inner)[("say", "one")]
+>>> [one[1][0], ends(OUTER, one), len(ends(OUTER, inner))]
+[(((0,), (1,)), (2, (0,), (1,))), ((((0,), (1,)), ((0,), (1,))), (((1,), (1,)), ((1,), (1,)))), 2]
+>>> joined(OUTER, entered(OUTER, start)["p"][0], "p", ends(OUTER, one))
+('main', ((((0,), (0,)), (2, (0,), (1,))), (((1,), (0,)), (2, (1,), (1,)))))
+'''
+
+STAGE_8 = '''
+>>> watcher = Watcher(OUTER)
+>>> [watcher.lines(), watcher(("enter", "p")), watcher.lines(), watcher(("say", "one")), watcher(("leave", "p")), watcher(("say", "end"))]
+[(('enter', 'p'),), None, (('leave', 'p'), ('say', 'one')), None, None, None]
+>>> [watcher.can_stand.standings, watcher.answer(Fact.where({"n": 2}, {"n": 1})), watcher.run((1,)).log == watcher.log, watcher.back(many=4), len(watcher.can_stand)]
+[((1,),), 'surely', True, 1, 2]
+'''
+
+STAGE_9 = '''
+>>> table = Table(MIRROR)
+>>> [table.contexts, str(table), is_closed(MIRROR, table.as_dict()), table.bars(Fact.where({"x": 2}, {"x": 1}))]
+[(('main', (((0,), ()), ((1,), ()))), ('p', (((0,), ()), ((1,), ())))), 'table of 2 contexts, 12 knowings', True, False]
+'''
+
+STAGE_10 = '''
+>>> deep = Left(DEEP)
+>>> [[fact.standings for fact in deep.sets], deep.fewest, deep.numbers("x"), deep.length_for(Fact.where(DEEP.shared, {"x": 1}))]
+[[((0, 0), (0, 1)), ((1, 0), (1, 1)), ((2, 0), (2, 1)), ((3, 0),), ((3, 1),)], 1, ((0,), (1,)), 6]
+>>> [len(Left(HALF)), Left(OUTER).length_for(Fact.where({"n": 2}, {"n": 0})), Left(OUTER).log_for(Fact.where({"n": 2}, {"n": 1}))[2:]]
+[4, 4, (('say', 'one'), ('leave', 'p'), ('say', 'end'))]
+'''
+
+STAGE_11 = '''
+>>> [fact_paper(MIRROR, Fact.where({"x": 2}, {"x": 1})), fact_paper(MIRROR, Fact({"x": 2}))[0]]
+[('known', (('enter', 'main'), ('enter', 'p'), ('say', 'at', 1))), 'never']
+'''
+
+# Each with the number of its examples. What one stage has named, those behind it use, too.
+STAGES = (
+    ("stage 1", STAGE_1, 2),
+    ("stage 2", STAGE_2, 4),
+    ("stage 3", STAGE_3, 2),
+    ("stage 4", STAGE_4, 2),
+    ("stage 5", STAGE_5, 3),
+    ("stage 6", STAGE_6, 4),
+    ("stage 7", STAGE_7, 6),
+    ("stage 8", STAGE_8, 3),
+    ("stage 9", STAGE_9, 2),
+    ("stage 10", STAGE_10, 3),
+    ("stage 11", STAGE_11, 1),
+)
 
 
 class Examples(Case):
+    maxDiff = None
+
+
     def test_all(self):
         names = {}
-        for module in (words, facts, programs):
+        for module in (words, facts, programs, texts, runs, silent, knowings, watchers, tables, left, papers):
             names.update(vars(module))
         for name, text, many in STAGES:
             with self.subTest(name=name):
-                made = doctest.DocTestParser().get_doctest(EXAMPLES + text, dict(names), name, None, None)
+                made = doctest.DocTestParser().get_doctest(EXAMPLES + text, names, name, None, None)
                 told = []
-                result = doctest.DocTestRunner(verbose=False).run(made, out=told.append)
+                result = doctest.DocTestRunner(verbose=False).run(made, out=told.append, clear_globs=False)
                 self.assertEqual("".join(told), "")
                 self.assertEqual((result.failed, result.attempted), (0, 4 + many))
+                names.update(made.globs)

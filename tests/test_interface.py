@@ -4,13 +4,23 @@ import inspect
 
 from showncalls import errors
 from showncalls.base import facts, programs, words
+from showncalls.give import left, papers
+from showncalls.know import knowings, silent, tables, watchers
+from showncalls.run import runs
+from showncalls.text import texts
 from tests.helper import MIRROR, Case
 
-CLASS_METHODS = {facts.Fact: ("every", "where", "alike"), programs.Program: ("of",)}
+CLASS_METHODS = {
+    facts.Fact: ("every", "where", "alike"), programs.Program: ("of",), runs.Run: ("of",), watchers.Watcher: ("along",),
+}
 PROPERTIES = {
     facts.Fact: ("cells", "standings"),
     programs.Procedure: ("called", "body", "own", "quiet"),
     programs.Program: ("shared", "procedures", "names", "main", "words"),
+    runs.Run: ("program", "start", "choices", "log", "situations", "situation", "standing", "is_shown"),
+    watchers.Watcher: ("program", "log", "knowing", "can_stand"),
+    tables.Table: ("program", "contexts"),
+    left.Left: ("program", "sets", "end_sets", "fewest"),
 }
 METHODS = {
     facts.Fact: {
@@ -26,6 +36,23 @@ METHODS = {
         "renamed": ("names",), "__getitem__": None, "__contains__": None, "__len__": None, "__eq__": None,
         "__str__": None,
     },
+    runs.Run: {
+        "next_moves": (), "back": ("many",), "shown": (), "__add__": None, "__len__": None, "__eq__": None,
+        "__str__": None,
+    },
+    watchers.Watcher: {
+        "see": ("line",), "lines": (), "knows": ("fact",), "answer": ("fact",), "run": ("standing",), "back": ("many",),
+        "trial": (), "during": ("call",), "twin": (), "__call__": ("line",), "__len__": None, "__eq__": None,
+        "__str__": None,
+    },
+    tables.Table: {
+        "as_dict": (), "shortest_log": ("context", "knowing"), "log_length": ("context", "knowing"), "bars": ("fact",),
+        "__getitem__": None, "__contains__": None, "__len__": None, "__eq__": None, "__str__": None,
+    },
+    left.Left: {
+        "length_for": ("fact", "at_end"), "log_for": ("fact", "at_end"), "numbers": ("name",), "__contains__": None,
+        "__len__": None, "__eq__": None, "__str__": None,
+    },
 }
 NAMES = {
     errors: ("CallError", "InvalidFact", "InvalidProgram", "InvalidLog", "InvalidRun", "InvalidKnowing",
@@ -34,6 +61,14 @@ NAMES = {
     words: ("is_name", "is_line", "is_log", "open_calls", "rows"),
     facts: ("Fact",),
     programs: ("Procedure", "Program"),
+    texts: ("write_program", "write_log", "read_program", "read_log"),
+    runs: ("is_situation", "moves", "Run"),
+    silent: ("passages", "nows", "is_stuck"),
+    knowings: ("is_knowing", "first_knowing", "spoken", "entered", "ends", "joined", "possible", "final"),
+    watchers: ("is_log_of", "Watcher"),
+    tables: ("is_table", "is_closed", "Table"),
+    left: ("Left",),
+    papers: ("fact_paper", "is_fact_paper"),
 }
 
 
@@ -65,9 +100,26 @@ class Interface(Case):
             programs.Program: "(shared, *procedures)", programs.Program.of: "(shared, procedures)",
             words.is_name: "(value)", words.is_line: "(value)", words.is_log: "(value)",
             words.open_calls: "(log)", words.rows: "(sizes)",
+            texts.write_program: "(program)", texts.write_log: "(log)", texts.read_program: "(text)",
+            texts.read_log: "(text)", runs.is_situation: "(program, value)", runs.moves: "(program, situation)",
+            runs.Run: "(program, start, *choices)", runs.Run.of: "(program, start, choices)",
+            runs.Run.back: "(self, *, many=1)", silent.passages: "(program, name)", silent.nows: "(program, name, now)",
+            silent.is_stuck: "(program, name, now)", knowings.is_knowing: "(program, value)",
+            knowings.first_knowing: "(program, name, begins)", knowings.spoken: "(program, knowing)",
+            knowings.entered: "(program, knowing)", knowings.ends: "(program, knowing)",
+            knowings.joined: "(program, kept, name, given)", knowings.possible: "(program, knowing)",
+            knowings.final: "(program, knowing)", watchers.is_log_of: "(program, value)", watchers.Watcher: "(program)",
+            watchers.Watcher.along: "(program, log)", watchers.Watcher.back: "(self, *, many=1)",
+            tables.is_table: "(program, value)", tables.is_closed: "(program, value)",
+            tables.Table: "(program, *, limit=400)", left.Left: "(program)",
+            left.Left.length_for: "(self, fact, *, at_end=False)", left.Left.log_for: "(self, fact, *, at_end=False)",
+            papers.fact_paper: "(program, fact)", papers.is_fact_paper: "(program, fact, value)",
         }
         for called, text in due.items():
             self.assertEqual(str(inspect.signature(called)), text)
+
+    def test_constants(self):
+        self.same([runs.MAX_MOVES, tables.MAX_KNOWINGS], [1000, 400])
 
     def test_equal_calls_return_equal_results(self):
         for call in (MIRROR.begins, MIRROR.cells_of):

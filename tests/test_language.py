@@ -252,7 +252,7 @@ class Operators(Case):
 
     def test_what_is_reached(self):
         names = {node.name for node in self.reached()}
-        self.assertLessEqual({"__invert__", "standings_of", "all_rows"}, names)
+        self.assertLessEqual({"__invert__", "standings_of", "all_rows", "__add__", "inner_moves", "can_stand"}, names)
 
     def test_nothing_yields(self):
         for node in self.reached():

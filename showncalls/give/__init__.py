@@ -1,0 +1,1 @@
+"""What a program can give away, and papers that show it."""

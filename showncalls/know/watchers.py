@@ -1,0 +1,162 @@
+"""Watchers, which go along a log line by line."""
+
+from showncalls.base.checks import is_number
+from showncalls.base.facts import Fact
+from showncalls.base.shapes import check_fact, check_program
+from showncalls.base.words import is_line, is_log
+from showncalls.errors import InvalidLog, InvalidNumber, InvalidOperation, TooMany, Unseen
+from showncalls.know.minds import Mind
+from showncalls.know.positions import first_position, lines_at, next_position, standings_at
+from showncalls.know.trails import shortest_run
+from showncalls.run.runs import MAX_MOVES, Run
+
+
+def is_log_of(program, value):
+    """Whether a value is a log of a program."""
+    check_program(program)
+    if not is_log(value) or value[0] != ("enter", program.main):
+        return False
+    mind = Mind(program)
+    position = first_position(mind)
+    for line in value[1:]:
+        position = next_position(mind, position, line)
+        if position is None:
+            return False
+    return True
+
+
+class Watcher:
+    """What can be known at a log of a program. It has seen its first line."""
+
+    def __init__(self, program):
+        check_program(program)
+        self._program = program
+        self._mind = Mind(program)
+        self._seen = [("enter", program.main)]
+        # The positions behind all lines that have been seen.
+        self._positions = [first_position(self._mind)]
+
+    @classmethod
+    def along(cls, program, log):
+        """A watcher that has seen all lines of a log."""
+        watcher = cls(program)
+        if not is_log(log):
+            raise InvalidLog("this is no log by its form")
+        if log[0] != ("enter", program.main):
+            raise Unseen(log[0])
+        for line in log[1:]:
+            watcher.see(line)
+        return watcher
+
+    @property
+    def program(self):
+        """The program."""
+        return self._program
+
+    @property
+    def log(self):
+        """The tuple of the lines that it has seen."""
+        return tuple(self._seen)
+
+    @property
+    def knowing(self):
+        """The knowing at the log, or None if main has been left."""
+        knowing = self._positions[-1][0]
+        return None if knowing is None else self._mind.decoded(knowing)
+
+    @property
+    def can_stand(self):
+        """The fact with all standings that can stand."""
+        return Fact(self._program.shared, standings_at(self._mind, self._positions[-1]))
+
+    def see(self, line):
+        """See one more line."""
+        if not is_line(line):
+            raise InvalidLog("this is no line of a log")
+        position = next_position(self._mind, self._positions[-1], line)
+        if position is None:
+            raise Unseen(line)
+        self._seen.append(line)
+        self._positions.append(position)
+
+    def lines(self):
+        """The ascending tuple of all lines that it can see next."""
+        return lines_at(self._mind, self._positions[-1])
+
+    def knows(self, fact):
+        """Whether a fact is known."""
+        check_fact(self._program, fact)
+        return self.can_stand.is_within(fact)
+
+    def answer(self, fact):
+        """What is known of a fact: "surely", "never" or "open"."""
+        if self.knows(fact):
+            return "surely"
+        return "never" if len(self.can_stand & fact) == 0 else "open"
+
+    def run(self, standing):
+        """Any shown run with this log that ends with a standing."""
+        if standing not in self.can_stand:
+            raise InvalidOperation("this standing cannot stand")
+        found = shortest_run(self._program, self.log, standing)
+        if found is None:
+            raise TooMany(MAX_MOVES)
+        return Run.of(self._program, found[0], found[1])
+
+    def back(self, *, many=1):
+        """Forget so many last lines; how many it has seen then."""
+        if not is_number(many, len(self._seen)):
+            raise InvalidNumber(many)
+        left = len(self._seen) - many
+        del self._seen[left:]
+        del self._positions[left:]
+        return left
+
+    def trial(self):
+        """For a `with`: it gives the watcher itself, which behind the block is as before."""
+        return Trial(self)
+
+    def during(self, call):
+        """What a call of the watcher returns; afterwards the watcher is as before."""
+        with self.trial() as same:
+            return call(same)
+
+    def twin(self):
+        """An independent copy."""
+        made = Watcher(self._program)
+        # The mind only keeps what it has worked out.
+        made._mind = self._mind
+        made._seen = list(self._seen)
+        made._positions = list(self._positions)
+        return made
+
+    def __call__(self, line):
+        return self.see(line)
+
+    def __len__(self):
+        return len(self._seen)
+
+    def __eq__(self, other):
+        return isinstance(other, Watcher) and self._program == other._program and self._seen == other._seen
+
+    def __str__(self):
+        return f"watcher behind {len(self._seen)} lines"
+
+
+class Trial:
+    """A block behind which a watcher is as before."""
+
+    def __init__(self, watcher):
+        self._watcher = watcher
+        self._seen = []
+        self._positions = []
+
+    def __enter__(self):
+        self._seen = list(self._watcher._seen)
+        self._positions = list(self._watcher._positions)
+        return self._watcher
+
+    def __exit__(self, kind, value, trace):
+        watcher = self._watcher
+        watcher._seen = self._seen
+        watcher._positions = self._positions
