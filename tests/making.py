@@ -2,8 +2,9 @@
 
 import random
 
+from showncalls.base.facts import Fact
 from showncalls.base.programs import Procedure, Program
-from showncalls.errors import InvalidProgram
+from showncalls.errors import InvalidOperation, InvalidProgram
 
 
 class Maker:
@@ -84,6 +85,60 @@ class Maker:
         fitting = [cell for cell in sorted(self.cells) if own and self.cells[cell] == own[0][1]]
         passed = [self.chance.choice(fitting) if fitting and self.chance.random() < 0.6 else None for _ in range(2)]
         return ("call", name, *passed)
+
+
+def changed(chance, program):
+    """A program that differs from this one in some small thing, or in nothing."""
+    name = chance.choice(program.names)
+    old = program[name]
+    kind = chance.choice(["still", "quiet", "less", "word", "cell", "renamed", "same", "twice"])
+    try:
+        if kind == "still":
+            still = chance.choice([("either", (), ()), ("often", ()), ("either", (("either", (), ()),), ())])
+            at = chance.randint(0, len(old.body))
+            return program.with_procedure(Procedure(name, old.body[:at] + (still,) + old.body[at:], own=old.own, quiet=old.quiet))
+        if kind == "quiet":
+            return program.with_quiet(name, not old.quiet)
+        if kind in ("less", "twice"):
+            at = chance.randrange(len(old.body))
+            body = old.body[:at] + (old.body[at + 1:] if kind == "less" else old.body[at:at + 1] + old.body[at:])
+            return program.with_procedure(Procedure(name, body, own=old.own, quiet=old.quiet))
+        if kind == "word":
+            return without_word(program, chance.choice(program.words))
+        if kind == "cell":
+            return program.with_shared("zz", 2)
+        if kind == "renamed":
+            return program.renamed({name: "new"})
+    except (InvalidOperation, IndexError, ValueError):
+        # The result would have been none.
+        pass
+    return program
+
+
+def without_word(program, word):
+    """The program that does not say a word, and asks with it as if it were a hide."""
+    def less(body):
+        found = []
+        for statement in body:
+            if statement[:2] == ("say", word):
+                continue
+            if statement[:2] == ("ask", word):
+                statement = ("hide", statement[2])
+            inner = {"if": 3, "either": 1, "often": 1}.get(statement[0])
+            if inner:
+                statement = statement[:inner] + tuple(less(part) for part in statement[inner:])
+            found.append(statement)
+        return tuple(found)
+
+    return Program(program.shared, *[Procedure(one.called, less(one.body), own=one.own, quiet=one.quiet)
+                                     for one in program.procedures])
+
+
+def facts_of(program):
+    """All facts over the shared cells of a program."""
+    every = Fact.every(program.shared).standings
+    for bits in range(2 ** len(every)):
+        yield Fact(program.shared, tuple(row for at, row in enumerate(every) if bits >> at & 1))
 
 
 SAY = ("say", "w", None)

@@ -3,7 +3,8 @@
 import doctest
 
 from showncalls.base import facts, programs, words
-from showncalls.give import left, papers
+from showncalls.compare import alike, more
+from showncalls.give import counts, ends, left, papers
 from showncalls.know import knowings, silent, tables, watchers
 from showncalls.run import runs
 from showncalls.text import texts
@@ -101,6 +102,28 @@ STAGE_11 = '''
 [('known', (('enter', 'main'), ('enter', 'p'), ('say', 'at', 1))), 'never']
 '''
 
+STAGE_12 = '''
+>>> [is_settled(OUTER, Fact.where({"n": 2}, {"n": 1})), [fact.standings for fact in settled_classes(HALF)]]
+[True, [((0, 0),), ((0, 1),), ((1, 0),), ((1, 1),)]]
+'''
+
+STAGE_13 = '''
+>>> [[count_logs(MIRROR, many) for many in range(5)], count_known(MIRROR, Fact.where({"x": 2}, {"x": 1}), 4), list(logs(OUTER, 3))]
+[[0, 1, 1, 3, 5], 2, [(('enter', 'main'), ('enter', 'p'), ('leave', 'p')), (('enter', 'main'), ('enter', 'p'), ('say', 'one'))]]
+'''
+
+STAGE_14 = '''
+>>> STILL = MIRROR.with_procedure(Procedure("p", (("either", (("call", "p", None, None),), (("say", "at", "x"),)),)))
+>>> [are_alike(MIRROR, STILL), are_alike(MIRROR, OUTER), is_alike_paper(MIRROR, OUTER, ("apart", (("enter", "main"), ("enter", "p"), ("say", "one"))))]
+[True, False, True]
+'''
+
+STAGE_15 = '''
+>>> HUSH = HALF.with_procedure(Procedure("main", HALF["main"].body[:2], own=(("s", 2),)))
+>>> [gives_no_more(HUSH, HALF), gives_no_more(HALF, HUSH), gives_no_more(MIRROR, STILL)]
+[True, False, True]
+'''
+
 # Each with the number of its examples. What one stage has named, those behind it use, too.
 STAGES = (
     ("stage 1", STAGE_1, 2),
@@ -114,6 +137,10 @@ STAGES = (
     ("stage 9", STAGE_9, 2),
     ("stage 10", STAGE_10, 3),
     ("stage 11", STAGE_11, 1),
+    ("stage 12", STAGE_12, 1),
+    ("stage 13", STAGE_13, 1),
+    ("stage 14", STAGE_14, 2),
+    ("stage 15", STAGE_15, 2),
 )
 
 
@@ -123,7 +150,8 @@ class Examples(Case):
 
     def test_all(self):
         names = {}
-        for module in (words, facts, programs, texts, runs, silent, knowings, watchers, tables, left, papers):
+        for module in (words, facts, programs, texts, runs, silent, knowings, watchers, tables, left, papers, ends, counts,
+                       alike, more):
             names.update(vars(module))
         for name, text, many in STAGES:
             with self.subTest(name=name):

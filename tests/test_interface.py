@@ -4,7 +4,8 @@ import inspect
 
 from showncalls import errors
 from showncalls.base import facts, programs, words
-from showncalls.give import left, papers
+from showncalls.compare import alike, more
+from showncalls.give import counts, ends, left, papers
 from showncalls.know import knowings, silent, tables, watchers
 from showncalls.run import runs
 from showncalls.text import texts
@@ -69,6 +70,10 @@ NAMES = {
     tables: ("is_table", "is_closed", "Table"),
     left: ("Left",),
     papers: ("fact_paper", "is_fact_paper"),
+    ends: ("is_settled", "settled_paper", "is_settled_paper", "settled_classes"),
+    counts: ("count_logs", "count_known", "logs"),
+    alike: ("are_alike", "alike_paper", "is_alike_paper"),
+    more: ("gives_no_more", "more_paper", "is_more_paper"),
 }
 
 
@@ -114,12 +119,17 @@ class Interface(Case):
             tables.Table: "(program, *, limit=400)", left.Left: "(program)",
             left.Left.length_for: "(self, fact, *, at_end=False)", left.Left.log_for: "(self, fact, *, at_end=False)",
             papers.fact_paper: "(program, fact)", papers.is_fact_paper: "(program, fact, value)",
+            ends.is_settled: "(program, fact)", ends.settled_paper: "(program, fact)",
+            ends.is_settled_paper: "(program, fact, value)", ends.settled_classes: "(program)",
+            counts.count_logs: "(program, many)", counts.count_known: "(program, fact, many)", counts.logs: "(program, many)",
+            alike.are_alike: "(one, other)", alike.alike_paper: "(one, other)", alike.is_alike_paper: "(one, other, value)",
+            more.gives_no_more: "(one, other)", more.more_paper: "(one, other)", more.is_more_paper: "(one, other, value)",
         }
         for called, text in due.items():
             self.assertEqual(str(inspect.signature(called)), text)
 
     def test_constants(self):
-        self.same([runs.MAX_MOVES, tables.MAX_KNOWINGS], [1000, 400])
+        self.same([runs.MAX_MOVES, tables.MAX_KNOWINGS, counts.MAX_LINES], [1000, 400, 40])
 
     def test_equal_calls_return_equal_results(self):
         for call in (MIRROR.begins, MIRROR.cells_of):

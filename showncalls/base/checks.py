@@ -16,6 +16,16 @@ def ascends(values):
     return all([values[at] < values[at + 1] for at in range(len(values) - 1)])
 
 
+def has_all_of(numbers, fewer):
+    """Whether all items of a tuple are in another one."""
+    return all([part in numbers for part in fewer])
+
+
+def least_among(found):
+    """The list of those of some tuples in which no other one of them is whole."""
+    return [one for one in found if not any([other != one and has_all_of(one, other) for other in found])]
+
+
 def product_of(numbers):
     """The product of some numbers, 1 if there are none."""
     total = 1

@@ -67,6 +67,8 @@ class Program:
         self._procedures = procedures
         self._named = {procedure.called: procedure for procedure in procedures}
         self._places = {procedure.called: places_of(procedure.body) for procedure in procedures}
+        # What other modules have worked out about the program, which never changes, by what they call it.
+        self._kept = {}
 
     @classmethod
     def of(cls, shared, procedures):

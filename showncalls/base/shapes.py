@@ -46,8 +46,13 @@ def check_program(value):
 
 def check_fact(program, value):
     """Raise an error if this is no fact over the shared cells of a program."""
-    if not isinstance(value, Fact) or value.cells != program.shared:
+    if not is_fact_over(program, value):
         raise InvalidFact("this is no fact over the shared cells of the program")
+
+
+def is_fact_over(program, value):
+    """Whether a value is a fact over the shared cells of a program."""
+    return isinstance(value, Fact) and value.cells == program.shared
 
 
 def check_heard(program, name):

@@ -4,7 +4,7 @@ from showncalls.base.checks import ascends
 from showncalls.base.facts import Fact
 from showncalls.base.shapes import Shape, check_heard, check_program, is_call, is_heard
 from showncalls.errors import InvalidKnowing, InvalidOperation
-from showncalls.know.minds import Mind
+from showncalls.know.minds import mind_of
 
 
 def is_knowing(program, value):
@@ -31,7 +31,7 @@ def first_knowing(program, name, begins):
 def spoken(program, knowing):
     """A dict from all lines that can be said or asked next to the knowings behind them."""
     _check(program, knowing)
-    mind = Mind(program)
+    mind = mind_of(program)
     after = mind.after(mind.coded(knowing))
     return {line: mind.decoded((knowing[0], after[line])) for line in after if line[0] in ("ask", "say")}
 
@@ -39,7 +39,7 @@ def spoken(program, knowing):
 def entered(program, knowing):
     """A dict from the names of the procedures that can be entered next to pairs (kept, begins)."""
     _check(program, knowing)
-    mind = Mind(program)
+    mind = mind_of(program)
     after = mind.after(mind.coded(knowing))
     found = {}
     for line in after:
@@ -52,7 +52,7 @@ def entered(program, knowing):
 def ends(program, knowing):
     """The ascending tuple of the ends: pairs of a begin and a (standing, own) with which the call can be left."""
     _check(program, knowing)
-    mind = Mind(program)
+    mind = mind_of(program)
     return _ends(mind, mind.coded(knowing))
 
 
@@ -64,7 +64,7 @@ def joined(program, kept, name, given):
         raise InvalidKnowing("these are no ends of the procedure")
     if not all([is_call(program, kept[0], now[0], name) for begin, now in kept[1]]):
         raise InvalidOperation("a kept now is at no call of the procedure")
-    mind = Mind(program)
+    mind = mind_of(program)
     # An end is given by its now, at the end of the body.
     last = len(program[name])
     coded_ends = mind.coded((name, tuple([(begin, (last,) + end) for begin, end in given])))[1]
@@ -83,7 +83,7 @@ def possible(program, knowing):
 def final(program, knowing):
     """The fact with all standings that can end."""
     _check(program, knowing)
-    mind = Mind(program)
+    mind = mind_of(program)
     return Fact(program.shared, tuple(sorted({end[0] for begin, end in _ends(mind, mind.coded(knowing))})))
 
 

@@ -3,7 +3,22 @@
 from heapq import heappop, heappush
 
 from showncalls.errors import TooMany
+from showncalls.know.minds import mind_of
 from showncalls.know.spelling import spelled
+
+
+def least_of(program, limit):
+    """The least table of a program, which is made once: an error if it has more knowings than the limit."""
+    kept = program._kept
+    if "least" in kept and len(kept["least"].items_found()) > limit or kept.get("more than", 0) >= limit:
+        raise TooMany(limit)
+    if "least" not in kept:
+        try:
+            kept["least"] = Least(mind_of(program), limit)
+        except TooMany:
+            kept["more than"] = limit
+            raise
+    return kept["least"]
 
 
 class Least:

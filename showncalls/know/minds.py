@@ -1,7 +1,14 @@
 """How knowings follow from one another, on the codes of nows."""
 
 from showncalls.know.codes import bits_of, mask_of
-from showncalls.know.walks import Walks
+from showncalls.know.walks import walks_of
+
+
+def mind_of(program):
+    """The mind of a program, which is made once."""
+    if "mind" not in program._kept:
+        program._kept["mind"] = Mind(program)
+    return program._kept["mind"]
 
 
 class Mind:
@@ -13,7 +20,7 @@ class Mind:
 
     def __init__(self, program):
         self._program = program
-        self._walks = Walks(program)
+        self._walks = walks_of(program)
         # What has been worked out: logs and tables come to the same knowings again and again.
         self._lines_at = {}
         self._after = {}
@@ -37,10 +44,11 @@ class Mind:
         return (name, tuple([(codes.now_of(begin)[1:], codes.now_of(code)) for begin, mask in pairs
                              for code in bits_of(mask)]))
 
-    def coded_begins(self, name, begins):
-        """The codes of some begins."""
+    def coded_context(self, context):
+        """A context, coded."""
+        name, begins = context
         codes = self._walks.codes_of(name)
-        return tuple([codes.code_of((0,) + begin) for begin in begins])
+        return (name, tuple([codes.code_of((0,) + begin) for begin in begins]))
 
     def decoded_begins(self, name, begins):
         """Some begins by their codes."""
@@ -50,7 +58,7 @@ class Mind:
     def main_context(self):
         """The coded context of main."""
         name = self._program.main
-        return (name, self.coded_begins(name, self._program.begins(name)))
+        return self.coded_context((name, self._program.begins(name)))
 
     def first(self, context):
         """The knowing in which each begin of a context is its own now."""
@@ -82,6 +90,24 @@ class Mind:
         codes = self._walks.codes_of(name)
         return tuple(sorted({codes.now_of(code)[1] for begin, mask in pairs for code in bits_of(mask)}))
 
+    def lines_from(self, name, code):
+        """A dict from all lines that can come next at a now to masks of codes, as of the pairs of `after`."""
+        if (name, code) not in self._lines_at:
+            found = {}
+            for reached in self._walks.costs_from((name, code, True)):
+                for line, behind in self._lines_written(name, reached):
+                    found[line] = found.get(line, 0) | 1 << behind
+            self._lines_at[name, code] = found
+        return self._lines_at[name, code]
+
+    def call_at(self, name, code):
+        """The pair (procedure, code of the begin) of the call at a now."""
+        return self._walks.stop(name, code)[1]
+
+    def behind_call(self, name, call, called, end):
+        """The code of the now behind a call, if the procedure that is called ends with this code."""
+        return self._walks.given_back(name, call, called, end)
+
     def _found_joined(self, kept, ends):
         name, pairs = kept
         given = {begin: bits_of(mask) for begin, mask in ends}
@@ -101,22 +127,12 @@ class Mind:
         for begin, mask in pairs:
             lines = {}
             for code in bits_of(mask):
-                at = self._lines_from(name, code)
+                at = self.lines_from(name, code)
                 for line in at:
                     lines[line] = lines.get(line, 0) | at[line]
             for line in lines:
                 found.setdefault(line, []).append((begin, lines[line]))
         return {line: tuple(found[line]) for line in sorted(found)}
-
-    def _lines_from(self, name, code):
-        """A dict from all lines that can come next at a now to masks of codes, as of the pairs of `after`."""
-        if (name, code) not in self._lines_at:
-            found = {}
-            for reached in self._walks.costs_from((name, code, True)):
-                for line, behind in self._lines_written(name, reached):
-                    found[line] = found.get(line, 0) | 1 << behind
-            self._lines_at[name, code] = found
-        return self._lines_at[name, code]
 
     def _lines_written(self, name, code):
         """The list of pairs of a line and a code for all moves at a now that write a line."""

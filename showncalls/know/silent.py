@@ -2,13 +2,13 @@
 
 from showncalls.base.shapes import Shape, check_program
 from showncalls.errors import InvalidOperation, UnknownName
-from showncalls.know.walks import Walks
+from showncalls.know.walks import walks_of
 
 
 def passages(program, name):
     """A dict from the begins of a procedure to the tuples of all (standing, own) with which it can be left silently."""
     _check(program, name)
-    walks = Walks(program)
+    walks = walks_of(program)
     codes = walks.codes_of(name)
     found = {}
     for begin in program.begins(name):
@@ -20,7 +20,7 @@ def passages(program, name):
 def nows(program, name, now):
     """The ascending tuple of all nows to which a now of a seen call goes on silently, itself included."""
     _check_now(program, name, now)
-    walks = Walks(program)
+    walks = walks_of(program)
     codes = walks.codes_of(name)
     reached = walks.costs_from((name, codes.code_of(now), True))
     return tuple([codes.now_of(code) for code in sorted(reached)])

@@ -3,9 +3,10 @@
 from showncalls.base.checks import ascends, is_integer
 from showncalls.base.shapes import check_fact, check_program, is_heard
 from showncalls.errors import InvalidNumber, InvalidTable, TooMany
+from showncalls.know.closed import is_closed_under
 from showncalls.know.knowings import are_begins, is_knowing
-from showncalls.know.least import Least
-from showncalls.know.minds import Mind
+from showncalls.know.least import least_of
+from showncalls.know.minds import mind_of
 
 MAX_KNOWINGS = 400
 LONGEST_LOG = 2000
@@ -16,7 +17,7 @@ def is_table(program, value):
     check_program(program)
     if not isinstance(value, dict):
         return False
-    return all([_is_context(program, context) and _are_knowings(program, context, value[context])
+    return all([is_context(program, context) and _are_knowings(program, context, value[context])
                 for context in value])
 
 
@@ -24,20 +25,11 @@ def is_closed(program, value):
     """Whether a value is a closed table of a program."""
     if not is_table(program, value):
         return False
-    mind = Mind(program)
+    mind = mind_of(program)
     coded = {}
     for context in value:
-        coded[_coded_context(mind, context)] = {mind.coded(knowing): True for knowing in value[context]}
-    if mind.main_context() not in coded:
-        return False
-    left = {context: _all_ends(mind, coded[context]) for context in coded}
-    for context in coded:
-        if mind.first(context) not in coded[context]:
-            return False
-        for knowing in coded[context]:
-            if not _has_all_behind(mind, coded, left, context, knowing):
-                return False
-    return True
+        coded[mind.coded_context(context)] = {mind.coded(knowing): True for knowing in value[context]}
+    return is_closed_under(mind, coded)
 
 
 class Table:
@@ -47,17 +39,14 @@ class Table:
         check_program(program)
         if not is_integer(limit) or not 1 <= limit <= MAX_KNOWINGS:
             raise InvalidNumber(limit)
-        mind = Mind(program)
         self._program = program
-        self._least = Least(mind, limit)
-        self._items = {}
-        for context, knowing in self._least.items_found():
-            told = ((context[0], mind.decoded_begins(context[0], context[1])), mind.decoded(knowing))
-            self._items[told] = (context, knowing)
-        self._pairs = sorted(self._items)
-        self._knowings = {}
-        for context, knowing in self._pairs:
-            self._knowings[context] = self._knowings.get(context, ()) + (knowing,)
+        self._least = least_of(program, limit)
+        # What is told of the items is worked out once for each program.
+        if "items told" not in program._kept:
+            program._kept["items told"] = _items_told(mind_of(program), self._least.items_found())
+            program._kept["knowings told"] = _knowings_told(program._kept["items told"])
+        self._items = program._kept["items told"]
+        self._knowings = program._kept["knowings told"]
 
     @property
     def program(self):
@@ -101,33 +90,55 @@ class Table:
 
     def __contains__(self, x):
         # The form is asked first, since what is no context may be equal to one: True equals 1.
-        return _is_context(self._program, x) and x in self._knowings
+        return is_context(self._program, x) and x in self._knowings
 
     def __len__(self):
-        return len(self._pairs)
+        return len(self._items)
 
     def __eq__(self, other):
         return isinstance(other, Table) and self._program == other._program
 
     def __str__(self):
-        return f"table of {len(self._knowings)} contexts, {len(self._pairs)} knowings"
+        return f"table of {len(self._knowings)} contexts, {len(self._items)} knowings"
+
+
+def _items_told(mind, items):
+    """A dict from the pairs of a context and a knowing, as they are told, to the items of the least table."""
+    return {((context[0], mind.decoded_begins(context[0], context[1])), mind.decoded(knowing)): (context, knowing)
+            for context, knowing in items}
+
+
+def _knowings_told(items):
+    """A dict from contexts to the ascending tuples of their knowings."""
+    found = {}
+    for context, knowing in sorted(items):
+        found[context] = found.get(context, ()) + (knowing,)
+    return found
 
 
 def bars_fact(program, table, fact):
     """Whether a table, as a dict, bars a fact."""
-    mind = Mind(program)
-    for context in table:
-        for knowing in table[context]:
-            name, pairs = mind.coded(knowing)
-            if _are_all_in(fact, mind.standings_in(name, pairs)):
-                return False
-            given = mind.after((name, pairs)).get(("leave", name), ()) if name == program.main else ()
-            if given and _are_all_in(fact, mind.standings_in(name, given)):
-                return False
-    return True
+    shown = all_that_stand(program, table) + all_that_end(program, table)
+    return not any([are_all_in(fact, standings) for standings in shown])
 
 
-def _is_context(program, value):
+def all_that_stand(program, table):
+    """The list of what can stand, by each knowing of a table that is a dict: ascending tuples of standings."""
+    mind = mind_of(program)
+    coded = [mind.coded(knowing) for context in table for knowing in table[context]]
+    return [mind.standings_in(name, pairs) for name, pairs in coded]
+
+
+def all_that_end(program, table):
+    """The list of what can end, by each knowing of main that has ends."""
+    mind = mind_of(program)
+    name = program.main
+    coded = [mind.coded(knowing) for context in table for knowing in table[context] if context[0] == name]
+    given = [mind.after(knowing)["leave", name] for knowing in coded if ("leave", name) in mind.after(knowing)]
+    return [mind.standings_in(name, pairs) for pairs in given]
+
+
+def is_context(program, value):
     """Whether a value is a context of a program."""
     if not isinstance(value, tuple) or len(value) != 2 or not is_heard(program, value[0]):
         return False
@@ -137,44 +148,18 @@ def _is_context(program, value):
 
 def _are_knowings(program, context, value):
     """Whether a value is an ascending tuple of knowings that a context can have, at least one."""
-    if not isinstance(value, tuple) or not value or not all([is_knowing(program, knowing) for knowing in value]):
+    if not isinstance(value, tuple) or not value:
         return False
-    if not all([name == context[0] for name, pairs in value]):
-        return False
-    begins = {begin: True for begin in context[1]}
-    return ascends(value) and all([begin in begins for name, pairs in value for begin, now in pairs])
+    return all([is_knowing_in(program, context, knowing) for knowing in value]) and ascends(value)
 
 
-def _are_all_in(fact, standings):
+def is_knowing_in(program, context, value):
+    """Whether a value is a knowing of the same procedure whose begins are among those of a context."""
+    if not is_knowing(program, value) or value[0] != context[0]:
+        return False
+    return all([begin in context[1] for begin, now in value[1]])
+
+
+def are_all_in(fact, standings):
+    """Whether a fact has all of some standings."""
     return all([standing in fact for standing in standings])
-
-
-def _coded_context(mind, context):
-    return (context[0], mind.coded_begins(context[0], context[1]))
-
-
-def _all_ends(mind, knowings):
-    """A dict that has all ends which some of these coded knowings of one procedure have."""
-    found = {}
-    for knowing in knowings:
-        given = mind.after(knowing).get(("leave", knowing[0]))
-        if given is not None:
-            found[given] = True
-    return found
-
-
-def _has_all_behind(mind, coded, left, context, knowing):
-    """Whether a table, coded, has all that follows from a knowing of a context; `left` has all ends by contexts."""
-    name = knowing[0]
-    after = mind.after(knowing)
-    for line in after:
-        if line[0] in ("ask", "say") and (name, after[line]) not in coded[context]:
-            return False
-        if line[0] == "enter":
-            kept = (name, after[line])
-            inner = mind.context_given(kept)
-            if inner not in coded:
-                return False
-            if not all([mind.joined_back(kept, given) in coded[context] for given in left[inner]]):
-                return False
-    return True

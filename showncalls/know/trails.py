@@ -1,7 +1,7 @@
 """The shortest runs with a log."""
 
 from showncalls.know.spelling import spelled
-from showncalls.know.walks import Walks
+from showncalls.know.walks import walks_of
 from showncalls.run.runs import MAX_MOVES
 
 
@@ -27,7 +27,7 @@ class Trail:
     """
 
     def __init__(self, program):
-        self._walks = Walks(program)
+        self._walks = walks_of(program)
         codes = self._walks.codes_of(program.main)
         begins = [codes.code_of((0,) + begin) for begin in program.begins(program.main)]
         self._lines = [("enter", program.main)]

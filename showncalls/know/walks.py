@@ -6,6 +6,13 @@ from showncalls.know.codes import Codes
 from showncalls.run.steps import Steps
 
 
+def walks_of(program):
+    """The walks of a program, which are made once."""
+    if "walks" not in program._kept:
+        program._kept["walks"] = Walks(program)
+    return program._kept["walks"]
+
+
 class Walks:
     """The shortest silent walks of a program, as far as they are asked for.
 

@@ -5,7 +5,7 @@ from showncalls.base.facts import Fact
 from showncalls.base.shapes import check_fact, check_program
 from showncalls.base.words import is_line, is_log
 from showncalls.errors import InvalidLog, InvalidNumber, InvalidOperation, TooMany, Unseen
-from showncalls.know.minds import Mind
+from showncalls.know.minds import mind_of
 from showncalls.know.positions import first_position, lines_at, next_position, standings_at
 from showncalls.know.trails import shortest_run
 from showncalls.run.runs import MAX_MOVES, Run
@@ -16,7 +16,7 @@ def is_log_of(program, value):
     check_program(program)
     if not is_log(value) or value[0] != ("enter", program.main):
         return False
-    mind = Mind(program)
+    mind = mind_of(program)
     position = first_position(mind)
     for line in value[1:]:
         position = next_position(mind, position, line)
@@ -31,7 +31,7 @@ class Watcher:
     def __init__(self, program):
         check_program(program)
         self._program = program
-        self._mind = Mind(program)
+        self._mind = mind_of(program)
         self._seen = [("enter", program.main)]
         # The positions behind all lines that have been seen.
         self._positions = [first_position(self._mind)]

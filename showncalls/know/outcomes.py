@@ -1,0 +1,63 @@
+"""Outcomes: what can stand at the logs of a program, and shortest logs for each of them."""
+
+from showncalls.base.checks import least_among
+from showncalls.know.least import least_of
+from showncalls.know.minds import mind_of
+from showncalls.know.tables import MAX_KNOWINGS, are_all_in
+
+
+def outcomes_of(program):
+    """The outcomes of a program, which are found once."""
+    if "outcomes" not in program._kept:
+        program._kept["outcomes"] = Outcomes(program)
+    return program._kept["outcomes"]
+
+
+class Outcomes:
+    """All that can stand at some log. An outcome is a pair: the ascending tuple of all standings that can stand at a
+    log, and whether it is an end log."""
+
+    def __init__(self, program):
+        self._main = program.main
+        self._least = least_of(program, MAX_KNOWINGS)
+        # By outcome: the number of lines of a shortest log with it, and the item of the least table that this log leads
+        # to, perhaps with the leave of main behind it.
+        self._shortest = {}
+        mind = mind_of(program)
+        for item in self._least.items_found():
+            name, pairs = item[1]
+            many = self._least.lines_to(item)
+            self._note((mind.standings_in(name, pairs), False), many, item)
+            given = mind.after(item[1]).get(("leave", program.main))
+            if given is not None:
+                self._note((mind.standings_in(name, given), True), many + 1, item)
+
+    def told(self):
+        """The list of all outcomes."""
+        return list(self._shortest)
+
+    def least_standings(self):
+        """The ascending list of all that can stand at a log, but for what has all of another such tuple in it."""
+        return least_among(sorted({standings for standings, at_end in self._shortest}))
+
+    def many_lines(self, outcome):
+        """The least number of lines of a log with an outcome."""
+        return self._shortest[outcome][0]
+
+    def log_with(self, outcome):
+        """A log with so few lines."""
+        log = self._least.log_to(self._shortest[outcome][1])
+        return log + (("leave", self._main),) if outcome[1] else log
+
+    def shortest_of(self, outcomes):
+        """The one of some outcomes that a log with the fewest lines has, or None if there is none of them."""
+        found = [(self.many_lines(outcome), outcome) for outcome in outcomes]
+        return min(found)[1] if found else None
+
+    def where_known(self, fact):
+        """The list of all outcomes by which a fact is known."""
+        return [outcome for outcome in self._shortest if are_all_in(fact, outcome[0])]
+
+    def _note(self, outcome, many, item):
+        if outcome not in self._shortest or many < self._shortest[outcome][0]:
+            self._shortest[outcome] = (many, item)
