@@ -177,3 +177,37 @@ def context(program, logs, log):
             entered.pop()
     name, pairs = knowing(program, logs[log[:entered[-1] + 1]])
     return (name, tuple(begin for begin, now in pairs))
+
+
+def can_write(program, situation, deeper):
+    """Whether silent moves lead to a line, or main has been left, with at most so many calls more open than are now."""
+    if not situation[1]:
+        return True
+    most = len(situation[1]) + deeper
+    found = {situation}
+    work = [situation]
+    while work:
+        for line, behind in moves(program, work.pop()):
+            if line is not None:
+                return True
+            if len(behind[1]) <= most and behind not in found:
+                found.add(behind)
+                work.append(behind)
+    return False
+
+
+def shortest_stuck(program, most, deeper):
+    """The least number of moves of a stuck run, None if there is none with at most so many."""
+    newest = {situation for situation, begins in beginnings(program)}
+    seen = set(newest)
+    for many in range(most + 1):
+        if any(not can_write(program, situation, deeper) for situation in newest):
+            return many
+        newest = {behind for situation in newest for line, behind in moves(program, situation)} - seen
+        seen |= newest
+    return None
+
+
+def is_split(lines):
+    """[0.22]: whether these lines that come next are neither one alone nor all asked with one word."""
+    return len(lines) > 1 and len({line[:2] if line[0] == "ask" else line for line in lines}) > 1

@@ -3,10 +3,13 @@
 import doctest
 
 from showncalls.base import facts, programs, words
-from showncalls.compare import alike, more
+from showncalls.compare import alike, more, parts
+from showncalls.compare import silent as quiet
 from showncalls.give import counts, ends, left, papers
+from showncalls.house import project as projects
 from showncalls.know import knowings, silent, tables, watchers
 from showncalls.run import runs
+from showncalls.text import shell as shells
 from showncalls.text import texts
 from tests.helper import Case
 
@@ -124,6 +127,40 @@ STAGE_15 = '''
 [True, False, True]
 '''
 
+STAGE_16 = '''
+>>> [is_silent(LOST), is_silent_paper(LOST, ("stuck", ((1,), ()))), is_stuck_run(LOST, (0,), ()), is_silent(MIRROR)]
+[False, True, False, False]
+>>> is_silent(Program({"x": 2}, Procedure("main", (("hide", "x"), ("ask", "w", "x"), ("say", "end", None)))))
+True
+'''
+
+STAGE_17 = '''
+>>> words = (("word", "a"), ("word", "b"))
+>>> [parts_of(MIRROR), greatest_shown(HALF, words, (Fact.where(HALF.shared, {"x": 0}), Fact.where(HALF.shared, {"x": 1})))]
+[(('call', 'p'), ('word', 'at')), ((('word', 'a'),), (('word', 'b'),))]
+>>> [cut_log(OUTER, (("call", "p"),), LOG), [len(fact) for fact in Left(for_words(HALF, ("a",))).sets]]
+[(('enter', 'main'),), [2, 2]]
+'''
+
+STAGE_18 = '''
+>>> project = Project(HUSH)
+>>> project.promise("secret", "never", Fact.where(HALF.shared, {"x": 1}))
+>>> [project.deeds, project.program == HUSH, project.undo(), len(project), project.redo(), list(project.promises)]
+[('promise',), True, 0, 0, 1, ['secret']]
+>>> project.put(HALF["main"])
+Traceback (most recent call last):
+    ...
+showncalls.errors.Refused: secret
+'''
+
+STAGE_19 = r'''
+>>> shell = Shell()
+>>> [shell("new out\n" + write_program(OUTER)), shell("know out n is 0").split("\n")[-1], shell("see out enter p"), shell("ask out n is 0")]
+['program of 2 procedures, 1 shared cells', 'say end', 2, 'open']
+>>> [shell("less out hid call p"), shell("left hid"), shell.names, shell.script[1:]]
+['program of 2 procedures, 1 shared cells', (((0,), (1,)),), ('hid', 'out'), ('see out enter p', 'less out hid call p')]
+'''
+
 # Each with the number of its examples. What one stage has named, those behind it use, too.
 STAGES = (
     ("stage 1", STAGE_1, 2),
@@ -141,6 +178,10 @@ STAGES = (
     ("stage 13", STAGE_13, 1),
     ("stage 14", STAGE_14, 2),
     ("stage 15", STAGE_15, 2),
+    ("stage 16", STAGE_16, 2),
+    ("stage 17", STAGE_17, 3),
+    ("stage 18", STAGE_18, 4),
+    ("stage 19", STAGE_19, 3),
 )
 
 
@@ -151,7 +192,7 @@ class Examples(Case):
     def test_all(self):
         names = {}
         for module in (words, facts, programs, texts, runs, silent, knowings, watchers, tables, left, papers, ends, counts,
-                       alike, more):
+                       alike, more, quiet, parts, projects, shells):
             names.update(vars(module))
         for name, text, many in STAGES:
             with self.subTest(name=name):

@@ -4,15 +4,19 @@ import inspect
 
 from showncalls import errors
 from showncalls.base import facts, programs, words
-from showncalls.compare import alike, more
+from showncalls.compare import alike, more, parts
+from showncalls.compare import silent as quiet
 from showncalls.give import counts, ends, left, papers
+from showncalls.house import project as projects
 from showncalls.know import knowings, silent, tables, watchers
 from showncalls.run import runs
+from showncalls.text import shell as shells
 from showncalls.text import texts
 from tests.helper import MIRROR, Case
 
 CLASS_METHODS = {
     facts.Fact: ("every", "where", "alike"), programs.Program: ("of",), runs.Run: ("of",), watchers.Watcher: ("along",),
+    shells.Shell: ("replayed",),
 }
 PROPERTIES = {
     facts.Fact: ("cells", "standings"),
@@ -22,6 +26,8 @@ PROPERTIES = {
     watchers.Watcher: ("program", "log", "knowing", "can_stand"),
     tables.Table: ("program", "contexts"),
     left.Left: ("program", "sets", "end_sets", "fewest"),
+    projects.Project: ("program", "promises", "deeds"),
+    shells.Shell: ("names", "programs", "script"),
 }
 METHODS = {
     facts.Fact: {
@@ -54,6 +60,14 @@ METHODS = {
         "length_for": ("fact", "at_end"), "log_for": ("fact", "at_end"), "numbers": ("name",), "__contains__": None,
         "__len__": None, "__eq__": None, "__str__": None,
     },
+    projects.Project: {
+        "promise": ("name", "parts"), "forget": ("name",), "put": ("procedure",), "drop": ("name",), "hush": ("name", "quiet"),
+        "undo": ("many",), "redo": ("many",), "trial": (), "during": ("call",), "twin": (), "__getitem__": None,
+        "__contains__": None, "__len__": None, "__eq__": None, "__str__": None,
+    },
+    shells.Shell: {
+        "run": ("command",), "__call__": ("command",), "__contains__": None, "__len__": None, "__eq__": None, "__str__": None,
+    },
 }
 NAMES = {
     errors: ("CallError", "InvalidFact", "InvalidProgram", "InvalidLog", "InvalidRun", "InvalidKnowing",
@@ -74,6 +88,10 @@ NAMES = {
     counts: ("count_logs", "count_known", "logs"),
     alike: ("are_alike", "alike_paper", "is_alike_paper"),
     more: ("gives_no_more", "more_paper", "is_more_paper"),
+    quiet: ("is_stuck_run", "is_silent", "silent_paper", "is_silent_paper"),
+    parts: ("is_part", "parts_of", "without_parts", "cut_log", "for_words", "greatest_shown"),
+    projects: ("Project",),
+    shells: ("Shell",),
 }
 
 
@@ -123,13 +141,20 @@ class Interface(Case):
             ends.is_settled_paper: "(program, fact, value)", ends.settled_classes: "(program)",
             counts.count_logs: "(program, many)", counts.count_known: "(program, fact, many)", counts.logs: "(program, many)",
             alike.are_alike: "(one, other)", alike.alike_paper: "(one, other)", alike.is_alike_paper: "(one, other, value)",
+            quiet.is_stuck_run: "(program, start, choices)", quiet.is_silent: "(program)", quiet.silent_paper: "(program)",
+            quiet.is_silent_paper: "(program, value)", parts.is_part: "(program, value)", parts.parts_of: "(program)",
+            parts.without_parts: "(program, parts)", parts.cut_log: "(program, parts, log)", parts.for_words: "(program, words)",
+            parts.greatest_shown: "(program, parts, facts)", projects.Project: "(program)",
+            projects.Project.promise: "(self, name, *parts)", projects.Project.undo: "(self, *, many=1)",
+            projects.Project.redo: "(self, *, many=1)", shells.Shell: "()", shells.Shell.replayed: "(script)",
             more.gives_no_more: "(one, other)", more.more_paper: "(one, other)", more.is_more_paper: "(one, other, value)",
         }
         for called, text in due.items():
             self.assertEqual(str(inspect.signature(called)), text)
 
     def test_constants(self):
-        self.same([runs.MAX_MOVES, tables.MAX_KNOWINGS, counts.MAX_LINES], [1000, 400, 40])
+        self.same([runs.MAX_MOVES, tables.MAX_KNOWINGS, counts.MAX_LINES, parts.MAX_PARTS, shells.MAX_PROGRAMS],
+                  [1000, 400, 40, 4, 8])
 
     def test_equal_calls_return_equal_results(self):
         for call in (MIRROR.begins, MIRROR.cells_of):

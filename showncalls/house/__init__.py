@@ -1,0 +1,1 @@
+"""A program that changes and keeps its promises."""
