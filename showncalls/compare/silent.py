@@ -2,7 +2,8 @@
 
 from showncalls.base.shapes import check_program, is_standing
 from showncalls.base.words import is_line
-from showncalls.compare.stuck import frames_behind, has_stuck_run, is_stuck_in, shortest_stuck_run
+from showncalls.compare.search import shortest_stuck_run
+from showncalls.compare.stuck import frames_behind, is_stuck_in, live_of
 from showncalls.errors import TooMany
 from showncalls.know.least import least_of
 from showncalls.know.minds import mind_of
@@ -20,7 +21,7 @@ def is_stuck_run(program, start, choices):
 def is_silent(program):
     """Whether a program is silent."""
     check_program(program)
-    return not _split_items(program) and not has_stuck_run(program)
+    return not _split_items(program) and not live_of(program).has_stuck_run()
 
 
 def silent_paper(program):
@@ -34,7 +35,7 @@ def silent_paper(program):
             raise TooMany(LONGEST_LOG)
         line, other = _lines_apart(list(mind_of(program).after(item[1])))
         return ("split", least.log_to(item), line, other)
-    if not has_stuck_run(program):
+    if not live_of(program).has_stuck_run():
         return ("silent", Table(program).as_dict())
     found = shortest_stuck_run(program)
     if found is None:
@@ -92,7 +93,7 @@ def _shows_stuck(program, value):
 
 
 def _shows_silent(program, table):
-    if not is_closed(program, table) or has_stuck_run(program):
+    if not is_closed(program, table) or live_of(program).has_stuck_run():
         return False
     mind = mind_of(program)
     coded = [mind.coded(knowing) for context in table for knowing in table[context]]

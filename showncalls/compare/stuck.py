@@ -3,14 +3,9 @@
 Here the frames of a situation are a list of pairs (procedure, code of its now), the outermost one first.
 """
 
-from heapq import heappop, heappush
-
 from showncalls.base.checks import is_number
-from showncalls.know.codes import mask_of
 from showncalls.know.minds import mind_of
-from showncalls.know.spelling import spelled
 from showncalls.know.walks import walks_of
-from showncalls.run.runs import MAX_MOVES
 
 
 def frames_behind(program, start, choices):
@@ -53,125 +48,102 @@ def is_stuck_in(program, frames):
     return not any([mind.lines_from(frames[many_seen - 1][0], code) for code in codes])
 
 
-def has_stuck_run(program):
-    """Whether some run of a program is stuck."""
-    if "has stuck run" not in program._kept:
-        program._kept["has stuck run"] = _found_stuck(program)
-    return program._kept["has stuck run"]
-
-
-def shortest_stuck_run(program):
-    """The pair of a start and of choices of a stuck run with as few moves as possible, or None if there is none with at
-    most 1000 of them."""
-    search = Search(program)
-    while search.is_open():
-        search.go_on()
-    return search.shortest()
-
-
 def _code_of_start(program, standing):
     own = tuple([0 for pair in program[program.main].own])
     return walks_of(program).codes_of(program.main).code_of((0, standing, own))
 
 
-def _found_stuck(program):
-    """Whether some reached now of a seen call comes to no line, or one of another call to no end of this call.
-
-    If neither is so, then each call that is not seen can be left, and a line comes at last.
-    """
-    walks, mind = walks_of(program), mind_of(program)
-    waiting = [(program.main, begin, True) for begin in mind_of(program).main_context()[1]]
-    met = {source: True for source in waiting}
-    while waiting:
-        name, begin, seen = waiting.pop()
-        for code in walks.costs_from((name, begin, False)):
-            if not (mind.lines_from(name, code) if seen else walks.ends_from((name, code, False))):
-                return True
-            kind, found = walks.stop(name, code)
-            if kind == "call":
-                inner = (found[0], found[1], seen and not program[found[0]].quiet)
-                if inner not in met:
-                    met[inner] = True
-                    waiting.append(inner)
-    return False
+def live_of(program):
+    """Where in a program lines can still come, found once."""
+    if "live" not in program._kept:
+        program._kept["live"] = Live(program)
+    return program._kept["live"]
 
 
-class Search:
-    """The search for a stuck run with as few moves as possible.
+class Live:
+    """The nows from which it goes on: in a seen call, silently to a line; in any other call, to its end.
 
-    It goes through calls: tuples (procedure, code of the begin, whether it is seen, mask of the ends that are live). An
-    end of a call that is not seen is live if a line can come behind it. Of a seen call the mask is None: its own lines
-    count, whatever is around it.
+    No run is stuck if it goes on from all nows that calls come to: then each call that is not seen can be left, and a
+    line comes at last.
     """
 
     def __init__(self, program):
         self._program = program
         self._walks = walks_of(program)
-        self._mind = mind_of(program)
-        # By call: the call around it and the walk from the begin of that one to where it is called, or None.
-        self._ways = {}
-        self._queue = []
-        self._pushed = 0
-        # The number of moves, the call and the code of the now of the shortest stuck run so far.
-        self._best = (MAX_MOVES + 1, None, None)
-        for begin in self._mind.main_context()[1]:
-            self._push(0, (program.main, begin, True, None), None)
+        # By pairs of a procedure and of whether its call is seen: the codes of all nows that such calls come to.
+        self._come_to = {}
+        self._known_live = {}
+        self._come_to_all()
 
-    def is_open(self):
-        """Whether a shorter stuck run may come."""
-        return len(self._queue) > 0 and self._queue[0][0] < self._best[0]
+    def has_stuck_run(self):
+        """Whether some run of the program is stuck."""
+        for name, seen in self._come_to:
+            live = self.codes_live(name, seen, None)
+            if not all([code in live for code in self._come_to[name, seen]]):
+                return True
+        return False
 
-    def go_on(self):
-        """Look at the call that costs least."""
-        cost, _, call, way = heappop(self._queue)
-        if call in self._ways:
-            return
-        self._ways[call] = way
-        source = (call[0], call[1], False)
-        costs = self._walks.costs_from(source)
-        for code in costs:
-            many = cost + costs[code]
-            if many < self._best[0]:
-                if not self._is_live(call, code):
-                    self._best = (many, call, code)
-                else:
-                    self._look_into(call, code, many)
+    def codes_live(self, name, seen, ends):
+        """A dict with the codes of the nows of a procedure from which it goes on: in a call that is not seen, to one of
+        the ends of which a mask is given, or to any end if it is None."""
+        if (name, seen, ends) not in self._known_live:
+            self._known_live[name, seen, ends] = self._searched_live(name, seen, ends)
+        return self._known_live[name, seen, ends]
 
-    def shortest(self):
-        """The start and the choices of the shortest stuck run, or None."""
-        _, call, code = self._best
-        if call is None:
+    def _come_to_all(self):
+        waiting = [(self._program.main, begin, True) for begin in mind_of(self._program).main_context()[1]]
+        met = {call: True for call in waiting}
+        while waiting:
+            name, begin, seen = waiting.pop()
+            codes = self._come_to.setdefault((name, seen), {})
+            for code in self._walks.costs_from((name, begin, False)):
+                codes[code] = True
+                inner = self.call_at(name, code, seen)
+                if inner is not None and inner not in met:
+                    met[inner] = True
+                    waiting.append(inner)
+
+    def call_at(self, name, code, seen):
+        """The call that is at a now (its procedure, the code of its begin, whether it is seen), or None."""
+        kind, found = self._walks.stop(name, code)
+        if kind != "call":
             return None
-        pieces = [((call[0], call[1], False), code)]
-        while self._ways[call] is not None:
-            call, walk = self._ways[call]
-            # From where it is called on, the one move is to enter the call.
-            pieces.extend([0, walk])
-        start = self._walks.codes_of(call[0]).now_of(call[1])[1]
-        return (start, tuple(spelled(pieces[::-1], self._walks.parts())))
+        return (found[0], found[1], seen and not self._program[found[0]].quiet)
 
-    def _push(self, cost, call, way):
-        # The second number decides between equal costs, so that nothing else is compared.
-        heappush(self._queue, (cost, self._pushed, call, way))
-        self._pushed += 1
+    def _searched_live(self, name, seen, ends):
+        """The codes from which single steps lead to where it goes on, found from there backwards."""
+        ahead = {}
+        waiting = []
+        for code in self._come_to[name, seen]:
+            if self._goes_on_at(name, code, seen, ends):
+                waiting.append(code)
+            for behind in self._codes_behind(name, code, seen):
+                ahead.setdefault(behind, []).append(code)
+        live = {code: True for code in waiting}
+        while waiting:
+            for code in ahead.get(waiting.pop(), []):
+                if code not in live:
+                    live[code] = True
+                    waiting.append(code)
+        return live
 
-    def _look_into(self, call, code, many):
-        kind, found = self._walks.stop(call[0], code)
+    def _goes_on_at(self, name, code, seen, ends):
+        """Whether at this very now there is a line, or an end that is wanted."""
+        kind, found = self._walks.stop(name, code)
+        if not seen:
+            return kind == "leave" and (ends is None or ends >> code & 1 == 1)
         if kind == "call":
-            called, begin = found
-            seen = call[2] and not self._program[called].quiet
-            live = None if seen else self._live_ends(call, code, called, begin)
-            self._push(many + 1, (called, begin, seen, live), (call, ((call[0], call[1], False), code)))
+            return not self._program[found[0]].quiet
+        return kind == "leave" or any([line is not None for line, behind in found])
 
-    def _live_ends(self, call, code, called, begin):
-        """The mask of the ends of an inner call behind which a line can come."""
+    def _codes_behind(self, name, code, seen):
+        """The list of the codes behind a move, or behind a call that is passed silently."""
+        kind, found = self._walks.stop(name, code)
+        if kind == "move":
+            return [behind for line, behind in found if line is None or not seen]
+        inner = self.call_at(name, code, seen)
+        if inner is None or inner[2]:
+            return []
+        called, begin = found
         ends = self._walks.ends_from((called, begin, False))
-        return mask_of([end for end in ends
-                        if self._is_live(call, self._walks.given_back(call[0], code, called, end))])
-
-    def _is_live(self, call, code):
-        """Whether a line can come if this call is at this now."""
-        name, _, seen, live = call
-        if seen:
-            return len(self._mind.lines_from(name, code)) > 0
-        return any([live >> end & 1 == 1 for end in self._walks.ends_from((name, code, False))])
+        return [self._walks.given_back(name, code, called, end) for end in ends]
