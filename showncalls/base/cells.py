@@ -1,6 +1,6 @@
 """Cells, as dicts from their names to their sizes, and their standings."""
 
-from showncalls.base.checks import all_rows, ascends, is_integer, is_number, product_of
+from showncalls.base.checks import all_rows, are_integers, ascends, is_integer, product_of
 from showncalls.base.words import LARGEST_SIZE, is_name
 
 SMALLEST_SIZE = 2
@@ -46,9 +46,18 @@ def standings_of(cells):
 
 def is_row(sizes, value):
     """Whether a value is a tuple of numbers, each less than the size in its place."""
-    if not isinstance(value, tuple) or len(value) != len(sizes):
+    if not isinstance(value, tuple) or len(value) != len(sizes) or not are_integers(value):
         return False
-    return all([is_number(value[at], size) for at, size in enumerate(sizes)])
+    for number, size in zip(value, sizes):
+        if not 0 <= number < size:
+            return False
+    return True
+
+
+def is_row_among(value, rows):
+    """Whether a value is a tuple of integers that is a key of a dict."""
+    # The integers are asked first: (True,) equals (1,) in Python, and a list cannot be looked up.
+    return isinstance(value, tuple) and are_integers(value) and value in rows
 
 
 def is_standings(cells, value):

@@ -8,16 +8,28 @@ def is_integer(value):
 
 def is_number(value, size):
     """Whether a value is an integer from 0 on that is less than `size`."""
-    return is_integer(value) and 0 <= value < size
+    return isinstance(value, int) and not isinstance(value, bool) and 0 <= value < size
+
+
+def are_integers(values):
+    """Whether all of some values are integers."""
+    # A loop, since rows of numbers are asked about more often than anything else.
+    for value in values:
+        if not isinstance(value, int) or value is True or value is False:
+            return False
+    return True
 
 
 def ascends(values):
     """Whether each of some values, of one kind, is less than the next one."""
-    return all([values[at] < values[at + 1] for at in range(len(values) - 1)])
+    for at in range(len(values) - 1):
+        if not values[at] < values[at + 1]:
+            return False
+    return True
 
 
 def has_all_of(numbers, fewer):
-    """Whether all items of a tuple are in another one."""
+    """Whether all items of a tuple are in another one, or among the keys of a dict."""
     return all([part in numbers for part in fewer])
 
 

@@ -1,7 +1,7 @@
 """Facts: sets of standings of some cells."""
 
-from showncalls.base.cells import in_order, is_cells, is_row, is_standings, sizes_of, standings_of
-from showncalls.base.checks import is_number
+from showncalls.base.cells import in_order, is_cells, is_row_among, is_standings, standings_of
+from showncalls.base.checks import has_all_of, is_number
 from showncalls.errors import InvalidFact, InvalidOperation, UnknownName
 
 
@@ -14,12 +14,14 @@ class Fact:
             raise InvalidFact("these are no ascending standings of the cells")
         self._cells = in_order(cells)
         self._standings = standings
+        # The same, for looking them up.
+        self._held = {standing: True for standing in standings}
 
     @classmethod
     def every(cls, cells):
         """The fact with all standings."""
         _check_cells(cells)
-        return cls(cells, standings_of(cells))
+        return _made(in_order(cells), standings_of(cells))
 
     @classmethod
     def where(cls, cells, numbers):
@@ -29,14 +31,14 @@ class Fact:
             raise InvalidFact("these are no numbers that some of the cells can hold")
         held = [(at, numbers[name]) for at, name in enumerate(sorted(cells)) if name in numbers]
         fitting = [row for row in standings_of(cells) if all([row[at] == number for at, number in held])]
-        return cls(cells, tuple(fitting))
+        return _made(in_order(cells), tuple(fitting))
 
     @classmethod
     def alike(cls, cells, one, other):
         """The fact with all standings in which two cells hold equal numbers."""
         _check_cells(cells)
         first, second = _index_of(cells, one), _index_of(cells, other)
-        return cls(cells, tuple([row for row in standings_of(cells) if row[first] == row[second]]))
+        return _made(in_order(cells), tuple([row for row in standings_of(cells) if row[first] == row[second]]))
 
     @property
     def cells(self):
@@ -55,14 +57,13 @@ class Fact:
 
     def is_within(self, other):
         """Whether another fact has all standings of this one."""
-        theirs = _standings_over(self._cells, other)
-        return all([row in theirs for row in self._standings])
+        return has_all_of(_standings_over(self._cells, other), self._standings)
 
     def without(self, name):
         """The fact that is left over the other cells if one is left out."""
         left_out = _index_of(self._cells, name)
         cells = {cell: self._cells[cell] for cell in self._cells if cell != name}
-        return Fact(cells, tuple(sorted({row[:left_out] + row[left_out + 1:] for row in self._standings})))
+        return _made(cells, tuple(sorted({row[:left_out] + row[left_out + 1:] for row in self._standings})))
 
     def over(self, cells):
         """The fact over more cells that tells the same of those that it has."""
@@ -71,26 +72,25 @@ class Fact:
             raise InvalidOperation("a cell of the fact is not there with the same size")
         places = [at for at, name in enumerate(sorted(cells)) if name in self._cells]
         cut = {row: tuple([row[at] for at in places]) for row in standings_of(cells)}
-        return Fact(cells, tuple([row for row in cut if cut[row] in self._standings]))
+        return _made(in_order(cells), tuple([row for row in cut if cut[row] in self._held]))
 
     def __and__(self, other):
         theirs = _standings_over(self._cells, other)
-        return Fact(self._cells, tuple([row for row in self._standings if row in theirs]))
+        return _made(self._cells, tuple([row for row in self._standings if row in theirs]))
 
     def __or__(self, other):
         theirs = _standings_over(self._cells, other)
-        return Fact(self._cells, tuple(sorted(set(self._standings + theirs))))
+        return _made(self._cells, tuple(sorted({**self._held, **theirs})))
 
     def __sub__(self, other):
         theirs = _standings_over(self._cells, other)
-        return Fact(self._cells, tuple([row for row in self._standings if row not in theirs]))
+        return _made(self._cells, tuple([row for row in self._standings if row not in theirs]))
 
     def __invert__(self):
-        return Fact(self._cells, tuple([row for row in standings_of(self._cells) if row not in self._standings]))
+        return _made(self._cells, tuple([row for row in standings_of(self._cells) if row not in self._held]))
 
     def __contains__(self, x):
-        # (True,) equals (1,) in Python, but it is no standing.
-        return is_row(sizes_of(self._cells), x) and x in self._standings
+        return is_row_among(x, self._held)
 
     def __len__(self):
         return len(self._standings)
@@ -103,6 +103,15 @@ class Fact:
 
     def __str__(self):
         return f"fact of {len(self._standings)} standings"
+
+
+def _made(cells, standings):
+    """The fact with cells that ascend and with what surely are ascending standings of them."""
+    made = Fact({})
+    made._cells = cells
+    made._standings = standings
+    made._held = {standing: True for standing in standings}
+    return made
 
 
 def _check_cells(cells):
@@ -126,7 +135,7 @@ def _index_of(cells, name):
 
 
 def _standings_over(cells, other):
-    """The standings of another fact, which is due to have the same cells."""
+    """The standings of another fact, which is due to have the same cells, as the keys of a dict."""
     if not isinstance(other, Fact) or other._cells != cells:
         raise InvalidOperation("the other value is no fact over equal cells")
-    return other._standings
+    return other._held

@@ -2,7 +2,7 @@
 
 from showncalls.base.cells import with_own
 from showncalls.base.checks import product_of
-from showncalls.base.statements import cells_in, statements_of
+from showncalls.base.statements import cells_in
 
 MOST_PROCEDURES = 8
 MOST_ROWS = 64
@@ -29,7 +29,7 @@ def _fits(shared, procedure, passed):
     cells = with_own(shared, procedure.own)
     if product_of(list(cells.values())) > MOST_ROWS:
         return False
-    return all([_statement_fits(statement, cells, passed) for statement in statements_of(procedure.body)])
+    return all([_statement_fits(statement, cells, passed) for statement in procedure._statements])
 
 
 def _statement_fits(statement, cells, passed):
@@ -59,6 +59,6 @@ def _call_fits(statement, cells, passed):
 
 def _asked(shared, procedure):
     """The list of the pairs of the word and the size of the cell of all asks of a procedure."""
-    cells = with_own(shared, procedure.own)
-    statements = statements_of(procedure.body)
-    return [(statement[1], cells[statement[2]]) for statement in statements if statement[0] == "ask"]
+    asks = [statement for statement in procedure._statements if statement[0] == "ask"]
+    cells = with_own(shared, procedure.own) if asks else {}
+    return [(word, cells[cell]) for kind, word, cell in asks]

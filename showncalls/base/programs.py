@@ -3,8 +3,10 @@
 from showncalls.base.cells import in_order, is_cells, is_size, standings_of, with_own
 from showncalls.base.checks import all_rows, is_number
 from showncalls.base.fitting import fit_together
+from showncalls.base.nows import Shape
 from showncalls.base.places import places_of
 from showncalls.base.statements import is_body, statements_of, with_new_names
+from showncalls.base.steps import Steps
 from showncalls.base.words import is_name
 from showncalls.errors import InvalidOperation, InvalidProgram, UnknownName
 
@@ -23,6 +25,8 @@ class Procedure:
         self._body = body
         self._own = own
         self._quiet = quiet
+        # All statements, in reading order.
+        self._statements = tuple(statements_of(body))
 
     @property
     def called(self):
@@ -45,7 +49,7 @@ class Procedure:
         return self._quiet
 
     def __len__(self):
-        return len(statements_of(self._body))
+        return len(self._statements)
 
     def __eq__(self, other):
         return (isinstance(other, Procedure) and self._called == other._called and self._body == other._body
@@ -67,6 +71,11 @@ class Program:
         self._procedures = procedures
         self._named = {procedure.called: procedure for procedure in procedures}
         self._places = {procedure.called: places_of(procedure.body) for procedure in procedures}
+        self._standings = {standing: True for standing in standings_of(shared)}
+        main = procedures[0].called
+        self._shapes = {name: Shape(self._standings, self._named[name], name == main, self._places[name])
+                        for name in self._named}
+        self._steps = Steps(self._shared, procedures, self._places)
         # What other modules have worked out about the program, which never changes, by what they call it.
         self._kept = {}
 
@@ -100,7 +109,7 @@ class Program:
     @property
     def words(self):
         """The ascending tuple of all words that are asked or said."""
-        statements = [part for procedure in self._procedures for part in statements_of(procedure.body)]
+        statements = [part for procedure in self._procedures for part in procedure._statements]
         return tuple(sorted({part[1] for part in statements if part[0] in ("ask", "say")}))
 
     def cells_of(self, name):

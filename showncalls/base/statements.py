@@ -19,6 +19,8 @@ FORMS = {
     "either": ("body", "body"),
     "often": ("body",),
 }
+# How many pieces stand ahead of the inner bodies, the first word of the statement counted.
+AHEAD_OF_BODIES = {"if": 3, "either": 1, "often": 1}
 
 
 def is_body(value):
@@ -70,21 +72,22 @@ def is_set_table(value):
     return all([is_number(number, LARGEST_SIZE) for number in value])
 
 
-def pieces_of(statement, wanted):
-    """The list of all pieces of a statement that are of a wanted kind."""
-    return [statement[at + 1] for at, kind in enumerate(FORMS[statement[0]]) if kind == wanted]
-
-
 def cells_in(statement):
     """The list of the names of all cells in a statement, without those in its inner bodies."""
-    named = [name for keys in pieces_of(statement, "keys") for name in keys]
-    perhaps = [name for name in pieces_of(statement, "perhaps") if name is not None]
-    return pieces_of(statement, "cell") + named + perhaps
+    found = []
+    for at, kind in enumerate(FORMS[statement[0]]):
+        piece = statement[at + 1]
+        if kind == "keys":
+            found.extend(piece)
+        elif kind == "cell" or kind == "perhaps" and piece is not None:
+            found.append(piece)
+    return found
 
 
 def inner_bodies(statement):
     """The list of the inner bodies of a statement."""
-    return pieces_of(statement, "body")
+    kind = statement[0]
+    return list(statement[AHEAD_OF_BODIES[kind]:]) if kind in AHEAD_OF_BODIES else []
 
 
 def statements_of(body):

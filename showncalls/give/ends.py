@@ -63,7 +63,7 @@ def _open_outcomes(program, fact):
 
 def _is_open(fact, standings):
     """Whether some of these standings, but not all, are in a fact."""
-    return len({standing in fact for standing in standings}) == 2
+    return len({standing in fact._held for standing in standings}) == 2
 
 
 def _is_end_log(program, value):

@@ -4,6 +4,7 @@ from showncalls.base.checks import least_among
 from showncalls.base.facts import Fact
 from showncalls.base.shapes import check_fact, check_program
 from showncalls.errors import InvalidOperation, TooMany
+from showncalls.know.minds import mind_of
 from showncalls.know.outcomes import outcomes_of
 from showncalls.know.tables import LONGEST_LOG
 
@@ -15,10 +16,11 @@ class Left:
         check_program(program)
         self._program = program
         self._outcomes = outcomes_of(program)
-        end = sorted({standings for standings, at_end in self._outcomes.told() if at_end})
+        mind = mind_of(program)
+        end = sorted([standings for standings, at_end in self._outcomes.told() if at_end])
         self._fewest = min([len(standings) for standings, at_end in self._outcomes.told()])
-        self._sets = tuple([Fact(program.shared, standings) for standings in self._outcomes.least_standings()])
-        self._end_sets = tuple([Fact(program.shared, standings) for standings in end])
+        self._sets = tuple([mind.fact_with(standings) for standings in self._outcomes.least_standings()])
+        self._end_sets = tuple([mind.fact_with(standings) for standings in end])
 
     @property
     def program(self):

@@ -1,8 +1,9 @@
 """Papers: what shows whether a fact can be known."""
 
 from showncalls.base.shapes import check_fact, check_program
-from showncalls.give.left import Left
-from showncalls.know.tables import Table, bars_fact, is_closed
+from showncalls.errors import TooMany
+from showncalls.know.outcomes import outcomes_of
+from showncalls.know.tables import LONGEST_LOG, Table, bars_fact, is_closed
 from showncalls.know.watchers import Watcher, is_log_of
 
 
@@ -10,8 +11,13 @@ def fact_paper(program, fact):
     """Any paper of a program and a fact."""
     check_program(program)
     check_fact(program, fact)
-    log = Left(program).log_for(fact)
-    return ("never", Table(program).as_dict()) if log is None else ("known", log)
+    outcomes = outcomes_of(program)
+    shortest = outcomes.shortest_of(outcomes.where_known(fact))
+    if shortest is None:
+        return ("never", Table(program).as_dict())
+    if outcomes.many_lines(shortest) > LONGEST_LOG:
+        raise TooMany(LONGEST_LOG)
+    return ("known", outcomes.log_with(shortest))
 
 
 def is_fact_paper(program, fact, value):

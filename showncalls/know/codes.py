@@ -1,6 +1,5 @@
 """Nows as numbers, and sets of them as the bits of a number."""
 
-from showncalls.base.cells import standings_of
 from showncalls.base.checks import all_rows
 
 
@@ -8,9 +7,8 @@ class Codes:
     """The nows of a procedure as numbers, in their order. A begin has the number of the now right behind its enter."""
 
     def __init__(self, program, name):
-        standings = standings_of(program.shared)
         owns = all_rows([size for cell, size in program[name].own])
-        self._states = [(standing, own) for standing in standings for own in owns]
+        self._states = [(standing, own) for standing in program._standings for own in owns]
         self._state_codes = {state: at for at, state in enumerate(self._states)}
 
     def code_of(self, now):

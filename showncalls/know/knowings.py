@@ -1,8 +1,7 @@
 """Knowings: what a log lets one know of the innermost seen call."""
 
 from showncalls.base.checks import ascends
-from showncalls.base.facts import Fact
-from showncalls.base.shapes import Shape, check_heard, check_program, is_call, is_heard
+from showncalls.base.shapes import check_heard, check_program, is_call, is_heard
 from showncalls.errors import InvalidKnowing, InvalidOperation
 from showncalls.know.minds import mind_of
 
@@ -12,11 +11,7 @@ def is_knowing(program, value):
     check_program(program)
     if not isinstance(value, tuple) or len(value) != 2 or not is_heard(program, value[0]):
         return False
-    name, pairs = value
-    if not isinstance(pairs, tuple) or not pairs:
-        return False
-    shape = Shape(program, name)
-    return all([_is_pair_of(shape, pair) for pair in pairs]) and ascends(pairs)
+    return program._shapes[value[0]].are_pairs(value[1])
 
 
 def first_knowing(program, name, begins):
@@ -33,7 +28,7 @@ def spoken(program, knowing):
     _check(program, knowing)
     mind = mind_of(program)
     after = mind.after(mind.coded(knowing))
-    return {line: mind.decoded((knowing[0], after[line])) for line in after if line[0] in ("ask", "say")}
+    return {line: mind.told_of((knowing[0], after[line])) for line in after if line[0] in ("ask", "say")}
 
 
 def entered(program, knowing):
@@ -45,7 +40,7 @@ def entered(program, knowing):
     for line in after:
         if line[0] == "enter":
             kept = (knowing[0], after[line])
-            found[line[1]] = (mind.decoded(kept), mind.decoded_begins(line[1], mind.context_given(kept)[1]))
+            found[line[1]] = (mind.told_of(kept), mind.decoded_begins(line[1], mind.context_given(kept)[1]))
     return found
 
 
@@ -71,27 +66,30 @@ def joined(program, kept, name, given):
     found = mind.joined_back(mind.coded(kept), coded_ends)
     if not found[1]:
         raise InvalidOperation("no call gives the begin of an end")
-    return mind.decoded(found)
+    return mind.told_of(found)
 
 
 def possible(program, knowing):
     """The fact with all standings that can stand."""
     _check(program, knowing)
-    return Fact(program.shared, tuple(sorted({now[1] for begin, now in knowing[1]})))
+    mind = mind_of(program)
+    name, pairs = mind.coded(knowing)
+    return mind.fact_with(mind.standings_in(name, pairs))
 
 
 def final(program, knowing):
     """The fact with all standings that can end."""
     _check(program, knowing)
     mind = mind_of(program)
-    return Fact(program.shared, tuple(sorted({end[0] for begin, end in _ends(mind, mind.coded(knowing))})))
+    given = mind.after(mind.coded(knowing)).get(("leave", knowing[0]), ())
+    return mind.fact_with(mind.standings_in(knowing[0], given))
 
 
 def are_begins(program, name, value):
     """Whether a value is an ascending tuple of begins of a procedure, at least one."""
     if not isinstance(value, tuple) or not value:
         return False
-    shape = Shape(program, name)
+    shape = program._shapes[name]
     return all([shape.is_begin(begin) for begin in value]) and ascends(value)
 
 
@@ -100,16 +98,11 @@ def _check(program, value):
         raise InvalidKnowing("this is no knowing of the program")
 
 
-def _is_pair_of(shape, value):
-    """Whether a value is a pair of a begin and a now of a procedure with this shape."""
-    return isinstance(value, tuple) and len(value) == 2 and shape.is_begin(value[0]) and shape.is_now(value[1])
-
-
 def _are_ends(program, name, value):
     """Whether a value is an ascending tuple of pairs of a begin and a state of a procedure, at least one."""
     if not isinstance(value, tuple) or not value:
         return False
-    shape = Shape(program, name)
+    shape = program._shapes[name]
     pairs = [part for part in value if isinstance(part, tuple) and len(part) == 2]
     if len(pairs) < len(value):
         return False
@@ -120,4 +113,4 @@ def _ends(mind, knowing):
     """The ends of a coded knowing."""
     pairs = mind.after(knowing).get(("leave", knowing[0]), ())
     # Decoded like nows, without their place.
-    return tuple([(begin, now[1:]) for begin, now in mind.decoded((knowing[0], pairs))[1]])
+    return tuple([(begin, now[1:]) for begin, now in mind.told_of((knowing[0], pairs))[1]])

@@ -31,6 +31,7 @@ class Outcomes:
             given = mind.after(item[1]).get(("leave", program.main))
             if given is not None:
                 self._note((mind.standings_in(name, given), True), many + 1, item)
+        self._least_standings = least_among(sorted({standings for standings, at_end in self._shortest}))
 
     def told(self):
         """The list of all outcomes."""
@@ -38,7 +39,7 @@ class Outcomes:
 
     def least_standings(self):
         """The ascending list of all that can stand at a log, but for what has all of another such tuple in it."""
-        return least_among(sorted({standings for standings, at_end in self._shortest}))
+        return list(self._least_standings)
 
     def many_lines(self, outcome):
         """The least number of lines of a log with an outcome."""

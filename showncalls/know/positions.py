@@ -33,7 +33,7 @@ def lines_at(mind, position):
     return () if knowing is None else tuple(list(mind.after(knowing)))
 
 
-def standings_at(mind, position):
-    """The ascending tuple of all standings that can stand."""
+def fact_at(mind, position):
+    """The fact with all standings that can stand."""
     knowing, below = position
-    return below if knowing is None else mind.standings_in(knowing[0], knowing[1])
+    return mind.fact_with(below if knowing is None else mind.standings_in(knowing[0], knowing[1]))

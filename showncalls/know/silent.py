@@ -1,6 +1,6 @@
 """Silent moves: how quiet calls are passed, and to which nows a seen call goes on without a line."""
 
-from showncalls.base.shapes import Shape, check_program
+from showncalls.base.shapes import check_program
 from showncalls.errors import InvalidOperation, UnknownName
 from showncalls.know.walks import walks_of
 
@@ -22,7 +22,7 @@ def nows(program, name, now):
     _check_now(program, name, now)
     walks = walks_of(program)
     codes = walks.codes_of(name)
-    reached = walks.costs_from((name, codes.code_of(now), True))
+    reached = walks.silently_from(name, codes.code_of(now))
     return tuple([codes.now_of(code) for code in sorted(reached)])
 
 
@@ -46,5 +46,5 @@ def _check(program, name):
 
 def _check_now(program, name, now):
     _check(program, name)
-    if not Shape(program, name).is_now(now):
+    if not program._shapes[name].is_now(now):
         raise InvalidOperation("this is no now of the procedure")

@@ -1,6 +1,6 @@
 """Tables of knowings, which hold for all logs of a program."""
 
-from showncalls.base.checks import ascends, is_integer
+from showncalls.base.checks import ascends, has_all_of, is_integer
 from showncalls.base.shapes import check_fact, check_program, is_heard
 from showncalls.errors import InvalidNumber, InvalidTable, TooMany
 from showncalls.know.closed import is_closed_under
@@ -162,4 +162,4 @@ def is_knowing_in(program, context, value):
 
 def are_all_in(fact, standings):
     """Whether a fact has all of some standings."""
-    return all([standing in fact for standing in standings])
+    return has_all_of(fact._held, standings)

@@ -3,12 +3,14 @@
 from heapq import heappop, heappush
 
 from showncalls.know.codes import Codes
-from showncalls.run.steps import Steps
+
+
+MOST_SETTLED = 1000000
 
 
 def walks_of(program):
-    """The walks of a program, which are made once."""
-    if "walks" not in program._kept:
+    """The walks of a program, which are made once, and anew if they have become too great."""
+    if "walks" not in program._kept or program._kept["walks"].is_great():
         program._kept["walks"] = Walks(program)
     return program._kept["walks"]
 
@@ -22,7 +24,7 @@ class Walks:
 
     def __init__(self, program):
         self._program = program
-        self._steps = Steps(program)
+        self._steps = program._steps
         self._codes = {name: Codes(program, name) for name in program.names}
         # By pairs of a procedure and a code, and for `_behind` with what the call that is there ends with, too.
         self._stops = {}
@@ -38,6 +40,11 @@ class Walks:
         self._parts = {}
         self._queue = []
         self._pushed = 0
+        self._settled = 0
+
+    def is_great(self):
+        """Whether so many walks are kept that it is better to start anew."""
+        return self._settled > MOST_SETTLED
 
     def codes_of(self, name):
         """The codes of a procedure."""
@@ -67,6 +74,32 @@ class Walks:
         """The list of the codes of all ends of the body to which silent moves lead."""
         self.costs_from(source)
         return self._found_ends[source]
+
+    def silently_from(self, name, code):
+        """The list of the codes of all nows to which a now of a seen call goes on silently, itself first."""
+        found = {code: True}
+        waiting = [code]
+        while waiting:
+            for behind in self._codes_silently_behind(name, waiting.pop()):
+                if behind not in found:
+                    found[behind] = True
+                    waiting.append(behind)
+        return list(found)
+
+    def _codes_silently_behind(self, name, code):
+        """The list of the codes behind the silent moves, or the calls passed silently, at a now of a seen call."""
+        kind, found = self.stop(name, code)
+        if kind == "move":
+            return [behind for line, behind in found if line is None]
+        if kind == "leave" or not self._is_passed(name, found[0]):
+            return []
+        called, begin = found
+        return [self.given_back(name, code, called, end) for end in self.ends_from((called, begin, False))]
+
+    def _is_passed(self, name, called):
+        """Whether a seen call of one procedure passes calls of another one silently."""
+        # A quiet procedure may be asked for as if it were not quiet; then its calls of itself are seen, too.
+        return self._program[called].quiet and called != name
 
     def given_back(self, name, call, called, end):
         """The code of the now behind a call, if the procedure that is called ends with this code."""
@@ -105,6 +138,7 @@ class Walks:
         cost, _, source, code, parts = entry
         if code in self._costs[source]:
             return
+        self._settled += 1
         self._costs[source][code] = cost
         self._parts[source, code] = parts
         name, _, seen = source
@@ -113,8 +147,7 @@ class Walks:
             self._end(source, code)
         elif kind == "call":
             called, begin = found
-            # A quiet procedure may be asked for as if it were not quiet; then its calls of itself are seen, too.
-            if not seen or self._program[called].quiet and called != name:
+            if not seen or self._is_passed(name, called):
                 self._call(source, code, (called, begin, False))
         else:
             for index, (line, behind) in enumerate(found):

@@ -1,12 +1,11 @@
 """Watchers, which go along a log line by line."""
 
 from showncalls.base.checks import is_number
-from showncalls.base.facts import Fact
 from showncalls.base.shapes import check_fact, check_program
 from showncalls.base.words import is_line, is_log
 from showncalls.errors import InvalidLog, InvalidNumber, InvalidOperation, TooMany, Unseen
 from showncalls.know.minds import mind_of
-from showncalls.know.positions import first_position, lines_at, next_position, standings_at
+from showncalls.know.positions import fact_at, first_position, lines_at, next_position
 from showncalls.know.trails import shortest_run
 from showncalls.run.runs import MAX_MOVES, Run
 
@@ -33,8 +32,9 @@ class Watcher:
         self._program = program
         self._mind = mind_of(program)
         self._seen = [("enter", program.main)]
-        # The positions behind all lines that have been seen.
+        # Behind each line that has been seen: the position, and the fact with all standings that can stand.
         self._positions = [first_position(self._mind)]
+        self._facts = [fact_at(self._mind, self._positions[0])]
 
     @classmethod
     def along(cls, program, log):
@@ -67,7 +67,7 @@ class Watcher:
     @property
     def can_stand(self):
         """The fact with all standings that can stand."""
-        return Fact(self._program.shared, standings_at(self._mind, self._positions[-1]))
+        return self._facts[-1]
 
     def see(self, line):
         """See one more line."""
@@ -78,6 +78,7 @@ class Watcher:
             raise Unseen(line)
         self._seen.append(line)
         self._positions.append(position)
+        self._facts.append(fact_at(self._mind, position))
 
     def lines(self):
         """The ascending tuple of all lines that it can see next."""
@@ -86,13 +87,15 @@ class Watcher:
     def knows(self, fact):
         """Whether a fact is known."""
         check_fact(self._program, fact)
-        return self.can_stand.is_within(fact)
+        return self._facts[-1].is_within(fact)
 
     def answer(self, fact):
         """What is known of a fact: "surely", "never" or "open"."""
-        if self.knows(fact):
+        check_fact(self._program, fact)
+        told = [standing in fact._held for standing in self._facts[-1].standings]
+        if all(told):
             return "surely"
-        return "never" if len(self.can_stand & fact) == 0 else "open"
+        return "open" if any(told) else "never"
 
     def run(self, standing):
         """Any shown run with this log that ends with a standing."""
@@ -110,6 +113,7 @@ class Watcher:
         left = len(self._seen) - many
         del self._seen[left:]
         del self._positions[left:]
+        del self._facts[left:]
         return left
 
     def trial(self):
@@ -128,6 +132,7 @@ class Watcher:
         made._mind = self._mind
         made._seen = list(self._seen)
         made._positions = list(self._positions)
+        made._facts = list(self._facts)
         return made
 
     def __call__(self, line):
@@ -150,13 +155,16 @@ class Trial:
         self._watcher = watcher
         self._seen = []
         self._positions = []
+        self._facts = []
 
     def __enter__(self):
         self._seen = list(self._watcher._seen)
         self._positions = list(self._watcher._positions)
+        self._facts = list(self._watcher._facts)
         return self._watcher
 
     def __exit__(self, kind, value, trace):
         watcher = self._watcher
         watcher._seen = self._seen
         watcher._positions = self._positions
+        watcher._facts = self._facts

@@ -1,9 +1,8 @@
 """Situations, their moves, and runs."""
 
 from showncalls.base.checks import is_number
-from showncalls.base.shapes import Shape, check_program, is_call, is_standing
+from showncalls.base.shapes import check_program, is_standing
 from showncalls.errors import InvalidNumber, InvalidOperation, InvalidRun, TooMany
-from showncalls.run.steps import Steps
 
 MAX_MOVES = 1000
 
@@ -13,12 +12,19 @@ def is_situation(program, value):
     check_program(program)
     if not isinstance(value, tuple) or len(value) != 2 or not is_standing(program, value[0]):
         return False
-    standing, frames = value
-    if not isinstance(frames, tuple) or not all([_is_frame(program, standing, frame) for frame in frames]):
+    # The procedure that the next frame has to have, None if there can be no next one.
+    due = program.main
+    frames = value[1]
+    if not isinstance(frames, tuple):
         return False
-    if frames and frames[0][0] != program.main:
-        return False
-    return all([is_call(program, frames[at][0], frames[at][1], frames[at + 1][0]) for at in range(len(frames) - 1)])
+    for frame in frames:
+        if not isinstance(frame, tuple) or len(frame) != 3:
+            return False
+        name, place, own = frame
+        if due is None or name != due or not program._shapes[due].is_at(place, own):
+            return False
+        due = program._shapes[due].called_at(place)
+    return True
 
 
 def moves(program, situation):
@@ -147,13 +153,6 @@ class Run:
         return f"run of {len(self._choices)} moves, {len(self.log)} lines"
 
 
-def _is_frame(program, standing, value):
-    """Whether a value is a frame of the program, whatever frames there are beside it."""
-    if not isinstance(value, tuple) or len(value) != 3 or value[0] not in program:
-        return False
-    return Shape(program, value[0]).is_now((value[1], standing, value[2]))
-
-
 def _made(program, situation, choices):
     """The list of the pairs of a line, or None, and a situation for the moves, as far as they can be made."""
     made = []
@@ -168,27 +167,30 @@ def _made(program, situation, choices):
 
 def _moves(program, situation):
     """The moves of what surely is a situation of the program."""
-    found = _moves_with_lines(program, situation)
-    frames = situation[1]
-    return tuple([(_line_written(program, line, frames, behind[1]), behind) for line, behind in found])
-
-
-def _moves_with_lines(program, situation):
-    """The list of pairs of a line, or None, and a situation for all moves, whether or not a quiet one is there."""
     standing, frames = situation
     if not frames:
-        return []
+        return ()
     name, place, own = frames[-1]
-    outer, now = frames[:-1], (place, standing, own)
-    steps = Steps(program)
+    outer = frames[:-1]
+    steps = program._steps
     statement = program.statement(name, place)
+    is_hidden = _has_quiet_frame(program, frames)
     if statement is None:
-        return [(("leave", name), _left(steps, outer, standing, own))]
+        return ((None if is_hidden else ("leave", name), _left(steps, outer, standing, own)),)
     if statement[0] == "call":
-        begin = steps.begin_given(name, now)
-        return [(("enter", statement[1]), (begin[0], frames + ((statement[1], 0, begin[1]),)))]
-    return [(line, (behind[1], outer + ((name, behind[0], behind[2]),)))
-            for line, behind in steps.inner_moves(name, now)]
+        called = statement[1]
+        standing, inner = steps.begin_given(name, (place, standing, own))
+        line = None if is_hidden or program[called].quiet else ("enter", called)
+        return ((line, (standing, frames + ((called, 0, inner),))),)
+    found = steps.inner_moves(name, (place, standing, own))
+    return tuple([(None if is_hidden else line, (behind[1], outer + ((name, behind[0], behind[2]),)))
+                  for line, behind in found])
+
+
+def _has_quiet_frame(program, frames):
+    """Whether one of some frames is that of a quiet procedure."""
+    quiet = [procedure.called for procedure in program.procedures if procedure.quiet]
+    return len(quiet) > 0 and any([frame[0] in quiet for frame in frames])
 
 
 def _left(steps, outer, standing, own):
@@ -198,11 +200,3 @@ def _left(steps, outer, standing, own):
     name, place, own_ahead = outer[-1]
     behind = steps.now_given_back(name, (place, standing, own_ahead), (standing, own))
     return (behind[1], outer[:-1] + ((name, behind[0], behind[2]),))
-
-
-def _line_written(program, line, frames, frames_behind):
-    """The line of a move, or None if the move is silent."""
-    # One of both has all frames of the other one, but for the numbers of the last one.
-    longer = frames if len(frames) > len(frames_behind) else frames_behind
-    quiet = any([program[frame[0]].quiet for frame in longer])
-    return None if quiet else line

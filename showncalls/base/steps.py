@@ -1,21 +1,25 @@
 """What one move does within a frame, and what calls pass on and give back."""
 
+from showncalls.base.cells import with_own
+
 
 class Steps:
     """The moves of the procedures of a program within one frame. A now is a triple (place, standing, own)."""
 
-    def __init__(self, program):
-        self._program = program
-        self._shared_places = {cell: at for at, cell in enumerate(sorted(program.shared))}
+    def __init__(self, shared, procedures, places):
+        # By procedure: for each place the statement, the place behind it and the places into its bodies.
+        self._places = places
+        self._shared_places = {cell: at for at, cell in enumerate(sorted(shared))}
         self._own_places = {procedure.called: {procedure.own[at][0]: at for at in range(len(procedure.own))}
-                            for procedure in program.procedures}
-        self._sizes = {name: program.cells_of(name) for name in program.names}
+                            for procedure in procedures}
+        self._sizes = {procedure.called: with_own(shared, procedure.own) for procedure in procedures}
+        self._zeros = {procedure.called: tuple([0 for pair in procedure.own]) for procedure in procedures}
 
     def inner_moves(self, name, now):
         """The list of pairs of a line, or None, and the now behind it, at a statement that is no call."""
-        statement = self._program.statement(name, now[0])
+        statement, place_behind, intos = self._places[name][now[0]]
         kind = statement[0]
-        behind = (self._program.behind(name, now[0]),) + now[1:]
+        behind = (place_behind,) + now[1:]
         if kind == "set":
             return [(None, self._holding(name, behind, statement[1], self._looked_up(name, now, statement)))]
         if kind == "hide":
@@ -27,31 +31,26 @@ class Steps:
         if kind == "say":
             told = () if statement[2] is None else (self._number(name, now, statement[2]),)
             return [(statement[:2] + told, behind)]
-        return [(None, (place,) + now[1:]) for place in self._branches(name, now, statement)]
+        if kind == "if":
+            intos = intos[:1] if self._number(name, now, statement[1]) == statement[2] else intos[1:]
+        elif kind == "often":
+            intos = intos + (place_behind,)
+        return [(None, (place,) + now[1:]) for place in intos]
 
     def begin_given(self, name, now):
         """The begin that the call at a now gives."""
-        called, cell = self._program.statement(name, now[0])[1:3]
-        own = tuple([0 for pair in self._program[called].own])
+        called, cell = self._places[name][now[0]][0][1:3]
+        own = self._zeros[called]
         if cell is not None:
             own = (self._number(name, now, cell),) + own[1:]
         return (now[1], own)
 
     def now_given_back(self, name, now, end):
         """The now behind the call at a now, if it is left with this standing and these own numbers."""
-        cell = self._program.statement(name, now[0])[3]
-        behind = (self._program.behind(name, now[0]), end[0], now[2])
+        statement, place_behind, intos = self._places[name][now[0]]
+        cell = statement[3]
+        behind = (place_behind, end[0], now[2])
         return behind if cell is None else self._holding(name, behind, cell, end[1][0])
-
-    def _branches(self, name, now, statement):
-        """The list of the places to which an "if", an "either" or an "often" leads."""
-        place = now[0]
-        if statement[0] == "if":
-            index = 0 if self._number(name, now, statement[1]) == statement[2] else 1
-            return [self._program.into(name, place, index)]
-        if statement[0] == "either":
-            return [self._program.into(name, place, 0), self._program.into(name, place, 1)]
-        return [self._program.into(name, place, 0), self._program.behind(name, place)]
 
     def _looked_up(self, name, now, statement):
         """The number that the table of a "set" has for the row that its cells hold."""
