@@ -239,6 +239,12 @@ class Judged(Case):
         for now in ((0, (True,), ()), (False, (1,), ()), (0, [1], ()), (0, (1,), []), (0, (1,)), [0, (1,), ()]):
             bent = ((name, pairs[:-1] + ((pairs[-1][0], now),)), other)
             self.assertIs(is_alike_paper(MIRROR, STILL, ("alike", {**table, main: (bent,) + table[main][1:]})), False)
+        # A triple that is one on one side alone.
+        for triple in (("p", inner[1], inner[2] + (((5,), ()),)), ("p", inner[1] + (((5,), ()),), inner[2]), ("p", inner[1], inner[2][::-1]), ("p", [*inner[1]], inner[2]),
+                       ("main", main[1], main[2][:1]), ("p", inner[1], (((True,), ()),))):
+            if not isinstance(triple[1], list):
+                self.assertIs(is_alike_paper(MIRROR, STILL, ("alike", {**table, triple: table[inner]})), False)
+                self.assertIs(is_alike_paper(MIRROR, STILL, ("alike", {**table, triple: table[main]})), False)
         part = ("main", main[1][:1], main[2])
         fewer = ((("main", pairs[:1]), other),)
         self.assertIs(is_alike_paper(MIRROR, STILL, ("alike", {**table, part: fewer})), False)

@@ -7,6 +7,9 @@ from showncalls.base.programs import Program
 from showncalls.base.words import is_log
 from showncalls.errors import InvalidFact, InvalidNumber, InvalidProgram, TooMany
 from showncalls.give.counts import count_known, count_logs, logs
+from showncalls.know.lengths import Lengths
+from showncalls.know.minds import mind_of
+from showncalls.know.positions import first_position, next_position
 from showncalls.know.watchers import Watcher, is_log_of
 from tests import oracle
 from tests.helper import DEEP, HALF, HUGE, MIRROR, ODD, OUTER, Case
@@ -149,6 +152,22 @@ class Logs(Case):
         for many in (5, 8, 11):
             found = list(logs(program, many))
             self.same([len(found), found], [count_logs(program, many), sorted(set(found))])
+
+    def test_only_beginnings_of_wanted_logs_are_gone_along(self):
+        some = {True: 0, False: 0}
+        for seed in range(120):
+            program = Maker(seed + 7800, statements=5).program()
+            found = oracle.sure_logs(program, 7) if count_logs(program, 7) < 300 else None
+            for log in sorted(found or ())[:40]:
+                mind = mind_of(program)
+                lengths, position = Lengths(mind), first_position(mind)
+                for line in log[1:]:
+                    position = next_position(mind, position, line)
+                for many in range(8 - len(log)):
+                    due = any(len(other) == len(log) + many and other[:len(log)] == log for other in found)
+                    self.assertIs(lengths.can_follow(position, many), due)
+                    some[due] += 1
+        self.assertGreater(min(some.values()), 500)
 
     def test_programs_with_more_than_four_hundred_knowings(self):
         program = with_knowings(1)

@@ -184,6 +184,7 @@ class Joining(Case):
         end = self.GIVEN[0]
         for given in ODD + ((), [end], end, (end, end), ((((1,), (0,)), end[1]), end), ((end[0], ((0,), (2,))),), ((end[0], ((0,), ())),),
                             ((end[0], ((2,), (0,))),), ((((0,), (2,)), end[1]),), ((((0,), ()), end[1]),), ((end[0],),), (end + end,),
+                            ((end[0], [(0,), (0,)]),), ((end[0], ((0,), (0,), (0,))),), ((end[0], ((0,),)),), ((end[0], ([0], (0,))),), ((end[0], ((0,), [0])),),
                             ((end[0], ((True,), (0,))),), ([end[0], end[1]],), (None, end), ((end[0], (0, (0,), (0,))),), {end: True}):
             self.fails(InvalidKnowing, joined, OUTER, KEPT, "p", given)
             self.fails(InvalidKnowing, joined, OUTER, START, "p", given)

@@ -22,7 +22,7 @@ MIXED = Program(
     procedure("p", ("either", (("say", "w", "a"), call("p", "a", "a")), (("ask", "v", "a"),)), own=(("a", 2),)), procedure("q", SAY, quiet=True),
 )
 NO_PARTS = ODD + (("word",), ("word", "w", "w"), ["word", "w"], ("word", "zzz"), ("call", "main"), ("call", "q"), ("call", "zzz"), ("call", "w"), ("word", "p"),
-                  ("Word", "w"), ("word", None), ("call", None), ("word", ["w"]), ("call", ("p",)), (None, "w"), ("call", True), (("word",), "w"))
+                  ("Word", "w"), ("word", None), ("call", None), ("word", ["w"]), ("call", ("p",)), (None, "w"), ("call", True), (("word",), "w"), ("Call", "p"), (None, "p"), ("calls", "p"))
 
 
 def some(values):
@@ -195,6 +195,13 @@ class Greatest(Case):
         self.same([greatest_shown(HALF, parts[:1], (one,)), greatest_shown(HALF, parts[:1], (Fact.where(HALF.shared, {"k": 1}),))], [((),), ()])
         self.same(greatest_shown(HALF, parts, (Fact.where(HALF.shared, {"k": 1}),)), ((parts[0],),))
         self.same(greatest_shown(OUTER, parts_of(OUTER), (Fact.where(OUTER.shared, {"n": 1}),)), self.greatest(OUTER, parts_of(OUTER), (Fact.where(OUTER.shared, {"n": 1}),)))
+
+    def test_they_ascend(self):
+        # With b and one of the others x is known; the others tell the same.
+        body = HALF["main"].body + (("say", "c", "s"),)
+        program = HALF.with_procedure(Procedure("main", body, own=HALF["main"].own))
+        a, b, c = parts_of(program)
+        self.same(greatest_shown(program, (a, b, c), (Fact.where(program.shared, {"x": 1}),)), ((a, c), (b,)))
 
     def test_four_parts_and_five(self):
         says = [("say", word, None) for word in "abcde"]

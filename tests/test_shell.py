@@ -127,7 +127,7 @@ class Wrong(Case):
             "know half x is 0 or k is 1", "know half x is 0 and and k is 1", "know half and x is 0", "know half x is " + "1" * 41, "know half x is 0\n", "know half x is 1.0", "know half x is abcdefghi",
             "settled half", "settled half x", "ask half", "ask half x is 0 and k", "silent", "silent half half", "silent half\n", "alike half", "alike half outer half", "nomore half", "nomore half outer\n",
             "see half", "see half say", "see half say a 1 1", "see half say a 10", "see half ask a", "see half enter", "see half enter p q", "see half leave", "see half Enter p", "see half say a  1",
-            "see half  say a 1", "see half say A", "see half say a -1", "see half say a 1\n", "see half tell a", "back half", "back half 01", "back half 00", "back half -1", "back half +1", "back half 1 1",
+            "see half  say a 1", "see half say A", "see half say a -1", "see half say a 1\n", "see half tell a", "back half", "back half 01", "back half 00", "back half -1", "back half +1", "back half 1 1", "back half ", "know half x is ", "settled half x is 1 and k is ", "see half ", "less half x call ", "copy half ",
             "back half one", "back half 1\n", "back half " + "1" * 41, "back half  1", "back half 1 ", "help", "undo", "half", "x is 0", "back 1 half", "less half x  word a",
         ):
             self.refused(InvalidCommand, command)

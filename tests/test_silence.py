@@ -70,6 +70,37 @@ class StuckRuns(Case):
                           procedure("q", ("hide", "b"), own=(("b", 2),), quiet=True), RING)
         self.same([is_stuck_run(program, (), choices) for choices in ((0,), (0, 0), (0, 1), (0, 1, 0), (0, 0, 0))], [False, False, True, True, False])
 
+    def test_deep_quiet_calls(self):
+        # Each one turns the number that the next one gives back; with 1 no line comes at last.
+        turned = [procedure(name, call(following, None, "a"), ("set", "a", ("a",), (1, 0)), own=(("a", 2),), quiet=True) for name, following in zip("bcdef", "cdefg")]
+        last = procedure("g", ("either", (("set", "a", (), (0,)),), (("set", "a", (), (1,)),)), own=(("a", 2),))
+        for depth in range(1, 6):
+            main = procedure("main", call(turned[5 - depth].called, None, "a"), ("if", "a", 1, (call("z"),), ()), SAY, own=(("a", 2),))
+            program = Program({}, main, *turned[5 - depth:], last, RING)
+            # Turned an odd number of times, 0 is what is left at last without a line.
+            for index in (0, 1):
+                stuck = index == 1 if depth % 2 == 0 else index == 0
+                choices = (0,) * (depth + 1) + (index,)
+                self.same([is_stuck_run(program, (), choices[:-1]), is_stuck_run(program, (), choices), is_stuck_run(program, (), choices + (0,))], [False, stuck, stuck])
+                if stuck:
+                    self.same(silent_paper(program), ("stuck", ((), choices)))
+
+    def test_a_ring_that_not_all_come_to(self):
+        ring = procedure("z", ("if", "x", 1, (call("z"),), ()), quiet=True)
+        program = Program({"x": 2}, procedure("main", ("hide", "x"), call("z"), SAY), ring)
+        self.same([is_silent(program), silent_paper(program)], [False, ("stuck", ((0,), (1,)))])
+        self.same([is_stuck_run(program, (1,), choices) for choices in ((), (0,), (1,), (0, 0, 0, 0), (1, 0, 0, 0))], [False, False, True, False, True])
+        seen = Program({"x": 2}, procedure("main", call("p")), procedure("p", ("hide", "x"), ("if", "x", 1, (call("z"),), ()), SAY), ring)
+        self.same([is_silent(seen), silent_paper(seen)[1][1]], [False, (0, 1)])
+
+    def test_a_call_at_two_places(self):
+        # The way to the first place is the shorter one.
+        turn = ("set", "x", ("x",), (1, 0))
+        inner = procedure("q", *[turn] * 8, ("hide", "x"), ("if", "x", 1, (call("z"),), ()), quiet=True)
+        for body, index in ((((call("q"),), (*[turn] * 4, call("q"))), 0), (((*[turn] * 4, call("q")), (call("q"),)), 1)):
+            program = Program({"x": 2}, procedure("main", ("either", *body), SAY), inner, RING)
+            self.same(silent_paper(program)[1][1], (index, 0) + (0,) * 8 + (1,))
+
     def test_against_all_runs(self):
         many = {True: 0, False: 0}
         for seed in range(150):
@@ -269,6 +300,21 @@ class Judged(Case):
             for kind, (start, choices) in due:
                 self.same([is_silent_paper(program, (kind, (start, choices[:-1] + rest))) for rest in ((), (0,), (1,), (1, 0), (1,) + (0,) * 5000)],
                           [False, False, True, True, True])
+        # Within a seen call, and within a quiet one.
+        turn, inner = ("set", "x", ("x",), (1, 0)), procedure("p", ("hide", "x"), ("if", "x", 1, (call("z"),), ()))
+        for within, most in ((inner, 1), (procedure("u", call("p"), quiet=True), 0)):
+            for more in (most, most + 1):
+                program = with_moves(0)
+                body = program["main"].body[:-1] + (turn,) * more + (call(within.called), SAY)
+                program = Program.of(program.shared, (procedure("main", *body),) + program.procedures[1:3] + (procedure("t", *[turn] * 4, quiet=True), inner, RING)
+                                     + (() if within == inner else (within,)))
+                due = [("stuck", ((number,), (0,) * (999 + more - most) + (1,))) for number in (0, 1)]
+                self.same([is_silent_paper(program, paper) for paper in due], [True, True])
+                self.assertIs(is_silent(program), False)
+                if more == most:
+                    self.assertIn(silent_paper(program), due)
+                else:
+                    self.assertEqual(self.fails(TooMany, silent_paper, program).limit, 1000)
         # The frames pile up, too.
         self.assertIs(is_silent_paper(LOST, ("stuck", ((1,), (0,) * 30000))), True)
         self.assertIs(is_silent_paper(LOST, ("stuck", ((1,), (0,) * 30000 + (1,)))), False)
@@ -306,6 +352,8 @@ class Judged(Case):
                             ("stuck", ((0,), ())), ("stuck", (1,), ()), ("stuck", ((1,), 0)), ("stuck", (None, ()))):
             self.assertIs(is_silent_paper(LOST, value), False, value)
         self.same([is_silent_paper(LOST, ("stuck", ((1,), choices))) for choices in ((), (0,), (0, 0))], [True] * 3)
+        # Behind the leave of main there is no more move.
+        self.same([is_silent_paper(LOST, ("stuck", ((0,), (0,) * many))) for many in range(6)], [False] * 6)
         good = ("split", (MAIN,), ("say", "a", 0), ("say", "a", 1))
         for value in ODD + (good[:3], good + good[3:], list(good), ("Split",) + good[1:], good[:2] + (["say", "a", 0],) + good[3:], good[:3] + (("say", "a", True),),
                             good[:2] + (("say", "a", False),) + good[3:], ("split", [MAIN], *good[2:]), ("split", MAIN, *good[2:]), ("split", (), *good[2:]), good[:3] + (("say", "b", 1),)):

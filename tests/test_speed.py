@@ -5,10 +5,14 @@ from unittest.mock import patch
 
 from showncalls.base.facts import Fact
 from showncalls.base.programs import Procedure, Program
+from showncalls.compare.alike import alike_paper
+from showncalls.compare.more import more_paper
 from showncalls.compare.silent import silent_paper
 from showncalls.errors import InvalidFact, InvalidKnowing, InvalidLog, InvalidNumber, InvalidOperation, TooMany
+from showncalls.give.ends import settled_paper
+from showncalls.give.left import Left
 from showncalls.give.papers import fact_paper, is_fact_paper
-from showncalls.know.knowings import ends, entered, first_knowing, spoken
+from showncalls.know.knowings import ends, entered, first_knowing, possible, spoken
 from showncalls.know.silent import nows, passages
 from showncalls.know.tables import Table, is_closed, is_table
 from showncalls.know.watchers import Watcher, is_log_of
@@ -244,6 +248,33 @@ class SmallAndMany(Case):
                         self.assertEqual(nows(other, "main", (0,) + begin), nows(program, "main", (0,) + begin))
                     self.assertEqual([passages(other, name) for name in program.names], [passages(program, name) for name in program.names])
                     self.assertEqual(outcome(silent_paper, other), outcome(silent_paper, program))
+
+
+    def test_answers_do_not_rest_on_what_was_asked_before(self):
+        """[0.2]: equal calls on equal states return equal results, also if one of the programs was asked other things before."""
+        for seed in range(60):
+            maker = Maker(seed + 7900, statements=7, quiet=0.7)
+            program = maker.program()
+            table = Table(program)
+            every = Fact.every(program.shared).standings
+            fact = Fact(program.shared, tuple(sorted(maker.chance.sample(every, maker.chance.randint(0, len(every))))))
+            asks = [lambda one, log=table.shortest_log(context, knowing), row=row: Watcher.along(one, log).run(row).choices
+                    for context in table.contexts for knowing in table[context][:6] for row in possible(program, knowing).standings[:2]]
+            asks = maker.chance.sample(asks, min(12, len(asks)))
+            asks += [lambda one: outcome(silent_paper, one), lambda one: outcome(settled_paper, one, fact), lambda one: outcome(fact_paper, one, fact),
+                     lambda one: repr([nows(one, "main", (0,) + begin) for begin in one.begins("main")]), lambda one: repr([passages(one, name) for name in one.names]),
+                     lambda one: outcome(alike_paper, one, one), lambda one: outcome(more_paper, one, one), lambda one: outcome(left_log, one, fact)]
+            due = [ask(fresh(program)) for ask in asks]
+            for _ in range(2):
+                order = list(range(len(asks)))
+                maker.chance.shuffle(order)
+                used = fresh(program)
+                for at in order + order[::-1]:
+                    self.assertEqual(asks[at](used), due[at])
+
+
+def left_log(program, fact):
+    return [Left(program).log_for(part) for part in Left(program).sets] + [Left(program).log_for(fact, at_end=True)]
 
 
 class Times(Case):

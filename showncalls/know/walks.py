@@ -32,14 +32,13 @@ class Walks:
         # By source: the least number of moves to each code that is reached, and the codes of the ends among these.
         self._costs = {}
         self._found_ends = {}
-        # By source: the least number of moves to each code that has been found so far.
+        # By source: the least pair of a number of moves and of parts for each code that has been found so far.
         self._bounds = {}
         # By source: the walks, pairs of a source and a code, that go on behind a call which they have come to.
         self._callers = {}
         # By pairs of a source and a code: the parts of the walk, which are other walks and the indices of moves.
         self._parts = {}
         self._queue = []
-        self._pushed = 0
         self._settled = 0
 
     def is_great(self):
@@ -128,14 +127,13 @@ class Walks:
 
     def _reach(self, source, code, cost, parts):
         bounds = self._bounds[source]
-        if code not in bounds or cost < bounds[code]:
-            bounds[code] = cost
-            # The second number decides between equal costs, so that nothing else is compared.
-            heappush(self._queue, (cost, self._pushed, source, code, parts))
-            self._pushed += 1
+        # Of equal costs the least parts count, so that it does not matter what has been asked for before.
+        if code not in bounds or (cost, parts) < bounds[code]:
+            bounds[code] = (cost, parts)
+            heappush(self._queue, (cost, source, code, parts))
 
     def _settle(self, entry):
-        cost, _, source, code, parts = entry
+        cost, source, code, parts = entry
         if code in self._costs[source]:
             return
         self._settled += 1
