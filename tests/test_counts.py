@@ -169,6 +169,16 @@ class Logs(Case):
                     some[due] += 1
         self.assertGreater(min(some.values()), 500)
 
+    def test_where_no_line_comes(self):
+        program = Program({}, procedure("main", call("p"), SAY), procedure("p", SAY, call("z")), procedure("z", call("z"), quiet=True))
+        log = (MAIN, ("enter", "p"), ("say", "w"))
+        self.same([list(logs(program, many)) for many in (2, 3, 4, 5)], [[log[:2]], [log], [], []])
+        mind = mind_of(program)
+        position = first_position(mind)
+        for line in log[1:]:
+            position = next_position(mind, position, line)
+        self.same([Lengths(mind).can_follow(position, many) for many in range(4)], [True, False, False, False])
+
     def test_programs_with_more_than_four_hundred_knowings(self):
         program = with_knowings(1)
         self.same(list(logs(program, 40)), [straight_log_until(program, 40)])

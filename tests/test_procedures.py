@@ -102,6 +102,12 @@ class Form(Case):
     def test_without_keywords(self):
         self.same([Procedure("p", ()).own, Procedure("p", ()).quiet], [(), False])
 
+    def test_tables(self):
+        for table in ((0,), (3, 0), (0, 1, 2, 3) * 4):
+            self.assertEqual(len(Procedure("p", (("set", "c", ("d",), table),))), 1)
+        for table in ((), (4,), (0, 4), (4, 0), (0, 1, None), (0, True), (1, "0"), (0, (1,)), (0, -1), [0, 1], (0,) * 17, (0,) * 15 + (4,)):
+            self.fails(InvalidProgram, Procedure, "p", (("set", "c", ("d",), table),))
+
     def test_other_cells_and_procedures_do_not_matter(self):
         made = Procedure("p", (("set", "x", ("y", "z"), (3,)), ("call", "q", "r", "s"), ("if", "a", 3, (), ()),
                                ("ask", "w", "a"), ("ask", "w", "b"), ("call", "p", "a", None)), own=(("a", 2), ("b", 3)))
