@@ -1,7 +1,7 @@
 """Pairs of knowings: where two programs are at one and the same log."""
 
 from showncalls.base.checks import ascends
-from showncalls.know.tables import is_context, is_knowing_in
+from showncalls.know.tables import is_context, is_knowing_of
 
 
 class PairMind:
@@ -91,13 +91,16 @@ def _is_triple(one, other, value):
 
 def _are_pairs(one, other, triple, value):
     """Whether a value is an ascending tuple of pairs of knowings that a triple can have, at least one."""
-    if not isinstance(value, tuple) or not value:
-        return False
-    return all([_is_pair_in(one, other, triple, pair) for pair in value]) and ascends(value)
-
-
-def _is_pair_in(one, other, triple, value):
-    if not isinstance(value, tuple) or len(value) != 2:
+    if not isinstance(value, tuple) or not value or not all([_is_tuple_of_two(pair) for pair in value]):
         return False
     name, begins, other_begins = triple
-    return is_knowing_in(one, (name, begins), value[0]) and is_knowing_in(other, (name, other_begins), value[1])
+    among = {begin: True for begin in begins}
+    other_among = {begin: True for begin in other_begins}
+    for knowing, other_knowing in value:
+        if not is_knowing_of(one, name, among, knowing) or not is_knowing_of(other, name, other_among, other_knowing):
+            return False
+    return ascends(value)
+
+
+def _is_tuple_of_two(value):
+    return isinstance(value, tuple) and len(value) == 2

@@ -150,14 +150,16 @@ def _are_knowings(program, context, value):
     """Whether a value is an ascending tuple of knowings that a context can have, at least one."""
     if not isinstance(value, tuple) or not value:
         return False
-    return all([is_knowing_in(program, context, knowing) for knowing in value]) and ascends(value)
+    name, begins = context
+    among = {begin: True for begin in begins}
+    return all([is_knowing_of(program, name, among, knowing) for knowing in value]) and ascends(value)
 
 
-def is_knowing_in(program, context, value):
-    """Whether a value is a knowing of the same procedure whose begins are among those of a context."""
-    if not is_knowing(program, value) or value[0] != context[0]:
+def is_knowing_of(program, name, begins, value):
+    """Whether a value is a knowing of a procedure with some of these begins, which are the keys of a dict."""
+    if not is_knowing(program, value) or value[0] != name:
         return False
-    return all([begin in context[1] for begin, now in value[1]])
+    return all([begin in begins for begin, now in value[1]])
 
 
 def are_all_in(fact, standings):
