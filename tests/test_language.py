@@ -25,7 +25,7 @@ METHODS = set(
     "append clear copy count endswith extend find get index insert isalnum isalpha isdigit islower isspace isupper "
     "items join keys ljust lower lstrip partition pop remove replace reverse rfind rjust rpartition rsplit rstrip "
     "setdefault split splitlines startswith strip update upper values zfill bit_length add discard sort "
-    "appendleft popleft __init__".split()
+    "appendleft popleft isascii __init__".split()
 )
 SPECIAL = set(
     "init eq repr str len enter exit call iter lt le gt ge ne add sub mul floordiv mod pow and or xor lshift rshift "
@@ -274,9 +274,12 @@ class Operators(Case):
                            if all(isinstance(value, ast.Call) and ast.unparse(value.func) in self.inits for value in values)}
             if node.name == "__init__":
                 new_objects.add("self")
+            kept = kept_by(node)
             for part in ast.walk(node):
                 where = (node.name, part.lineno) if hasattr(part, "lineno") else None
                 self.assertNotIsInstance(part, ast.Delete, where)
+                if kept is not None and isinstance(part, ast.Attribute) and part.attr == kept:
+                    continue
                 if isinstance(part, ast.AugAssign):
                     self.assertTrue(isinstance(part.target, ast.Name) and isinstance(part.value, ast.Constant), where)
                 elif isinstance(part, ast.Attribute) and isinstance(part.ctx, ast.Store):
@@ -284,7 +287,33 @@ class Operators(Case):
                 elif isinstance(part, ast.Subscript) and isinstance(part.ctx, ast.Store):
                     self.assertIn(ast.unparse(part.value), new_lists, where)
                 elif isinstance(part, ast.Call) and getattr(part.func, "attr", "") in CHANGING:
-                    self.assertIn(ast.unparse(part.func.value), new_lists, where)
+                    changed = part.func.value
+                    if isinstance(changed, ast.Call) and getattr(changed.func, "attr", "") == "setdefault":
+                        # A new list in a new dict.
+                        self.assertTrue(is_new_list(changed.args[1]), where)
+                        changed = changed.func.value
+                    self.assertIn(ast.unparse(changed), new_lists, where)
+
+    def test_kept_answers(self):
+        kept = {}
+        for path, node in nodes(ast.ClassDef):
+            for part in node.body:
+                name = kept_by(part) if isinstance(part, ast.FunctionDef) else None
+                if name is not None:
+                    self.assertNotIn(name, kept)
+                    kept[name] = node.name
+                    self.assertIn(f"self.{name} = None", [ast.unparse(one) for one in ast.walk(self.inits[node.name][0]) if isinstance(one, ast.Assign)])
+        self.assertLessEqual({"_shapes", "_steps", "_knowings"}, set(kept))
+        for name in kept:
+            # Once in `__init__`, and three times where it is kept; and nowhere else, whatever the class is.
+            self.assertEqual(sum(node.attr == name for path, node in nodes(ast.Attribute)), 4, name)
+            self.assertEqual([path for path, node in nodes(ast.Constant) if node.value == name], [])
+            self.assertEqual([path for path, node in nodes((ast.keyword, ast.arg)) if node.arg == name], [])
+
+    def test_returns_of_len(self):
+        for node in self.methods["__len__"]:
+            returns = [part.value for part in ast.walk(node) if isinstance(part, ast.Return)]
+            self.assertTrue(all(isinstance(value, ast.Call) and ast.unparse(value.func) == "len" for value in returns), node.lineno)
 
     def test_no_name_means_two_things(self):
         attributes = {node.attr for path, node in nodes(ast.Attribute) if isinstance(node.ctx, ast.Store)}
@@ -293,6 +322,19 @@ class Operators(Case):
         for name, found in self.methods.items():
             kinds = {tuple(ast.unparse(one) for one in node.decorator_list) for node in found}
             self.assertEqual(len(kinds), 1, name)
+
+
+def kept_by(node):
+    """The attribute in which a property keeps its answer, or None if it is none that does."""
+    if [ast.unparse(one) for one in node.decorator_list] != ["property"]:
+        return None
+    rows = [part for part in node.body if not isinstance(part, ast.Expr)]
+    if len(rows) != 2 or not isinstance(rows[0], ast.If) or not isinstance(rows[1], ast.Return) or len(rows[0].body) != 1:
+        return None
+    told = ast.unparse(rows[1].value)
+    if ast.unparse(rows[0].test) != f"{told} is None" or rows[0].orelse or not isinstance(rows[0].body[0], ast.Assign):
+        return None
+    return rows[1].value.attr if [ast.unparse(one) for one in rows[0].body[0].targets] == [told] else None
 
 
 def assigned_in(node):

@@ -15,7 +15,7 @@ def are_integers(values):
     """Whether all of some values are integers."""
     # A loop, since rows of numbers are asked about more often than anything else.
     for value in values:
-        if not isinstance(value, int) or value is True or value is False:
+        if type(value) != int:
             return False
     return True
 

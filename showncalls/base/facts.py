@@ -21,7 +21,7 @@ class Fact:
     def every(cls, cells):
         """The fact with all standings."""
         _check_cells(cells)
-        return _made(in_order(cells), standings_of(cells))
+        return made_fact(in_order(cells), standings_of(cells))
 
     @classmethod
     def where(cls, cells, numbers):
@@ -31,14 +31,14 @@ class Fact:
             raise InvalidFact("these are no numbers that some of the cells can hold")
         held = [(at, numbers[name]) for at, name in enumerate(sorted(cells)) if name in numbers]
         fitting = [row for row in standings_of(cells) if all([row[at] == number for at, number in held])]
-        return _made(in_order(cells), tuple(fitting))
+        return made_fact(in_order(cells), tuple(fitting))
 
     @classmethod
     def alike(cls, cells, one, other):
         """The fact with all standings in which two cells hold equal numbers."""
         _check_cells(cells)
         first, second = _index_of(cells, one), _index_of(cells, other)
-        return _made(in_order(cells), tuple([row for row in standings_of(cells) if row[first] == row[second]]))
+        return made_fact(in_order(cells), tuple([row for row in standings_of(cells) if row[first] == row[second]]))
 
     @property
     def cells(self):
@@ -63,7 +63,7 @@ class Fact:
         """The fact that is left over the other cells if one is left out."""
         left_out = _index_of(self._cells, name)
         cells = {cell: self._cells[cell] for cell in self._cells if cell != name}
-        return _made(cells, tuple(sorted({row[:left_out] + row[left_out + 1:] for row in self._standings})))
+        return made_fact(cells, tuple(sorted({row[:left_out] + row[left_out + 1:] for row in self._standings})))
 
     def over(self, cells):
         """The fact over more cells that tells the same of those that it has."""
@@ -72,22 +72,22 @@ class Fact:
             raise InvalidOperation("a cell of the fact is not there with the same size")
         places = [at for at, name in enumerate(sorted(cells)) if name in self._cells]
         cut = {row: tuple([row[at] for at in places]) for row in standings_of(cells)}
-        return _made(in_order(cells), tuple([row for row in cut if cut[row] in self._held]))
+        return made_fact(in_order(cells), tuple([row for row in cut if cut[row] in self._held]))
 
     def __and__(self, other):
         theirs = _standings_over(self._cells, other)
-        return _made(self._cells, tuple([row for row in self._standings if row in theirs]))
+        return made_fact(self._cells, tuple([row for row in self._standings if row in theirs]))
 
     def __or__(self, other):
         theirs = _standings_over(self._cells, other)
-        return _made(self._cells, tuple(sorted({**self._held, **theirs})))
+        return made_fact(self._cells, tuple(sorted({**self._held, **theirs})))
 
     def __sub__(self, other):
         theirs = _standings_over(self._cells, other)
-        return _made(self._cells, tuple([row for row in self._standings if row not in theirs]))
+        return made_fact(self._cells, tuple([row for row in self._standings if row not in theirs]))
 
     def __invert__(self):
-        return _made(self._cells, tuple([row for row in standings_of(self._cells) if row not in self._held]))
+        return made_fact(self._cells, tuple([row for row in standings_of(self._cells) if row not in self._held]))
 
     def __contains__(self, x):
         return is_row_among(x, self._held)
@@ -105,7 +105,7 @@ class Fact:
         return f"fact of {len(self._standings)} standings"
 
 
-def _made(cells, standings):
+def made_fact(cells, standings):
     """The fact with cells that ascend and with what surely are ascending standings of them."""
     made = Fact({})
     made._cells = cells

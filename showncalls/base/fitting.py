@@ -2,7 +2,6 @@
 
 from showncalls.base.cells import with_own
 from showncalls.base.checks import product_of
-from showncalls.base.statements import cells_in
 
 MOST_PROCEDURES = 8
 MOST_ROWS = 64
@@ -16,49 +15,57 @@ def fit_together(shared, procedures):
         return False
     # For each procedure that can be called: the size of the cell that takes and gives numbers, if there is one.
     passed = {procedure.called: procedure.own[0][1] if procedure.own else None for procedure in procedures[1:]}
-    if not all([_fits(shared, procedure, passed) for procedure in procedures]):
-        return False
-    asked = [pair for procedure in procedures for pair in _asked(shared, procedure)]
-    return len(set(asked)) == len({word for word, size in asked})
+    sizes = {}
+    for procedure in procedures:
+        cells = _cells_of(shared, procedure)
+        if cells is None or not all([_fits(statement, cells, passed) for statement in procedure.statements()]):
+            return False
+        for statement in procedure.statements():
+            # All cells that are asked with one word have the same size.
+            if statement[0] == "ask" and sizes.setdefault(statement[1], cells[statement[2]]) != cells[statement[2]]:
+                return False
+    return True
 
 
-def _fits(shared, procedure, passed):
-    """Whether the own cells and the statements of a procedure fit the shared cells and the calls."""
+def _cells_of(shared, procedure):
+    """A dict from all cells that a procedure can use to their sizes, or None if there cannot be such ones."""
     if not all([name not in shared for name, size in procedure.own]):
-        return False
+        return None
     cells = with_own(shared, procedure.own)
-    if product_of(list(cells.values())) > MOST_ROWS:
-        return False
-    return all([_statement_fits(statement, cells, passed) for statement in procedure._statements])
+    return None if product_of(list(cells.values())) > MOST_ROWS else cells
 
 
-def _statement_fits(statement, cells, passed):
+def _fits(statement, cells, passed):
     """Whether a statement fits the cells that it can use and the procedures that it can call."""
-    if not all([name in cells for name in cells_in(statement)]):
-        return False
-    if statement[0] == "set":
-        return _set_fits(statement, cells)
-    if statement[0] == "call":
+    kind = statement[0]
+    if kind in ("say", "ask"):
+        return statement[2] is None or statement[2] in cells
+    if kind == "call":
         return _call_fits(statement, cells, passed)
-    return statement[0] != "if" or statement[2] < cells[statement[1]]
+    if kind in ("either", "often"):
+        return True
+    if statement[1] not in cells:
+        return False
+    if kind == "set":
+        return _set_fits(statement, cells)
+    return kind == "hide" or statement[2] < cells[statement[1]]
 
 
 def _set_fits(statement, cells):
     """Whether the table has a number that the cell can hold for each row, and nothing else."""
     cell, keys, table = statement[1:]
-    if len(table) != product_of([cells[name] for name in keys]):
-        return False
-    return all([number < cells[cell] for number in table])
+    rows = 1
+    for name in keys:
+        if name not in cells:
+            return False
+        rows = rows * cells[name]
+    return len(table) == rows and max(table) < cells[cell]
 
 
 def _call_fits(statement, cells, passed):
     """Whether the procedure can be called, and can take and give what is passed."""
-    called = statement[1]
-    return called in passed and all([cells[name] == passed[called] for name in cells_in(statement)])
-
-
-def _asked(shared, procedure):
-    """The list of the pairs of the word and the size of the cell of all asks of a procedure."""
-    asks = [statement for statement in procedure._statements if statement[0] == "ask"]
-    cells = with_own(shared, procedure.own) if asks else {}
-    return [(word, cells[cell]) for kind, word, cell in asks]
+    _, called, taken, given = statement
+    if called not in passed:
+        return False
+    # The size of a cell is never None.
+    return all([cell is None or cells.get(cell, 0) == passed[called] for cell in (taken, given)])

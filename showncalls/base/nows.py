@@ -1,7 +1,7 @@
 """What the begins, the states and the nows of a procedure look like."""
 
 from showncalls.base.cells import is_row_among
-from showncalls.base.checks import all_rows, are_integers, ascends, is_number
+from showncalls.base.checks import all_rows, are_integers, is_number
 
 
 class Shape:
@@ -30,21 +30,6 @@ class Shape:
         if not isinstance(value, tuple) or len(value) != 2 or not _are_rows(value[0], value[1]):
             return False
         return value[0] in self._standings and value[1] in self._begin_owns
-
-    def is_now(self, value):
-        """Whether a value is a now of the procedure."""
-        if not isinstance(value, tuple) or len(value) != 3 or not _are_rows(value[1], value[2]):
-            return False
-        return is_number(value[0], len(self._calls)) and value[1] in self._standings and value[2] in self._owns
-
-    def are_pairs(self, value):
-        """Whether a value is an ascending tuple of pairs of a begin and a now, at least one."""
-        if not isinstance(value, tuple) or not value:
-            return False
-        for pair in value:
-            if not isinstance(pair, tuple) or len(pair) != 2 or not self.is_begin(pair[0]) or not self.is_now(pair[1]):
-                return False
-        return ascends(value)
 
     def is_at(self, place, own):
         """Whether these are a place of the procedure and numbers of its own cells."""

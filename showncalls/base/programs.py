@@ -5,7 +5,7 @@ from showncalls.base.checks import all_rows, is_number
 from showncalls.base.fitting import fit_together
 from showncalls.base.nows import Shape
 from showncalls.base.places import places_of
-from showncalls.base.statements import is_body, statements_of, with_new_names
+from showncalls.base.statements import MOST_DEPTH, MOST_STATEMENTS, is_body, statements_of, with_new_names
 from showncalls.base.steps import Steps
 from showncalls.base.words import is_name
 from showncalls.errors import InvalidOperation, InvalidProgram, UnknownName
@@ -17,8 +17,11 @@ class Procedure:
     """A procedure by its form: it may use any cells and call any procedures. It never changes."""
 
     def __init__(self, called, body, *, own=(), quiet=False):
-        if not is_name(called) or not is_body(body):
+        if not is_name(called) or not is_body(body, MOST_DEPTH):
             raise InvalidProgram("this is no name and body of a procedure")
+        statements = statements_of(body)
+        if len(statements) > MOST_STATEMENTS:
+            raise InvalidProgram("these are too many statements")
         if not _are_own(own) or not isinstance(quiet, bool):
             raise InvalidProgram("these are no own cells and no boolean")
         self._called = called
@@ -26,7 +29,9 @@ class Procedure:
         self._own = own
         self._quiet = quiet
         # All statements, in reading order.
-        self._statements = tuple(statements_of(body))
+        self._statements = tuple(statements)
+        # Found when they are asked for.
+        self._places_kept = None
 
     @property
     def called(self):
@@ -47,6 +52,17 @@ class Procedure:
     def quiet(self):
         """Whether its calls write no lines."""
         return self._quiet
+
+    @property
+    def places(self):
+        """For each place its statement, the place behind it and the places into its bodies."""
+        if self._places_kept is None:
+            self._places_kept = places_of(self._body, len(self._statements))
+        return self._places_kept
+
+    def statements(self):
+        """The tuple of all statements, in reading order."""
+        return self._statements
 
     def __len__(self):
         return len(self._statements)
@@ -70,12 +86,10 @@ class Program:
         self._shared = in_order(shared)
         self._procedures = procedures
         self._named = {procedure.called: procedure for procedure in procedures}
-        self._places = {procedure.called: places_of(procedure.body) for procedure in procedures}
-        self._standings = {standing: True for standing in standings_of(shared)}
-        main = procedures[0].called
-        self._shapes = {name: Shape(self._standings, self._named[name], name == main, self._places[name])
-                        for name in self._named}
-        self._steps = Steps(self._shared, procedures, self._places)
+        # Made when they are asked for: most programs that are made on the way to others are asked nothing.
+        self._standings_kept = None
+        self._shapes = None
+        self._steps = None
         # What other modules have worked out about the program, which never changes, by what they call it.
         self._kept = {}
 
@@ -111,6 +125,27 @@ class Program:
         """The ascending tuple of all words that are asked or said."""
         statements = [part for procedure in self._procedures for part in procedure._statements]
         return tuple(sorted({part[1] for part in statements if part[0] in ("ask", "say")}))
+
+    @property
+    def all_standings(self):
+        """A dict with all standings as keys, ascending."""
+        if self._standings_kept is None:
+            self._standings_kept = {standing: True for standing in standings_of(self._shared)}
+        return self._standings_kept
+
+    @property
+    def shapes(self):
+        """A dict from the names of the procedures to what their begins, states and nows look like."""
+        if self._shapes is None:
+            self._shapes = _shapes_of(self.all_standings, self._procedures)
+        return self._shapes
+
+    @property
+    def steps(self):
+        """The moves of the procedures within one frame."""
+        if self._steps is None:
+            self._steps = Steps(self._shared, self._procedures)
+        return self._steps
 
     def cells_of(self, name):
         """A dict from the names of all cells that a procedure can use to their sizes."""
@@ -180,7 +215,7 @@ class Program:
 
     def _place(self, name, place):
         """The triple of a place: its statement, the place behind it, the places into its bodies."""
-        places = self._places[self[name].called]
+        places = self[name].places
         if not is_number(place, len(places)):
             raise InvalidOperation("this is no place of the procedure")
         return places[place]
@@ -211,6 +246,12 @@ class Program:
 
     def __str__(self):
         return f"program of {len(self._procedures)} procedures, {len(self._shared)} shared cells"
+
+
+def _shapes_of(standings, procedures):
+    """A dict from the names of the procedures of a program to their shapes."""
+    main = procedures[0].called
+    return {one.called: Shape(standings, one, one.called == main, one.places) for one in procedures}
 
 
 def _are_own(value):

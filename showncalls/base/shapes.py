@@ -36,9 +36,9 @@ def is_heard(program, value):
 
 def is_call(program, name, place, called):
     """Whether at a place of a procedure there is a call of another one, or of itself."""
-    return program._shapes[name].called_at(place) == called
+    return program.shapes[name].called_at(place) == called
 
 
 def is_standing(program, value):
     """Whether a value is a standing of the shared cells of a program."""
-    return is_row_among(value, program._standings)
+    return is_row_among(value, program.all_standings)

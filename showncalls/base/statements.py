@@ -1,6 +1,6 @@
 """Statements and bodies, by their form alone: which cells and procedures there are does not matter here."""
 
-from showncalls.base.checks import is_number
+from showncalls.base.checks import are_integers
 from showncalls.base.words import LARGEST_SIZE, is_name
 
 MOST_STATEMENTS = 24
@@ -8,80 +8,61 @@ MOST_DEPTH = 3
 MOST_KEYS = 2
 LONGEST_TABLE = 16
 
-# What stands behind the first word of each statement. A "perhaps" is the name of a cell, or None.
-FORMS = {
-    "set": ("cell", "keys", "table"),
-    "hide": ("cell",),
-    "ask": ("word", "cell"),
-    "say": ("word", "perhaps"),
-    "call": ("procedure", "perhaps", "perhaps"),
-    "if": ("cell", "number", "body", "body"),
-    "either": ("body", "body"),
-    "often": ("body",),
-}
 # How many pieces stand ahead of the inner bodies, the first word of the statement counted.
 AHEAD_OF_BODIES = {"if": 3, "either": 1, "often": 1}
 
 
-def is_body(value):
-    """Whether a value is the body of a procedure, by its form."""
-    return is_inner_body(value, MOST_DEPTH) and len(statements_of(value)) <= MOST_STATEMENTS
-
-
-def is_inner_body(value, depth):
+def is_body(value, depth):
     """Whether a value is a body, by its form, whose bodies lie at most so deep, however many statements it has."""
     if not isinstance(value, tuple) or depth < 1:
         return False
-    return all([is_statement(part, depth) for part in value])
+    for statement in value:
+        if not isinstance(statement, tuple) or not statement or not _is_statement(statement[0], statement[1:], depth):
+            return False
+    return True
 
 
-def is_statement(value, depth):
-    """Whether a value is a statement of a body, by its form, whose bodies lie at most so deep."""
-    if not isinstance(value, tuple) or not value or not isinstance(value[0], str):
-        return False
-    form = FORMS.get(value[0])
-    if form is None or len(value) != len(form) + 1:
-        return False
-    return all([is_piece(kind, value[at + 1], depth) for at, kind in enumerate(form)])
+def _is_statement(kind, parts, depth):
+    """Whether this is the first word of a statement, by its form, with what stands behind it."""
+    many = len(parts)
+    if kind == "say":
+        return many == 2 and is_name(parts[0]) and _is_perhaps_name(parts[1])
+    if kind == "ask":
+        return many == 2 and is_name(parts[0]) and is_name(parts[1])
+    if kind == "hide":
+        return many == 1 and is_name(parts[0])
+    if kind == "set":
+        return many == 3 and is_name(parts[0]) and _are_keys(parts[1]) and _is_table(parts[2])
+    if kind == "call":
+        return many == 3 and is_name(parts[0]) and _is_perhaps_name(parts[1]) and _is_perhaps_name(parts[2])
+    if kind == "if":
+        if many != 4 or not is_name(parts[0]) or not _are_numbers(parts[1:2]):
+            return False
+        return is_body(parts[2], depth - 1) and is_body(parts[3], depth - 1)
+    if kind == "either":
+        return many == 2 and is_body(parts[0], depth - 1) and is_body(parts[1], depth - 1)
+    return kind == "often" and many == 1 and is_body(parts[0], depth - 1)
 
 
-def is_piece(kind, value, depth):
-    """Whether a value can stand in a statement where a piece of this kind is due."""
-    if kind == "body":
-        return is_inner_body(value, depth - 1)
-    if kind == "keys":
-        return is_keys(value)
-    if kind == "table":
-        return is_set_table(value)
-    if kind == "number":
-        return is_number(value, LARGEST_SIZE)
-    return is_name(value) or kind == "perhaps" and value is None
+def _is_perhaps_name(value):
+    return value is None or is_name(value)
 
 
-def is_keys(value):
+def _are_keys(value):
     """Whether a value is a tuple of at most two different names."""
     if not isinstance(value, tuple) or len(value) > MOST_KEYS or not all([is_name(name) for name in value]):
         return False
-    return len(set(value)) == len(value)
+    return len(value) < 2 or value[0] != value[1]
 
 
-def is_set_table(value):
+def _is_table(value):
     """Whether a value can be the table of a "set", whatever its cells are."""
-    if not isinstance(value, tuple) or not 1 <= len(value) <= LONGEST_TABLE:
-        return False
-    return all([is_number(number, LARGEST_SIZE) for number in value])
+    return isinstance(value, tuple) and 1 <= len(value) <= LONGEST_TABLE and _are_numbers(value)
 
 
-def cells_in(statement):
-    """The list of the names of all cells in a statement, without those in its inner bodies."""
-    found = []
-    for at, kind in enumerate(FORMS[statement[0]]):
-        piece = statement[at + 1]
-        if kind == "keys":
-            found.extend(piece)
-        elif kind == "cell" or kind == "perhaps" and piece is not None:
-            found.append(piece)
-    return found
+def _are_numbers(values):
+    """Whether all of some values, at least one, are numbers that some cell can hold."""
+    return are_integers(values) and 0 <= min(values) and max(values) < LARGEST_SIZE
 
 
 def inner_bodies(statement):
@@ -95,8 +76,9 @@ def statements_of(body):
     found = []
     for statement in body:
         found.append(statement)
-        for inner in inner_bodies(statement):
-            found.extend(statements_of(inner))
+        if statement[0] in AHEAD_OF_BODIES:
+            for inner in inner_bodies(statement):
+                found.extend(statements_of(inner))
     return found
 
 

@@ -1,18 +1,16 @@
 """What one move does within a frame, and what calls pass on and give back."""
 
-from showncalls.base.cells import with_own
-
 
 class Steps:
     """The moves of the procedures of a program within one frame. A now is a triple (place, standing, own)."""
 
-    def __init__(self, shared, procedures, places):
+    def __init__(self, shared, procedures):
         # By procedure: for each place the statement, the place behind it and the places into its bodies.
-        self._places = places
+        self._places = {procedure.called: procedure.places for procedure in procedures}
         self._shared_places = {cell: at for at, cell in enumerate(sorted(shared))}
         self._own_places = {procedure.called: {procedure.own[at][0]: at for at in range(len(procedure.own))}
                             for procedure in procedures}
-        self._sizes = {procedure.called: with_own(shared, procedure.own) for procedure in procedures}
+        self._sizes = {procedure.called: {**shared, **dict(procedure.own)} for procedure in procedures}
         self._zeros = {procedure.called: tuple([0 for pair in procedure.own]) for procedure in procedures}
 
     def inner_moves(self, name, now):

@@ -12,7 +12,7 @@ def is_name(value):
     """Whether a value is a string of one to eight letters a to z."""
     if not isinstance(value, str) or not 1 <= len(value) <= MOST_LETTERS:
         return False
-    return all(["a" <= letter <= "z" for letter in value])
+    return value.isascii() and value.isalpha() and value.islower()
 
 
 def is_line(value):

@@ -1,10 +1,10 @@
 """Programs that are alike: those with the same logs."""
 
 from showncalls.base.shapes import check_program
-from showncalls.compare.pairs import PairMind, is_pair_table
+from showncalls.compare.pairs import PairMind
 from showncalls.errors import TooMany
 from showncalls.know.closed import is_closed_under
-from showncalls.know.least import Least
+from showncalls.know.least import Least, knowings_told
 from showncalls.know.minds import mind_of
 from showncalls.know.tables import LONGEST_LOG, MAX_KNOWINGS
 from showncalls.know.watchers import is_log_of
@@ -30,11 +30,12 @@ def alike_paper(one, other):
     least = Least(mind, MAX_KNOWINGS)
     apart = [item for item in least.items_found() if mind.lines_apart(item[1])]
     if not apart:
-        return ("alike", _table_told(mind, least.items_found()))
-    many, item = min([(least.lines_to(item) + 1, item) for item in apart])
+        return ("alike", knowings_told(mind, least.items_found()))
+    logs = least.shortest_logs()
+    many, _, item = min([(logs.lines_to(item) + 1, mind.order_coded(item), item) for item in apart])
     if many > LONGEST_LOG:
         raise TooMany(LONGEST_LOG)
-    return ("apart", least.log_to(item) + (mind.lines_apart(item[1])[0],))
+    return ("apart", logs.log_to(item) + (mind.lines_apart(item[1])[0],))
 
 
 def is_alike_paper(one, other, value):
@@ -50,25 +51,15 @@ def is_alike_paper(one, other, value):
 
 
 def _pair_mind(one, other):
-    return PairMind(mind_of(one), mind_of(other))
-
-
-def _table_told(mind, items):
-    """The pair table with these items, as it is told."""
-    told = {}
-    decoded = [(mind.decoded_triple(context), mind.decoded_pair(knowing)) for context, knowing in items]
-    for triple, pair in sorted(decoded):
-        told[triple] = told.get(triple, ()) + (pair,)
-    return told
+    # Equal programs can have one mind.
+    return PairMind(mind_of(one), mind_of(one if one == other else other))
 
 
 def _is_closed_pair_table(one, other, value):
-    if one.main != other.main or not is_pair_table(one, other, value):
+    if one.main != other.main:
         return False
     mind = _pair_mind(one, other)
-    table = {}
-    for triple in value:
-        table[mind.coded_triple(triple)] = {mind.coded_pair(pair): True for pair in value[triple]}
-    if any([mind.lines_apart(pair) for triple in table for pair in table[triple]]):
+    table = mind.pair_table_read(value)
+    if table is None or any([mind.lines_apart(pair) for triple in table for pair in table[triple]]):
         return False
     return is_closed_under(mind, table)

@@ -4,9 +4,11 @@ from showncalls.base.checks import ascends, has_all_of
 from showncalls.base.facts import Fact
 from showncalls.base.shapes import check_program, is_fact_over
 from showncalls.errors import InvalidOperation, TooMany
+from showncalls.know.closed import is_closed_under
+from showncalls.know.minds import mind_of
 from showncalls.know.outcomes import outcomes_of
-from showncalls.know.tables import LONGEST_LOG, Table, all_that_end, all_that_stand, bars_fact, is_closed
-from showncalls.know.watchers import Watcher, is_log_of
+from showncalls.know.tables import LONGEST_LOG, Table, all_that_end, all_that_stand, are_all_in, bars_fact, table_read
+from showncalls.know.watchers import standings_behind
 
 
 def gives_no_more(one, other):
@@ -66,23 +68,25 @@ def _logs_to_least(program):
 
 def _shows_more(one, other, fact, log, table):
     """Whether a fact is known at a log of the first program, and barred by a closed table of the second one."""
-    if not is_fact_over(one, fact) or not is_log_of(one, log) or not Watcher.along(one, log).knows(fact):
+    standings = standings_behind(one, log) if is_fact_over(one, fact) else None
+    if standings is None or not are_all_in(fact, standings):
         return False
-    return is_closed(other, table) and bars_fact(other, table, fact)
+    mind = mind_of(other)
+    read = table_read(mind, table)
+    return read is not None and bars_fact(mind, read, fact) and is_closed_under(mind, read)
 
 
 def _shows_no_more(one, other, table, value):
     """Whether a closed table of the first program nowhere lets more be known than some logs of the second one."""
-    if not is_closed(one, table) or not _are_logs(other, value):
+    mind = mind_of(one)
+    read = table_read(mind, table)
+    if read is None or not isinstance(value, tuple) or not is_closed_under(mind, read):
         return False
-    stand = [Watcher.along(other, log).can_stand.standings for log in value]
-    shown = all_that_stand(one, table) + all_that_end(one, table)
+    stand = [standings_behind(other, log) for log in value]
+    if None in stand or not ascends(value):
+        return False
+    shown = all_that_stand(mind, read) + all_that_end(mind, read)
     return all([_holds_one_of(stand, standings) for standings in shown])
-
-
-def _are_logs(program, value):
-    """Whether a value is an ascending tuple of logs of a program."""
-    return isinstance(value, tuple) and all([is_log_of(program, log) for log in value]) and ascends(value)
 
 
 def _holds_one_of(found, standings):

@@ -3,9 +3,10 @@
 from heapq import heappop, heappush
 
 from showncalls.compare.stuck import live_of
-from showncalls.know.codes import mask_of
-from showncalls.know.minds import mind_of
+from showncalls.know.codes import bits_of, mask_of
+from showncalls.know.passes import passes_of
 from showncalls.know.spelling import spelled
+from showncalls.know.tracks import tracks_of
 from showncalls.know.walks import walks_of
 from showncalls.run.runs import MAX_MOVES
 
@@ -29,6 +30,7 @@ class Search:
     def __init__(self, program):
         self._program = program
         self._walks = walks_of(program)
+        self._tracks = tracks_of(program)
         self._live = live_of(program)
         # By call: the call around it and the walk from the begin of that one to where it is called, or None.
         self._ways = {}
@@ -36,8 +38,9 @@ class Search:
         self._pushed = 0
         # The number of moves, the call and the code of the now of the shortest stuck run so far.
         self._best = (MAX_MOVES + 1, None, None)
-        for begin in mind_of(program).main_context()[1]:
-            self._push(0, (program.main, begin, True, None), None)
+        codes = self._tracks.codes_of(program.main)
+        for begin in program.begins(program.main):
+            self._push(0, (program.main, codes.code_of_begin(begin), True, None), None)
 
     def is_open(self):
         """Whether a shorter stuck run may come."""
@@ -69,7 +72,7 @@ class Search:
             call, walk = self._ways[call]
             # From where it is called on, the one move is to enter the call.
             pieces.extend([0, walk])
-        start = self._walks.codes_of(call[0]).now_of(call[1])[1]
+        start = self._tracks.codes_of(call[0]).state_of(call[1])[0]
         return (start, tuple(spelled(pieces[::-1], self._walks.parts())))
 
     def _push(self, cost, call, way):
@@ -86,11 +89,11 @@ class Search:
     def _live_ends(self, call, code, inner):
         """The mask of the ends of an inner call behind which a line can come."""
         called, begin = inner[:2]
-        ends = self._walks.ends_from((called, begin, False))
+        ends = bits_of(passes_of(self._program).ends_of(called, begin))
         return mask_of([end for end in ends
-                        if self._is_live(call, self._walks.given_back(call[0], code, called, end))])
+                        if self._is_live(call, self._tracks.given_back(call[0], code, called, end))])
 
     def _is_live(self, call, code):
         """Whether a line can come if this call is at this now."""
         name, _, seen, ends = call
-        return code in self._live.codes_live(name, seen, ends)
+        return self._live.is_live(name, seen, ends, code)

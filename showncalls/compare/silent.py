@@ -5,10 +5,11 @@ from showncalls.base.words import is_line
 from showncalls.compare.search import shortest_stuck_run
 from showncalls.compare.stuck import frames_behind, is_stuck_in, live_of
 from showncalls.errors import TooMany
+from showncalls.know.closed import is_closed_under
 from showncalls.know.least import least_of
 from showncalls.know.minds import mind_of
-from showncalls.know.tables import LONGEST_LOG, MAX_KNOWINGS, Table, is_closed
-from showncalls.know.watchers import Watcher, is_log_of
+from showncalls.know.positions import lines_at, position_behind
+from showncalls.know.tables import LONGEST_LOG, MAX_KNOWINGS, Table, table_read
 from showncalls.run.runs import MAX_MOVES, Run
 
 
@@ -28,13 +29,14 @@ def silent_paper(program):
     """Any silent paper of a program: one with two lines, if there is one."""
     check_program(program)
     least = least_of(program, MAX_KNOWINGS)
-    split = [(least.lines_to(item), item) for item in _split_items(program)]
+    split = _split_items(program)
     if split:
-        many, item = min(split)
+        logs, mind = least.shortest_logs(), least.mind()
+        many, _, item = min([(logs.lines_to(item), mind.order_coded(item), item) for item in split])
         if many > LONGEST_LOG:
             raise TooMany(LONGEST_LOG)
-        line, other = _lines_apart(list(mind_of(program).after(item[1])))
-        return ("split", least.log_to(item), line, other)
+        line, other = _lines_apart(list(mind.after(item[1])))
+        return ("split", logs.log_to(item), line, other)
     if not live_of(program).has_stuck_run():
         return ("silent", Table(program).as_dict())
     found = shortest_stuck_run(program)
@@ -57,9 +59,8 @@ def is_silent_paper(program, value):
 
 def _split_items(program):
     """The list of the items of the least table behind which two lines apart can come."""
-    mind = mind_of(program)
-    items = least_of(program, MAX_KNOWINGS).items_found()
-    return [item for item in items if _lines_apart(list(mind.after(item[1])))]
+    least = least_of(program, MAX_KNOWINGS)
+    return [item for item in least.items_found() if _lines_apart(list(least.mind().after(item[1])))]
 
 
 def _lines_apart(lines):
@@ -76,9 +77,13 @@ def _are_apart(line, other):
 
 
 def _shows_split(program, log, line, other):
-    if not is_log_of(program, log) or not is_line(line) or not is_line(other) or not _are_apart(line, other):
+    if not is_line(line) or not is_line(other) or not _are_apart(line, other):
         return False
-    following = Watcher.along(program, log).lines()
+    mind = mind_of(program)
+    position = position_behind(mind, log)
+    if position is None:
+        return False
+    following = lines_at(mind, position)
     return line in following and other in following
 
 
@@ -93,8 +98,8 @@ def _shows_stuck(program, value):
 
 
 def _shows_silent(program, table):
-    if not is_closed(program, table) or live_of(program).has_stuck_run():
-        return False
     mind = mind_of(program)
-    coded = [mind.coded(knowing) for context in table for knowing in table[context]]
-    return not any([_lines_apart(list(mind.after(knowing))) for knowing in coded])
+    read = table_read(mind, table)
+    if read is None or any([_lines_apart(list(mind.after(knowing))) for context in read for knowing in read[context]]):
+        return False
+    return is_closed_under(mind, read) and not live_of(program).has_stuck_run()

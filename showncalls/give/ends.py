@@ -4,9 +4,11 @@ from showncalls.base.cells import standings_of
 from showncalls.base.facts import Fact
 from showncalls.base.shapes import check_fact, check_program
 from showncalls.errors import TooMany
+from showncalls.know.closed import is_closed_under
+from showncalls.know.minds import mind_of
 from showncalls.know.outcomes import outcomes_of
-from showncalls.know.tables import LONGEST_LOG, Table, all_that_end, is_closed
-from showncalls.know.watchers import Watcher, is_log_of
+from showncalls.know.tables import LONGEST_LOG, Table, all_that_end, table_read
+from showncalls.know.watchers import standings_behind
 
 
 def is_settled(program, fact):
@@ -37,10 +39,13 @@ def is_settled_paper(program, fact, value):
         return False
     kind, shown = value
     if kind == "open":
-        return _is_end_log(program, shown) and Watcher.along(program, shown).answer(fact) == "open"
-    if kind != "settled" or not is_closed(program, shown):
+        standings = standings_behind(program, shown)
+        return standings is not None and shown[-1] == ("leave", program.main) and _is_open(fact, standings)
+    mind = mind_of(program)
+    table = table_read(mind, shown) if kind == "settled" else None
+    if table is None or any([_is_open(fact, standings) for standings in all_that_end(mind, table)]):
         return False
-    return not any([_is_open(fact, standings) for standings in all_that_end(program, shown)])
+    return is_closed_under(mind, table)
 
 
 def settled_classes(program):
@@ -64,8 +69,3 @@ def _open_outcomes(program, fact):
 def _is_open(fact, standings):
     """Whether some of these standings, but not all, are in a fact."""
     return len({standing in fact._held for standing in standings}) == 2
-
-
-def _is_end_log(program, value):
-    """Whether a value is a log of a program that ends with the leave of main."""
-    return is_log_of(program, value) and value[-1] == ("leave", program.main)

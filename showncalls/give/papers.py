@@ -2,9 +2,11 @@
 
 from showncalls.base.shapes import check_fact, check_program
 from showncalls.errors import TooMany
+from showncalls.know.closed import is_closed_under
+from showncalls.know.minds import mind_of
 from showncalls.know.outcomes import outcomes_of
-from showncalls.know.tables import LONGEST_LOG, Table, bars_fact, is_closed
-from showncalls.know.watchers import Watcher, is_log_of
+from showncalls.know.tables import LONGEST_LOG, Table, all_that_end, are_all_in, table_read
+from showncalls.know.watchers import standings_behind
 
 
 def fact_paper(program, fact):
@@ -28,5 +30,13 @@ def is_fact_paper(program, fact, value):
         return False
     kind, shown = value
     if kind == "known":
-        return is_log_of(program, shown) and Watcher.along(program, shown).knows(fact)
-    return kind == "never" and is_closed(program, shown) and bars_fact(program, shown, fact)
+        standings = standings_behind(program, shown)
+        return standings is not None and are_all_in(fact, standings)
+    if kind != "never":
+        return False
+    mind = mind_of(program)
+    # What can stand is looked at while the table is read, which often is enough.
+    table = table_read(mind, shown, lambda knowing: not are_all_in(fact, mind.standings_in(knowing)))
+    if table is None or any([are_all_in(fact, standings) for standings in all_that_end(mind, table)]):
+        return False
+    return is_closed_under(mind, table)

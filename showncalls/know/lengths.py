@@ -15,6 +15,10 @@ class Lengths:
         self._stays = {}
         self._ends = {}
 
+    def go_to(self, mind):
+        """Go on with another mind of the same program."""
+        self._mind = mind
+
     def can_follow(self, position, many):
         """Whether a log with this position goes on with just so many lines."""
         knowing, below = position
@@ -25,30 +29,28 @@ class Lengths:
         while due:
             if any([self._stays_in(due[lines], lines) for lines in due]):
                 return True
-            left = self._left_behind(due)
+            left = self._left_behind(self._mind.called_by(knowing), due)
             if below is None:
                 return 0 in left
-            due = {lines: self._mind.joined_back(below[0], left[lines]) for lines in left}
-            below = below[1]
+            knowing, below = below
+            due = {lines: self._mind.joined_back(knowing, left[lines]) for lines in left}
         return False
 
     def _stays_in(self, knowing, many):
-        name, pairs = knowing
-        return any([self._can_stay(name, code, many) for begin, mask in pairs for code in bits_of(mask)])
+        name = self._mind.called_by(knowing)
+        return any([self._can_stay(name, code, many) for begin, code in self._mind.codes_in(knowing)])
 
-    def _left_behind(self, due):
-        """By the numbers of lines that are still due behind the leave line: the pairs of a begin and its ends."""
+    def _left_behind(self, name, due):
+        """By the numbers of lines that are still due behind the leave line of a procedure: the ends."""
         found = {}
         for lines in due:
-            name, pairs = due[lines]
-            for begin, mask in pairs:
-                for code in bits_of(mask):
-                    for many in range(1, lines + 1):
-                        ends = self._ends_behind(name, code, many)
-                        if ends:
-                            masks = found.setdefault(lines - many, {})
-                            masks[begin] = masks.get(begin, 0) | ends
-        return {lines: tuple([(begin, found[lines][begin]) for begin in sorted(found[lines])]) for lines in found}
+            for begin, code in self._mind.codes_in(due[lines]):
+                for many in range(1, lines + 1):
+                    ends = self._ends_behind(name, code, many)
+                    if ends:
+                        masks = found.setdefault(lines - many, {})
+                        masks[begin] = masks.get(begin, 0) | ends
+        return {lines: self._mind.number_from(name, found[lines]) for lines in found}
 
     def _can_stay(self, name, code, many):
         """Whether from a now just so many lines can come without the leave line of its call."""
@@ -59,9 +61,8 @@ class Lengths:
         return self._stays[name, code, many]
 
     def _searched_stay(self, name, code, many):
-        lines = self._mind.lines_from(name, code)
-        for line in lines:
-            for behind in bits_of(lines[line]) if line[0] != "leave" else []:
+        for line, mask in self._mind.lines_from(name, code):
+            for behind in bits_of(mask) if line[0] != "leave" else []:
                 if line[0] != "enter":
                     if self._can_stay(name, behind, many - 1):
                         return True
@@ -83,8 +84,11 @@ class Lengths:
         """The list of pairs of a number of lines, at most so many, and the code of a now behind a call to which just
         so many lines from behind its enter line lead."""
         called, begin = self._mind.call_at(name, call)
-        return [(lines, self._mind.behind_call(name, call, called, end)) for lines in range(1, many + 1)
-                for end in bits_of(self._ends_behind(called, begin, lines))]
+        found = []
+        for lines in range(1, many + 1):
+            ends = self._ends_behind(called, begin, lines)
+            found.extend([(lines, behind) for behind in bits_of(self._mind.behind_call(name, call, called, ends))])
+        return found
 
     def _ends_behind(self, name, code, many):
         """The mask of the ends with which just so many lines, the leave line as the last one, leave the call."""
@@ -95,16 +99,15 @@ class Lengths:
         return self._ends[name, code, many]
 
     def _searched_ends(self, name, code, many):
-        lines = self._mind.lines_from(name, code)
         found = 0
-        for line in lines:
+        for line, mask in self._mind.lines_from(name, code):
             if line[0] == "leave":
-                found = found | (lines[line] if many == 1 else 0)
+                found = found | (mask if many == 1 else 0)
             elif line[0] != "enter":
-                for behind in bits_of(lines[line]):
+                for behind in bits_of(mask):
                     found = found | self._ends_behind(name, behind, many - 1)
             else:
-                for call in bits_of(lines[line]):
+                for call in bits_of(mask):
                     for inner, behind in self._behind_call(name, call, many - 1):
                         found = found | self._ends_behind(name, behind, many - 1 - inner)
         return found

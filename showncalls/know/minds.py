@@ -1,196 +1,212 @@
-"""How knowings follow from one another, on the codes of nows."""
+"""How knowings follow from one another, on their numbers."""
 
-from showncalls.base.facts import Fact
-from showncalls.know.codes import bits_of, mask_of
-from showncalls.know.walks import walks_of
+from showncalls.base.facts import made_fact
+from showncalls.know.codes import bits_of
+from showncalls.know.lines import lines_of
+from showncalls.know.numbers import Numbers
 
-# So many answers of each kind are kept; then all of them are found anew, when they are asked for.
+# A mind that keeps so many answers is left to those who use it; for new questions there is a new one.
 MOST_KEPT = 20000
 
 
 def mind_of(program):
-    """The mind of a program, which is made once."""
-    if "mind" not in program._kept:
+    """The mind of a program, which is made once, and anew if it has become too great."""
+    if "mind" not in program._kept or program._kept["mind"].many_kept() > MOST_KEPT:
         program._kept["mind"] = Mind(program)
     return program._kept["mind"]
 
 
-class Mind:
-    """What lines make of the knowings of a program.
-
-    A coded knowing is a pair (procedure, pairs), with a pair (code of a begin, mask of the codes of nows) for each of
-    its begins, ascending. A coded context is a pair (procedure, ascending tuple of the codes of begins).
-    """
+class Mind(Numbers):
+    """What lines make of the knowings of a program, which have numbers here, and so have contexts."""
 
     def __init__(self, program):
-        self._program = program
-        self._walks = walks_of(program)
-        self._main_context = self._searched_context((program.main, program.begins(program.main)))
+        super().__init__(program)
+        self._shared = program.shared
+        self._standings = list(program.all_standings)
+        self._lines = lines_of(program)
+        self._main_context = self.context_with(program.main, self.grid_of(program.main).all_indices())
         # What has been worked out: logs and tables come to the same knowings again and again.
-        self._lines_at = {}
         self._after = {}
-        self._contexts = {}
-        self._joined = {}
-        self._coded = {}
-        self._coded_contexts = {}
-        self._decoded = {}
         self._firsts = {}
+        self._contexts_given = {}
+        self._joined = {}
         self._standings_in = {}
+        self._standings_of = {}
         self._facts_with = {}
+        # By spot: the lines that can come next there, with what lies behind them.
+        self._ways = {}
+        # By what is kept: the calls there. By ends: for each begin the mask of the states that it ends with.
+        self._calls = {}
+        self._given = {}
 
-    def coded(self, knowing):
-        """A knowing, which surely is one, coded."""
-        if knowing not in self._coded:
-            _make_room(self._coded)
-            self._coded[knowing] = self._searched_coded(knowing)
-        return self._coded[knowing]
+    def many_kept(self):
+        """How much is kept; what is not counted here is in proportion to it."""
+        return self.many_numbers() + len(self._joined)
 
-    def _searched_coded(self, knowing):
-        name, pairs = knowing
-        codes = self._walks.codes_of(name)
-        masks = {}
-        for begin, now in pairs:
-            code = codes.code_of((0,) + begin)
-            masks[code] = masks.get(code, 0) | 1 << codes.code_of(now)
-        return (name, tuple([(code, masks[code]) for code in sorted(masks)]))
-
-    def told_of(self, knowing):
-        """A coded knowing, as it is told, kept for the next time."""
-        if knowing not in self._decoded:
-            _make_room(self._decoded)
-            self._decoded[knowing] = self.decoded(knowing)
-        return self._decoded[knowing]
-
-    def decoded(self, knowing):
-        """A coded knowing, as it is told."""
-        name, pairs = knowing
-        codes = self._walks.codes_of(name)
-        return (name, tuple([(codes.now_of(begin)[1:], codes.now_of(code)) for begin, mask in pairs
-                             for code in bits_of(mask)]))
-
-    def coded_context(self, context):
-        """A context, which surely is one, coded."""
-        if context not in self._coded_contexts:
-            _make_room(self._coded_contexts)
-            self._coded_contexts[context] = self._searched_context(context)
-        return self._coded_contexts[context]
-
-    def _searched_context(self, context):
-        name, begins = context
-        codes = self._walks.codes_of(name)
-        return (name, tuple([codes.code_of((0,) + begin) for begin in begins]))
-
-    def decoded_begins(self, name, begins):
-        """Some begins by their codes."""
-        codes = self._walks.codes_of(name)
-        return tuple([codes.now_of(begin)[1:] for begin in begins])
+    def called_in(self, context):
+        """The name of the procedure of a context."""
+        return self.context_at(context)[0]
 
     def main_context(self):
-        """The coded context of main."""
+        """The context of main."""
         return self._main_context
 
     def first(self, context):
         """The knowing in which each begin of a context is its own now."""
         if context not in self._firsts:
-            _make_room(self._firsts)
-            self._firsts[context] = (context[0], tuple([(begin, 1 << begin) for begin in context[1]]))
+            name, indices = self.context_at(context)
+            pairs = self.grid_of(name).first_pairs(indices)
+            self._firsts[context] = self.number_of((self.spot_of(name, 0), pairs))
         return self._firsts[context]
 
     def after(self, knowing):
-        """A dict from all lines that can come next, ascending, to pairs as those of a knowing: of the knowing behind
-        a line that is said or asked, of those that are kept behind an enter, of the begins and the ends at a leave."""
-        if knowing not in self._after:
-            _make_room(self._after)
-            self._after[knowing] = self._found_after(knowing)
-        return self._after[knowing]
+        """A dict from all lines that can come next, ascending, to numbers: of the knowing behind a line that is said or
+        asked, of what is kept behind an enter, of the ends at a leave."""
+        found = self._after.get(knowing)
+        if found is None:
+            found = self._after[knowing] = self._found_after(self._rows[knowing])
+        return found
 
     def context_given(self, kept):
-        """The coded context of the new call, if a knowing is kept."""
-        if kept not in self._contexts:
-            _make_room(self._contexts)
-            name, pairs = kept
-            calls = [self._walks.stop(name, code)[1] for begin, mask in pairs for code in bits_of(mask)]
-            self._contexts[kept] = (calls[0][0], tuple(sorted({begin for called, begin in calls})))
-        return self._contexts[kept]
+        """The context of the new call, if these pairs are kept."""
+        found = self._contexts_given.get(kept)
+        if found is None:
+            name, place = self.spot_told(self.row_of(kept)[0])
+            called = self._tracks.places_in(name)[place][0][1]
+            index_of = self.grid_of(called).indices()
+            indices = 0
+            for behind, begin, rows, call in self._calls_in(kept):
+                indices = indices | 1 << index_of[begin]
+            found = self._contexts_given[kept] = self.context_with(called, indices)
+        return found
 
     def joined_back(self, kept, ends):
-        """The knowing joined of one that is kept and of the ends of the call that it has entered, by their codes."""
-        if (kept, ends) not in self._joined:
-            _make_room(self._joined)
-            self._joined[kept, ends] = self._found_joined(kept, ends)
-        return self._joined[kept, ends]
+        """The knowing joined of what is kept and of the ends of the call that has been entered."""
+        found = self._joined.get((kept, ends))
+        if found is None:
+            found = self._joined[kept, ends] = self._found_joined(kept, ends)
+        return found
 
-    def standings_in(self, name, pairs):
-        """The ascending tuple of the standings of all nows in the pairs of a knowing, or of ends."""
-        if (name, pairs) not in self._standings_in:
-            _make_room(self._standings_in)
-            codes = self._walks.codes_of(name)
-            found = sorted({codes.now_of(code)[1] for begin, mask in pairs for code in bits_of(mask)})
-            self._standings_in[name, pairs] = tuple(found)
-        return self._standings_in[name, pairs]
+    def is_empty(self, knowing):
+        """Whether no pair is left."""
+        return not self.row_of(knowing)
+
+    def standings_in(self, knowing):
+        """The ascending tuple of the standings of all nows of a knowing, or of ends."""
+        if knowing not in self._standings_in:
+            states = 0
+            many = 1
+            for name, place, pairs in self.parts_in(knowing):
+                states = states | self.grid_of(name).states_in(pairs)
+                many = self._tracks.codes_of(name).many_owns()
+            if (states, many) not in self._standings_of:
+                found = sorted({state // many for state in bits_of(states)})
+                self._standings_of[states, many] = tuple([self._standings[at] for at in found])
+            self._standings_in[knowing] = self._standings_of[states, many]
+        return self._standings_in[knowing]
 
     def fact_with(self, standings):
         """The fact with some standings, an ascending tuple."""
         if standings not in self._facts_with:
-            _make_room(self._facts_with)
-            self._facts_with[standings] = Fact(self._program.shared, standings)
+            self._facts_with[standings] = made_fact(self._shared, standings)
         return self._facts_with[standings]
 
     def lines_from(self, name, code):
-        """A dict from all lines that can come next at a now to masks of codes, as of the pairs of `after`."""
-        if (name, code) not in self._lines_at:
-            found = {}
-            for reached in self._walks.silently_from(name, code):
-                for line, behind in self._lines_written(name, reached):
-                    found[line] = found.get(line, 0) | 1 << behind
-            self._lines_at[name, code] = found
-        return self._lines_at[name, code]
+        """The list of pairs of a line that can come next at a now of a seen call, and of a mask of codes."""
+        return self._lines.at_code(name, code)
 
     def call_at(self, name, code):
         """The pair (procedure, code of the begin) of the call at a now."""
-        return self._walks.stop(name, code)[1]
+        return self._tracks.stop(name, code)[1]
 
-    def behind_call(self, name, call, called, end):
-        """The code of the now behind a call, if the procedure that is called ends with this code."""
-        return self._walks.given_back(name, call, called, end)
+    def behind_call(self, name, call, called, ends):
+        """The mask of the codes of the nows behind a call that is left with these ends."""
+        return self._tracks.given_back_all(name, call, called, ends)
+
+    def _found_after(self, row):
+        if len(row) > 2:
+            return self._merged_after(row)
+        pairs = row[1]
+        found = {}
+        for line, behind, terms, many in self._ways.get(row[0]) or self._ways_from(row[0]):
+            reached = pairs
+            if terms is not None:
+                reached = 0
+                for wanted, shift in terms:
+                    reached = reached | (pairs & wanted) << shift
+                reached = reached >> many
+            if line in found:
+                return self._merged_after(row)
+            if reached:
+                number = self._row_numbers.get((behind, reached))
+                found[line] = self._new_number((behind, reached)) if number is None else number
+        return found
+
+    def _merged_after(self, row):
+        """What comes next, if a line may lead to several places, or from several ones."""
+        found = {}
+        for at in range(0, len(row), 2):
+            for line, behind, terms, many in self._ways_from(row[at]):
+                reached = row[at + 1] << many
+                if terms is not None:
+                    reached = 0
+                    for wanted, shift in terms:
+                        reached = reached | (row[at + 1] & wanted) << shift
+                if reached:
+                    parts = found.setdefault(line, {})
+                    parts[behind] = parts.get(behind, 0) | reached >> many
+        return {line: self.number_with(found[line]) for line in sorted(found)}
+
+    def _ways_from(self, spot):
+        """The list of all lines that can come next, with the spot behind each, and terms for all begins. Differences
+        are greater here by the number of states, the last item, so that none is below 0. The terms are None if all
+        pairs stay as they are."""
+        if spot not in self._ways:
+            name, place = self.spot_told(spot)
+            many, grid = self._tracks.many_states(name), self.grid_of(name)
+            found = []
+            for line, behind, terms in self._lines.from_place(name, place):
+                told = [(grid.in_all_rows(states), difference + many) for states, difference in terms]
+                if terms == [((1 << many) - 1, 0)]:
+                    told = None
+                found.append((line, self.spot_of(name, behind), told, many))
+            self._ways[spot] = found
+        return self._ways[spot]
+
+    def _calls_in(self, kept):
+        """The list of the calls of what is kept, one for each state there: the spot behind it, the code of the begin
+        that it gives, the first pairs of all rows that have it, and the code of its now, or None if the states behind
+        it are just those that it ends with."""
+        found = self._calls.get(kept)
+        if found is None:
+            found = self._calls[kept] = []
+            for name, place, pairs in self.parts_in(kept):
+                grid, begins = self.grid_of(name), self._tracks.begins_given(name, place)
+                behind = self.spot_of(name, self._tracks.places_in(name)[place][1])
+                first = place * self._tracks.many_states(name)
+                is_plain = self._tracks.gives_back_all(name, place)
+                for state in bits_of(grid.states_in(pairs)):
+                    call = None if is_plain else first + state
+                    found.append((behind, begins[state], grid.rows_with(pairs, state), call))
+        return found
+
+    def _ends_given(self, ends):
+        """The procedure of some ends, and a dict from the codes of begins to the masks of the states they end with."""
+        found = self._given.get(ends)
+        if found is None:
+            name, _, pairs = self.parts_in(ends)[0]
+            found = self._given[ends] = (name, dict(self.grid_of(name).rows_of(pairs)))
+        return found
 
     def _found_joined(self, kept, ends):
-        name, pairs = kept
-        given = {begin: bits_of(mask) for begin, mask in ends}
-        found = []
-        for begin, mask in pairs:
-            behind = []
-            for call in bits_of(mask):
-                called, inner = self._walks.stop(name, call)[1]
-                behind.extend([self._walks.given_back(name, call, called, end) for end in given.get(inner, [])])
-            if behind:
-                found.append((begin, mask_of(behind)))
-        return (name, tuple(found))
-
-    def _found_after(self, knowing):
-        name, pairs = knowing
+        name = self.called_by(kept)
+        called, given = self._ends_given(ends)
         found = {}
-        for begin, mask in pairs:
-            lines = {}
-            for code in bits_of(mask):
-                at = self.lines_from(name, code)
-                for line in at:
-                    lines[line] = lines.get(line, 0) | at[line]
-            for line in lines:
-                found.setdefault(line, []).append((begin, lines[line]))
-        return {line: tuple(found[line]) for line in sorted(found)}
-
-    def _lines_written(self, name, code):
-        """The list of pairs of a line and a code for all moves at a now that write a line."""
-        kind, found = self._walks.stop(name, code)
-        if kind == "leave":
-            return [(("leave", name), code)]
-        if kind == "move":
-            return [(line, behind) for line, behind in found if line is not None]
-        return [] if self._program[found[0]].quiet else [(("enter", found[0]), code)]
-
-
-def _make_room(kept):
-    """Empty a dict of answers that has become too great."""
-    if len(kept) >= MOST_KEPT:
-        kept.clear()
+        for behind, begin, rows, call in self._calls_in(kept):
+            states = given.get(begin)
+            if states is not None:
+                if call is not None:
+                    states = self._tracks.states_back(name, call, called, states)
+                # In each row that has this call there are all these states.
+                found[behind] = found.get(behind, 0) | rows * states
+        return self.number_with(found)

@@ -1,6 +1,7 @@
 """The shortest runs with a log."""
 
 from showncalls.know.spelling import spelled
+from showncalls.know.tracks import tracks_of
 from showncalls.know.walks import walks_of
 from showncalls.run.runs import MAX_MOVES
 
@@ -28,7 +29,8 @@ class Trail:
 
     def __init__(self, program):
         self._walks = walks_of(program)
-        codes = self._walks.codes_of(program.main)
+        self._tracks = tracks_of(program)
+        codes = self._tracks.codes_of(program.main)
         begins = [codes.code_of((0,) + begin) for begin in program.begins(program.main)]
         self._lines = [("enter", program.main)]
         self._names = [program.main]
@@ -64,14 +66,14 @@ class Trail:
 
     def run_to(self, standing):
         """The start and the choices of a shortest run that ends with this standing, or None."""
-        codes = self._walks.codes_of(self._names[-1])
+        codes = self._tracks.codes_of(self._names[-1])
         layer, outer = self._layers[-1], self._outers[self._entered_at[-1]]
         found = [(outer[pair[0]][0] + layer[pair][0], pair) for pair in layer
                  if codes.now_of(pair[1])[1] == standing]
         if not found or min(found)[0] > MAX_MOVES:
             return None
         begin, pieces = self._traced_back(min(found)[1])
-        start = self._walks.codes_of(self._names[0]).now_of(begin)[1]
+        start = self._tracks.codes_of(self._names[0]).now_of(begin)[1]
         return (start, tuple(spelled(pieces, self._walks.parts())))
 
     def _found_spots(self, line):
@@ -87,7 +89,7 @@ class Trail:
 
     def _writes(self, name, code, line):
         """Whether a move at a now writes a line."""
-        kind, found = self._walks.stop(name, code)
+        kind, found = self._tracks.stop(name, code)
         if kind == "move":
             return line in [told for told, behind in found]
         return line == ("leave", name) if kind == "leave" else line == ("enter", found[0])
@@ -96,7 +98,7 @@ class Trail:
         """The layer behind a line that is said or asked."""
         layer = {}
         for begin, spot in spots:
-            for index, (told, behind) in enumerate(self._walks.stop(self._names[-1], spot)[1]):
+            for index, (told, behind) in enumerate(self._tracks.stop(self._names[-1], spot)[1]):
                 if told == line:
                     _keep(layer, (begin, behind), spots[begin, spot][0] + 1, ((begin, spot), index, None))
         return layer
@@ -106,7 +108,7 @@ class Trail:
         outer = {}
         ahead = self._outers[self._entered_at[-1]]
         for begin, spot in spots:
-            inner = self._walks.stop(self._names[-1], spot)[1][1]
+            inner = self._tracks.stop(self._names[-1], spot)[1][1]
             _keep(outer, inner, ahead[begin][0] + spots[begin, spot][0] + 1, (begin, spot))
         return {(inner, inner): (0, None) for inner in outer}, outer
 
@@ -117,10 +119,10 @@ class Trail:
             last_spots.setdefault(begin, []).append(spot)
         layer = {}
         for begin, call in calls:
-            called, inner = self._walks.stop(name, call)[1]
+            called, inner = self._tracks.stop(name, call)[1]
             for last in last_spots.get(inner, []):
                 cost = calls[begin, call][0] + spots[inner, last][0] + 2
-                behind = self._walks.given_back(name, call, called, last)
+                behind = self._tracks.given_back(name, call, called, last)
                 _keep(layer, (begin, behind), cost, ((inner, last), 0, (begin, call)))
         return layer
 

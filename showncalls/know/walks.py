@@ -2,8 +2,7 @@
 
 from heapq import heappop, heappush
 
-from showncalls.know.codes import Codes
-
+from showncalls.know.tracks import tracks_of
 
 MOST_SETTLED = 1000000
 
@@ -24,11 +23,7 @@ class Walks:
 
     def __init__(self, program):
         self._program = program
-        self._steps = program._steps
-        self._codes = {name: Codes(program, name) for name in program.names}
-        # By pairs of a procedure and a code, and for `_behind` with what the call that is there ends with, too.
-        self._stops = {}
-        self._behind = {}
+        self._tracks = tracks_of(program)
         # By source: the least number of moves to each code that is reached, and the codes of the ends among these.
         self._costs = {}
         self._found_ends = {}
@@ -45,20 +40,9 @@ class Walks:
         """Whether so many walks are kept that it is better to start anew."""
         return self._settled > MOST_SETTLED
 
-    def codes_of(self, name):
-        """The codes of a procedure."""
-        return self._codes[name]
-
     def parts(self):
         """A dict from all walks that have been found to their parts."""
         return self._parts
-
-    def stop(self, name, code):
-        """What comes next at a now: "leave" and None, "call" and a pair (procedure, code of the begin), or "move" and
-        a tuple of pairs (line or None, code) for all moves, in their order."""
-        if (name, code) not in self._stops:
-            self._stops[name, code] = self._stop_at(name, self._codes[name].now_of(code))
-        return self._stops[name, code]
 
     def costs_from(self, source):
         """A dict from the codes of all nows to which silent moves lead to the least number of these moves."""
@@ -69,53 +53,10 @@ class Walks:
             self._settle(heappop(self._queue))
         return self._costs[source]
 
-    def ends_from(self, source):
-        """The list of the codes of all ends of the body to which silent moves lead."""
-        self.costs_from(source)
-        return self._found_ends[source]
-
-    def silently_from(self, name, code):
-        """The list of the codes of all nows to which a now of a seen call goes on silently, itself first."""
-        found = {code: True}
-        waiting = [code]
-        while waiting:
-            for behind in self._codes_silently_behind(name, waiting.pop()):
-                if behind not in found:
-                    found[behind] = True
-                    waiting.append(behind)
-        return list(found)
-
-    def _codes_silently_behind(self, name, code):
-        """The list of the codes behind the silent moves, or the calls passed silently, at a now of a seen call."""
-        kind, found = self.stop(name, code)
-        if kind == "move":
-            return [behind for line, behind in found if line is None]
-        if kind == "leave" or not self._is_passed(name, found[0]):
-            return []
-        called, begin = found
-        return [self.given_back(name, code, called, end) for end in self.ends_from((called, begin, False))]
-
     def _is_passed(self, name, called):
         """Whether a seen call of one procedure passes calls of another one silently."""
         # A quiet procedure may be asked for as if it were not quiet; then its calls of itself are seen, too.
         return self._program[called].quiet and called != name
-
-    def given_back(self, name, call, called, end):
-        """The code of the now behind a call, if the procedure that is called ends with this code."""
-        if (name, call, end) not in self._behind:
-            now, last = self._codes[name].now_of(call), self._codes[called].now_of(end)
-            self._behind[name, call, end] = self._codes[name].code_of(self._steps.now_given_back(name, now, last[1:]))
-        return self._behind[name, call, end]
-
-    def _stop_at(self, name, now):
-        statement = self._program.statement(name, now[0])
-        if statement is None:
-            return ("leave", None)
-        if statement[0] == "call":
-            called = statement[1]
-            return ("call", (called, self._codes[called].code_of((0,) + self._steps.begin_given(name, now))))
-        found = self._steps.inner_moves(name, now)
-        return ("move", tuple([(line, self._codes[name].code_of(behind)) for line, behind in found]))
 
     def _set_out(self, source):
         if source not in self._costs:
@@ -140,7 +81,7 @@ class Walks:
         self._costs[source][code] = cost
         self._parts[source, code] = parts
         name, _, seen = source
-        kind, found = self.stop(name, code)
+        kind, found = self._tracks.stop(name, code)
         if kind == "leave":
             self._end(source, code)
         elif kind == "call":
@@ -165,6 +106,6 @@ class Walks:
 
     def _pass(self, source, call, inner, end):
         """Go on behind a call that is passed silently: enter, walk to this end, leave."""
-        behind = self.given_back(source[0], call, inner[0], end)
+        behind = self._tracks.given_back(source[0], call, inner[0], end)
         cost = self._costs[source][call] + self._costs[inner][end] + 2
         self._reach(source, behind, cost, ((source, call), 0, (inner, end), 0))

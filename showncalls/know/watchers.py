@@ -4,8 +4,8 @@ from showncalls.base.checks import is_number
 from showncalls.base.shapes import check_fact, check_program
 from showncalls.base.words import is_line, is_log
 from showncalls.errors import InvalidLog, InvalidNumber, InvalidOperation, TooMany, Unseen
-from showncalls.know.minds import mind_of
-from showncalls.know.positions import fact_at, first_position, lines_at, next_position
+from showncalls.know.minds import MOST_KEPT, mind_of
+from showncalls.know.positions import first_position, lines_at, next_position, position_behind, standings_at
 from showncalls.know.trails import shortest_run
 from showncalls.run.runs import MAX_MOVES, Run
 
@@ -13,15 +13,14 @@ from showncalls.run.runs import MAX_MOVES, Run
 def is_log_of(program, value):
     """Whether a value is a log of a program."""
     check_program(program)
-    if not is_log(value) or value[0] != ("enter", program.main):
-        return False
+    return position_behind(mind_of(program), value) is not None
+
+
+def standings_behind(program, value):
+    """The ascending tuple of all standings that can stand at a log, or None if the value is no log of a program."""
     mind = mind_of(program)
-    position = first_position(mind)
-    for line in value[1:]:
-        position = next_position(mind, position, line)
-        if position is None:
-            return False
-    return True
+    position = position_behind(mind, value)
+    return None if position is None else standings_at(mind, position)
 
 
 class Watcher:
@@ -31,10 +30,11 @@ class Watcher:
         check_program(program)
         self._program = program
         self._mind = mind_of(program)
+        self._most_kept = MOST_KEPT
         self._seen = [("enter", program.main)]
         # Behind each line that has been seen: the position, and the fact with all standings that can stand.
         self._positions = [first_position(self._mind)]
-        self._facts = [fact_at(self._mind, self._positions[0])]
+        self._facts = [self._fact_at(self._positions[0])]
 
     @classmethod
     def along(cls, program, log):
@@ -45,7 +45,7 @@ class Watcher:
         if log[0] != ("enter", program.main):
             raise Unseen(log[0])
         for line in log[1:]:
-            watcher.see(line)
+            watcher._go_on(line)
         return watcher
 
     @property
@@ -73,12 +73,31 @@ class Watcher:
         """See one more line."""
         if not is_line(line):
             raise InvalidLog("this is no line of a log")
+        self._go_on(line)
+
+    def _go_on(self, line):
+        """See what surely is a line."""
+        if self._mind.many_kept() > self._most_kept:
+            self._go_to(mind_of(self._program))
         position = next_position(self._mind, self._positions[-1], line)
         if position is None:
             raise Unseen(line)
         self._seen.append(line)
         self._positions.append(position)
-        self._facts.append(fact_at(self._mind, position))
+        self._facts.append(self._fact_at(position))
+
+    def _go_to(self, mind):
+        """Go along the same log in another mind."""
+        positions = [first_position(mind)]
+        for line in self._seen[1:]:
+            positions.append(next_position(mind, positions[-1], line))
+        self._mind = mind
+        self._positions = positions
+        # The log alone may need that much; so it is twice as much before it is left again.
+        self._most_kept = MOST_KEPT + 2 * mind.many_kept()
+
+    def _fact_at(self, position):
+        return self._mind.fact_with(standings_at(self._mind, position))
 
     def lines(self):
         """The ascending tuple of all lines that it can see next."""
@@ -130,6 +149,7 @@ class Watcher:
         made = Watcher(self._program)
         # The mind only keeps what it has worked out.
         made._mind = self._mind
+        made._most_kept = self._most_kept
         made._seen = list(self._seen)
         made._positions = list(self._positions)
         made._facts = list(self._facts)
@@ -153,11 +173,13 @@ class Trial:
 
     def __init__(self, watcher):
         self._watcher = watcher
+        self._mind = None
         self._seen = []
         self._positions = []
         self._facts = []
 
     def __enter__(self):
+        self._mind = self._watcher._mind
         self._seen = list(self._watcher._seen)
         self._positions = list(self._watcher._positions)
         self._facts = list(self._watcher._facts)
@@ -165,6 +187,7 @@ class Trial:
 
     def __exit__(self, kind, value, trace):
         watcher = self._watcher
+        watcher._mind = self._mind
         watcher._seen = self._seen
         watcher._positions = self._positions
         watcher._facts = self._facts

@@ -17,13 +17,14 @@ def is_situation(program, value):
     frames = value[1]
     if not isinstance(frames, tuple):
         return False
+    shapes = program.shapes
     for frame in frames:
         if not isinstance(frame, tuple) or len(frame) != 3:
             return False
         name, place, own = frame
-        if due is None or name != due or not program._shapes[due].is_at(place, own):
+        if due is None or name != due or not shapes[due].is_at(place, own):
             return False
-        due = program._shapes[due].called_at(place)
+        due = shapes[due].called_at(place)
     return True
 
 
@@ -172,7 +173,7 @@ def _moves(program, situation):
         return ()
     name, place, own = frames[-1]
     outer = frames[:-1]
-    steps = program._steps
+    steps = program.steps
     statement = program.statement(name, place)
     is_hidden = _has_quiet_frame(program, frames)
     if statement is None:

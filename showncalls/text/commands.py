@@ -1,7 +1,7 @@
 """What the commands of a shell tell, by their words alone."""
 
 from showncalls.base.words import is_name
-from showncalls.text.forms import LOG_FORMS, read_form
+from showncalls.text.forms import read_line
 
 LONGEST_NUMBER = 40
 
@@ -59,7 +59,7 @@ def _told_by(kinds, words):
 def _piece_told(kind, words):
     """What some words tell, if they are a piece of this kind, otherwise None."""
     if kind == "LINE":
-        return read_form(LOG_FORMS, " ".join(words))
+        return read_line(" ".join(words))
     if kind == "FACT":
         return _conditions_told(words)
     if kind == "PART":

@@ -1,75 +1,59 @@
 """The forms that single lines of texts have."""
 
-from showncalls.base.checks import is_integer
 from showncalls.base.words import is_name
 
-# Pairs of a form and of what a line of this form tells; there a number is the index of a NAME or a DIGIT of the form.
-LOG_FORMS = (
-    ("enter NAME", ("enter", 0)),
-    ("leave NAME", ("leave", 0)),
-    ("ask NAME DIGIT", ("ask", 0, 1)),
-    ("say NAME DIGIT", ("say", 0, 1)),
-    ("say NAME", ("say", 0)),
-)
-# A "set" has forms of its own. The inner bodies of a statement are not in its line.
-STATEMENT_FORMS = (
-    ("hide NAME", ("hide", 0)),
-    ("ask NAME NAME", ("ask", 0, 1)),
-    ("say NAME NAME", ("say", 0, 1)),
-    ("say NAME", ("say", 0, None)),
-    ("call NAME", ("call", 0, None, None)),
-    ("call NAME with NAME", ("call", 0, 1, None)),
-    ("call NAME gives NAME", ("call", 0, None, 1)),
-    ("call NAME with NAME gives NAME", ("call", 0, 1, 2)),
-    ("if NAME is DIGIT", ("if", 0, 1)),
-    ("either", ("either",)),
-    ("often", ("often",)),
-)
-PROCEDURE_FORMS = (
-    ("procedure NAME", ("procedure", 0)),
-    ("quiet NAME", ("quiet", 0)),
-)
 
-
-def read_form(forms, line):
-    """What a line tells by one of these forms, or None if it has none of them."""
-    words = line.split(" ")
-    for form, wanted in forms:
-        told = _told(words, form.split(" "), wanted)
-        if told is not None:
-            return told
+def read_line(text):
+    """The line of a log that a line of a text tells, or None if it has not the form of one."""
+    words = text.split(" ")
+    if len(words) == 2 and words[0] in ("enter", "leave", "say") and is_name(words[1]):
+        return (words[0], words[1])
+    if len(words) == 3 and words[0] in ("ask", "say") and is_name(words[1]) and is_digit(words[2]):
+        return (words[0], words[1], int(words[2]))
     return None
 
 
-def write_form(forms, told):
-    """The line that tells this by one of these forms."""
-    for form, wanted in forms:
-        if _is_told_by(told, wanted):
-            return _filled(form.split(" "), [part for part in told[1:] if part is not None])
-    return ""
+def write_line(line):
+    """The line of a text that tells a line of a log."""
+    return " ".join([str(part) for part in line])
 
 
-def read_set(line):
-    """What the line of a "set" tells, or None if it has not this form."""
-    words = line.split(" ")
-    many = len([word for word in words if not is_digit(word)])
-    # If a digit stands ahead of other words, it is among these names, and is none.
-    names, digits = words[:many], words[many:]
-    if not digits or not all([is_name(word) for word in names]):
+def read_head(text):
+    """The statement, without its inner bodies, that a line tells, or None if it has not the form of one."""
+    words = text.split(" ")
+    kind, many = words[0], len(words)
+    if many == 1:
+        return (kind,) if kind in ("either", "often") else None
+    if not is_name(words[1]):
         return None
-    if len(names) < 3 or names[0] != "set" or names[-1] != "to":
-        return None
-    keys = names[2:-1]
-    if keys and (keys[0] != "by" or not 2 <= len(keys) <= 3):
-        return None
-    return ("set", names[1], tuple(keys[1:]), tuple([int(word) for word in digits]))
+    if kind == "set":
+        return _read_set(words)
+    if kind == "call":
+        return _read_call(words)
+    if kind == "if":
+        return ("if", words[1], int(words[3])) if many == 4 and words[2] == "is" and is_digit(words[3]) else None
+    if many == 2:
+        return ("say", words[1], None) if kind == "say" else ("hide", words[1]) if kind == "hide" else None
+    return (kind, words[1], words[2]) if many == 3 and kind in ("ask", "say") and is_name(words[2]) else None
 
 
-def write_set(told):
-    """The line of a "set"."""
-    cell, keys, table = told[1:]
-    by = ["by", *keys] if keys else []
-    return " ".join(["set", cell, *by, "to", *[str(number) for number in table]])
+def write_head(statement):
+    """The line of a statement, without those of its inner bodies."""
+    kind = statement[0]
+    if kind == "say" and statement[2] is None:
+        return f"say {statement[1]}"
+    if kind in ("say", "ask"):
+        return f"{kind} {statement[1]} {statement[2]}"
+    if kind == "set":
+        by = ["by", *statement[2]] if statement[2] else []
+        return " ".join(["set", statement[1], *by, "to", *[str(number) for number in statement[3]]])
+    if kind == "call":
+        passed = "" if statement[2] is None else f" with {statement[2]}"
+        given = "" if statement[3] is None else f" gives {statement[3]}"
+        return f"call {statement[1]}{passed}{given}"
+    if kind == "if":
+        return f"if {statement[1]} is {statement[2]}"
+    return f"hide {statement[1]}" if kind == "hide" else kind
 
 
 def read_pairs(word, line):
@@ -78,9 +62,13 @@ def read_pairs(word, line):
         return ()
     if not line.startswith(word + " "):
         return None
-    texts = line[len(word) + 1:].split(", ")
-    pairs = [_told(text.split(" "), ["NAME", "DIGIT"], (0, 1)) for text in texts]
-    return None if None in pairs else tuple(pairs)
+    pairs = []
+    for text in line[len(word) + 1:].split(", "):
+        words = text.split(" ")
+        if len(words) != 2 or not is_name(words[0]) or not is_digit(words[1]):
+            return None
+        pairs.append((words[0], int(words[1])))
+    return tuple(pairs)
 
 
 def write_pairs(word, pairs):
@@ -94,36 +82,28 @@ def is_digit(word):
     return len(word) == 1 and "0" <= word <= "9"
 
 
-def _told(words, form, wanted):
-    """What some words tell if they have a form, otherwise None."""
-    if len(words) != len(form):
+def _read_set(words):
+    """The "set" that some words tell, the first two of which are "set" and a name, or None."""
+    by = 0
+    if words[2:3] == ["by"]:
+        # One or two names stand behind it; any of them may be "to", too.
+        by = 3 if words[5:6] == ["to"] else 2
+    keys, digits = words[3:2 + by], words[3 + by:]
+    if words[2 + by:3 + by] != ["to"] or not digits or not all([is_digit(word) for word in digits]):
         return None
-    values = []
-    for word, due in zip(words, form):
-        if due == "NAME" and is_name(word):
-            values.append(word)
-        elif due == "DIGIT" and is_digit(word):
-            values.append(int(word))
-        elif word != due or due in ("NAME", "DIGIT"):
-            return None
-    return tuple([values[part] if is_integer(part) else part for part in wanted])
+    if not all([is_name(word) for word in keys]):
+        return None
+    return ("set", words[1], tuple(keys), tuple([int(word) for word in digits]))
 
 
-def _is_told_by(told, wanted):
-    """Whether what a line tells is what lines of a form tell."""
-    if len(told) != len(wanted) or told[0] != wanted[0]:
-        return False
-    return all([(told[at] is None) == (wanted[at] is None) for at in range(len(told))])
-
-
-def _filled(form, values):
-    """The line of a form with these values, in their order."""
-    words = []
-    filled = 0
-    for word in form:
-        if word in ("NAME", "DIGIT"):
-            words.append(str(values[filled]))
-            filled += 1
-        else:
-            words.append(word)
-    return " ".join(words)
+def _read_call(words):
+    """The "call" that some words tell, the first two of which are "call" and a name, or None."""
+    passed = given = None
+    following = words[2:]
+    if following[:1] == ["with"] and len(following) > 1:
+        passed, following = following[1], following[2:]
+    if following[:1] == ["gives"] and len(following) > 1:
+        given, following = following[1], following[2:]
+    if following or not all([name is None or is_name(name) for name in (passed, given)]):
+        return None
+    return ("call", words[1], passed, given)

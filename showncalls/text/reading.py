@@ -1,10 +1,13 @@
 """Reading the text of a program line by line, as far as each line has a form and can stand."""
 
+from showncalls.base.checks import ascends
 from showncalls.base.programs import Procedure, Program
 from showncalls.base.statements import MOST_DEPTH
-from showncalls.text.forms import PROCEDURE_FORMS, STATEMENT_FORMS, read_form, read_pairs, read_set
+from showncalls.base.words import is_name
+from showncalls.text.forms import read_head, read_pairs
 
-BLANKS = 2
+# Of a body within that of a procedure, or within another statement.
+INDENTATION = "  "
 # Behind the first body of such a statement, this word is due.
 DUE = {"if": "else", "either": "or"}
 
@@ -45,12 +48,18 @@ class Reader:
         indentation = len(line) - len(text)
         if indentation == 0:
             return own_can_stand and self._takes_own(line) or self._takes_procedure(line)
-        level, odd = divmod(indentation, BLANKS)
-        return odd == 0 and (self._takes_due(text, level) or self._takes_statement(text, level))
+        level, odd = divmod(indentation, len(INDENTATION))
+        if odd or level > len(self._around):
+            return False
+        return self._takes_due(text, level) or self._takes_statement(text, level)
 
     def can_end(self):
         """Whether the text can end here."""
         return self._closes(0) and len(self._read) > 0
+
+    def has_ascending_cells(self):
+        """Whether the names of the shared cells ascend."""
+        return ascends([name for name, size in self._cells])
 
     def made_program(self):
         """The program whose text this is; it may be none."""
@@ -61,10 +70,10 @@ class Reader:
         return Program.of(dict(list(self._cells)), tuple(procedures))
 
     def _takes_procedure(self, line):
-        told = read_form(PROCEDURE_FORMS, line)
-        if told is None or not self._closes(0):
+        words = line.split(" ")
+        if len(words) != 2 or words[0] not in ("procedure", "quiet") or not is_name(words[1]) or not self._closes(0):
             return False
-        block = Block(told)
+        block = Block((words[0], words[1]))
         self._read.append(block)
         self._around.append(block)
         self._own_can_stand = True
@@ -80,7 +89,9 @@ class Reader:
 
     def _takes_due(self, text, level):
         """Whether this is the word that is due behind the first body of a statement on this level."""
-        if len(self._around) <= level or self._around[level].due != text or not self._closes(level + 1):
+        if text not in ("else", "or") or len(self._around) <= level or self._around[level].due != text:
+            return False
+        if not self._closes(level + 1):
             return False
         block = self._around[level]
         block.due = None
@@ -88,8 +99,8 @@ class Reader:
         return True
 
     def _takes_statement(self, text, level):
-        told = read_set(text) or read_form(STATEMENT_FORMS, text)
-        if told is None or level > MOST_DEPTH or len(self._around) < level or not self._closes(level):
+        told = read_head(text)
+        if told is None or level > MOST_DEPTH or not self._closes(level):
             return False
         body = self._around[-1].bodies[-1]
         if told[0] in ("if", "either", "often"):
@@ -102,7 +113,8 @@ class Reader:
 
     def _closes(self, level):
         """Whether all statements from this level on can end here, since no word of theirs is due; then they do."""
-        if any([block.due is not None for block in self._around[level:]]):
-            return False
-        del self._around[level:]
+        if len(self._around) > level:
+            if any([block.due is not None for block in self._around[level:]]):
+                return False
+            del self._around[level:]
         return True

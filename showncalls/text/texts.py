@@ -4,8 +4,8 @@ from showncalls.base.shapes import check_program
 from showncalls.base.statements import inner_bodies
 from showncalls.base.words import is_log
 from showncalls.errors import InvalidLog, InvalidProgram, ParseError
-from showncalls.text.forms import LOG_FORMS, STATEMENT_FORMS, read_form, write_form, write_pairs, write_set
-from showncalls.text.reading import BLANKS, DUE, Reader
+from showncalls.text.forms import read_line, write_head, write_line, write_pairs
+from showncalls.text.reading import DUE, INDENTATION, Reader
 
 
 def write_program(program):
@@ -16,7 +16,7 @@ def write_program(program):
         lines.append(f"quiet {procedure.called}" if procedure.quiet else f"procedure {procedure.called}")
         if procedure.own:
             lines.append(write_pairs("own", procedure.own))
-        lines.extend(_body_lines(procedure.body, 1))
+        _add_lines(lines, procedure.body, INDENTATION)
     return "\n".join(lines)
 
 
@@ -24,7 +24,7 @@ def write_log(log):
     """The text of a log."""
     if not is_log(log):
         raise InvalidLog("this is no log by its form")
-    return "\n".join([write_form(LOG_FORMS, line) for line in log])
+    return "\n".join([write_line(line) for line in log])
 
 
 def read_program(text):
@@ -36,18 +36,17 @@ def read_program(text):
             raise ParseError(at)
     if not reader.can_end():
         raise ParseError(len(lines))
-    program = reader.made_program()
-    # What has been read may still have another text, such as one in which the shared cells ascend.
-    if write_program(program) != text:
+    # The shared cells ascend in a text; all else that has been read has just one text.
+    if not reader.has_ascending_cells():
         raise InvalidProgram("this is not the text of a program")
-    return program
+    return reader.made_program()
 
 
 def read_log(text):
     """The log with this text."""
     log = []
     for at, line in enumerate(_lines_of(text)):
-        told = read_form(LOG_FORMS, line)
+        told = read_line(line)
         if told is None:
             raise ParseError(at)
         log.append(told)
@@ -63,16 +62,12 @@ def _lines_of(text):
     return text.split("\n")
 
 
-def _body_lines(body, level):
-    """The list of the lines of a body on this level, and of those inside it."""
-    indentation = " " * (BLANKS * level)
-    lines = []
+def _add_lines(lines, body, indentation):
+    """Add the lines of a body with this indentation, and of those inside it."""
     for statement in body:
-        bodies = inner_bodies(statement)
-        head = statement[:len(statement) - len(bodies)]
-        lines.append(indentation + (write_set(head) if head[0] == "set" else write_form(STATEMENT_FORMS, head)))
-        for at, inner in enumerate(bodies):
-            if at == 1:
-                lines.append(indentation + DUE[head[0]])
-            lines.extend(_body_lines(inner, level + 1))
-    return lines
+        lines.append(indentation + write_head(statement))
+        if statement[0] in ("if", "either", "often"):
+            for at, inner in enumerate(inner_bodies(statement)):
+                if at == 1:
+                    lines.append(indentation + DUE[statement[0]])
+                _add_lines(lines, inner, indentation + INDENTATION)
