@@ -38,6 +38,8 @@ class Mind(Numbers):
         # By what is kept: the calls there. By ends: for each begin the mask of the states that it ends with.
         self._calls = {}
         self._given = {}
+        # By the spots of calls: what all of them have in common.
+        self._call_spots = {}
 
     def many_kept(self):
         """How much is kept; what is not counted here is in proportion to it."""
@@ -75,7 +77,7 @@ class Mind(Numbers):
             called = self._tracks.places_in(name)[place][0][1]
             index_of = self.grid_of(called).indices()
             indices = 0
-            for behind, begin, rows, call in self._calls_in(kept):
+            for behind, begin, rows, call, backs in self._calls_in(kept):
                 indices = indices | 1 << index_of[begin]
             found = self._contexts_given[kept] = self.context_with(called, indices)
         return found
@@ -175,26 +177,36 @@ class Mind(Numbers):
 
     def _calls_in(self, kept):
         """The list of the calls of what is kept, one for each state there: the spot behind it, the code of the begin
-        that it gives, the first pairs of all rows that have it, and the code of its now, or None if the states behind
-        it are just those that it ends with."""
+        that it gives, the first pairs of all rows that have it, the code of its now, and a dict for the states behind
+        it, by the masks of those that it ends with; or None instead if both are always the same."""
         found = self._calls.get(kept)
         if found is None:
             found = self._calls[kept] = []
-            for name, place, pairs in self.parts_in(kept):
-                grid, begins = self.grid_of(name), self._tracks.begins_given(name, place)
-                behind = self.spot_of(name, self._tracks.places_in(name)[place][1])
-                first = place * self._tracks.many_states(name)
-                is_plain = self._tracks.gives_back_all(name, place)
-                for state in bits_of(grid.states_in(pairs)):
-                    call = None if is_plain else first + state
-                    found.append((behind, begins[state], grid.rows_with(pairs, state), call))
+            row = self._rows[kept]
+            for at in range(0, len(row), 2):
+                grid, behind, begins, first, all_backs = self._call_spots.get(row[at]) or self._call_spot(row[at])
+                for state in bits_of(grid.states_in(row[at + 1])):
+                    backs = None if all_backs is None else all_backs[state]
+                    found.append((behind, begins[state], grid.rows_with(row[at + 1], state), first + state, backs))
         return found
+
+    def _call_spot(self, spot):
+        """Of the call at a spot: the grid, the spot behind it, the begins that it gives, the code of the first now
+        there, and the list of the dicts for the states behind it, or None if they are those that it ends with."""
+        name, place = self.spot_told(spot)
+        many = self._tracks.many_states(name)
+        behind = self.spot_of(name, self._tracks.places_in(name)[place][1])
+        all_backs = None if self._tracks.gives_back_all(name, place) else [{} for state in range(many)]
+        begins = self._tracks.begins_given(name, place)
+        self._call_spots[spot] = (self.grid_of(name), behind, begins, place * many, all_backs)
+        return self._call_spots[spot]
 
     def _ends_given(self, ends):
         """The procedure of some ends, and a dict from the codes of begins to the masks of the states they end with."""
         found = self._given.get(ends)
         if found is None:
-            name, _, pairs = self.parts_in(ends)[0]
+            spot, pairs = self._rows[ends]
+            name = self.spot_told(spot)[0]
             found = self._given[ends] = (name, dict(self.grid_of(name).rows_of(pairs)))
         return found
 
@@ -202,11 +214,13 @@ class Mind(Numbers):
         name = self.called_by(kept)
         called, given = self._ends_given(ends)
         found = {}
-        for behind, begin, rows, call in self._calls_in(kept):
+        for behind, begin, rows, call, backs in self._calls_in(kept):
             states = given.get(begin)
             if states is not None:
-                if call is not None:
-                    states = self._tracks.states_back(name, call, called, states)
+                if backs is not None:
+                    if states not in backs:
+                        backs[states] = self._tracks.states_back(name, call, called, states)
+                    states = backs[states]
                 # In each row that has this call there are all these states.
                 found[behind] = found.get(behind, 0) | rows * states
         return self.number_with(found)

@@ -20,6 +20,7 @@ class Numbers:
         self._main = program.main
         self._heard = {procedure.called: True for procedure in program.procedures if not procedure.quiet}
         self._grids = {}
+        self._lists = {}
         # By spot: the pair of a procedure and a place; and the lists of the states and of the codes of the begins.
         self._spots = {}
         self._spots_told = []
@@ -70,7 +71,7 @@ class Numbers:
         if number is None:
             number = self._context_numbers[context] = len(self._contexts)
             self._contexts.append(context)
-            self._context_lists.append((self._tracks.codes_of(name).states_told(), self.grid_of(name).begins()))
+            self._context_lists.append(self._lists.get(name) or self._lists_of(name))
         return number
 
     def spot_of(self, name, place):
@@ -79,8 +80,13 @@ class Numbers:
         if spot is None:
             spot = self._spots[name, place] = len(self._spots_told)
             self._spots_told.append((name, place))
-            self._spot_lists.append((self._tracks.codes_of(name).states_told(), self.grid_of(name).begins()))
+            self._spot_lists.append(self._lists.get(name) or self._lists_of(name))
         return spot
+
+    def _lists_of(self, name):
+        """The pair of the list of the states of a procedure and of that of the codes of its begins."""
+        self._lists[name] = (self._tracks.codes_of(name).states_told(), self.grid_of(name).begins())
+        return self._lists[name]
 
     def spot_told(self, spot):
         """The pair of a procedure and a place of it."""
@@ -88,9 +94,10 @@ class Numbers:
 
     def grid_of(self, name):
         """The grid of a procedure."""
-        if name not in self._grids:
-            self._grids[name] = Grid(self._tracks.many_states(name), self._tracks.begins_of(name))
-        return self._grids[name]
+        grid = self._grids.get(name)
+        if grid is None:
+            grid = self._grids[name] = Grid(self._tracks.many_states(name), self._tracks.begins_of(name))
+        return grid
 
     def called_by(self, knowing):
         """The name of the procedure of a knowing."""
